@@ -1,0 +1,1 @@
+"""Hollowrise: hollows raised on a stepped field."""

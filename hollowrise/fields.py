@@ -1,0 +1,242 @@
+"""BOARDS, SPOTS and FIELDS: what they are, what is asked of them, how they are turned."""
+
+from hollowrise.errors import BadField, BadFraction, BadSpot
+from hollowrise.fractions import is_fraction
+from hollowrise.kinds import is_tuple_of, is_whole
+
+MOST_SIDE = 11
+MOST_RIM = 35
+
+
+def is_field(thing):
+    """True of a FIELD, of anything."""
+    try:
+        need_field(thing)
+    except BadField:
+        return False
+    return True
+
+
+def need_field(thing):
+    """None, or BadField(place) of anything that is no FIELD."""
+    if not is_tuple_of(thing, 2):
+        raise BadField(None)
+    heights, worths = thing
+    if not are_height_rows(heights):
+        raise BadField("heights")
+    if not are_steps(heights):
+        raise BadField("steps")
+    if not are_worth_rows(worths, sides(heights)):
+        raise BadField("worths")
+
+
+def board(field):
+    """(WIDE, HIGH) of a FIELD."""
+    need_field(field)
+    return sides(field[0])
+
+
+def spots(field):
+    """All SPOTS, rising."""
+    return spots_of(board(field))
+
+
+def rim(field):
+    """The SPOTS of the RIM, rising."""
+    return rim_of(board(field))
+
+
+def inner(field):
+    """The INNER SPOTS, rising."""
+    size = board(field)
+    return tuple([spot for spot in spots_of(size) if not is_on_rim(spot, size)])
+
+
+def neighbours(field, spot):
+    """The NEIGHBOURS of a SPOT, rising."""
+    size = board(field)
+    need_spot(spot, size)
+    return neighbours_of(spot, size)
+
+
+def height_at(field, spot):
+    """The height at which a SPOT stands."""
+    need_spot(spot, board(field))
+    heights, _ = field
+    return at(heights, spot)
+
+
+def worth_of(field, spot):
+    """The WORTH of a SPOT."""
+    need_spot(spot, board(field))
+    _, worths = field
+    return at(worths, spot)
+
+
+def way(spot, other):
+    """How far two SPOTS are apart in X and in Y, together."""
+    return abs(spot[0] - other[0]) + abs(spot[1] - other[1])
+
+
+def with_worth(field, spot, fraction):
+    """The FIELD with another WORTH at a SPOT."""
+    need_spot(spot, board(field))
+    if not is_worth(fraction):
+        raise BadFraction("a worth is a fraction other than nought")
+    heights, worths = field
+    return (heights, with_at(worths, spot, fraction))
+
+
+def upside_down(field):
+    """The FIELD with its heights' opposites."""
+    need_field(field)
+    heights, worths = field
+    return (tuple([tuple([-height for height in row]) for row in heights]), worths)
+
+
+def mirrored(field):
+    """The FIELD with its rows turned about; BadField("high") where one would be too high."""
+    size = board(field)
+    heights, worths = field
+    # Where WIDE is odd each SPOT goes over to one of the same evenness.
+    rise = 1 - size[0] % 2
+    if rise > 0 and MOST_RIM in [at(heights, spot) for spot in rim_of(size)]:
+        raise BadField("high")
+    heights_about = tuple([tuple([height + rise for height in row[::-1]]) for row in heights])
+    return (heights_about, tuple([row[::-1] for row in worths]))
+
+
+def turned(field):
+    """The FIELD with its rows as columns."""
+    need_field(field)
+    heights, worths = field
+    return (columns(heights), columns(worths))
+
+
+def sides(rows):
+    """(WIDE, HIGH) of good rows."""
+    return (len(rows[0]), len(rows))
+
+
+def spots_of(size):
+    """All SPOTS of a BOARD of such a size, rising."""
+    wide, high = size
+    return tuple([(x, y) for x in range(wide) for y in range(high)])
+
+
+def rim_of(size):
+    """The SPOTS of the RIM of a BOARD of such a size, rising."""
+    return tuple([spot for spot in spots_of(size) if is_on_rim(spot, size)])
+
+
+def neighbours_of(spot, size):
+    """The NEIGHBOURS of a good SPOT on a BOARD of such a size, rising."""
+    x, y = spot
+    around = ((x - 1, y), (x, y - 1), (x, y + 1), (x + 1, y))
+    return tuple([near for near in around if is_within(near, size)])
+
+
+def is_within(place, size):
+    """True where a place (X, Y) lies on a BOARD of such a size."""
+    x, y = place
+    wide, high = size
+    return 0 <= x < wide and 0 <= y < high
+
+
+def is_on_rim(spot, size):
+    """True of a good SPOT that lacks one of the four NEIGHBOURS."""
+    x, y = spot
+    wide, high = size
+    return x in (0, wide - 1) or y in (0, high - 1)
+
+
+def is_spot(thing, size):
+    """True of a SPOT of a BOARD of such a size, of anything."""
+    return is_tuple_of(thing, 2) and is_whole(thing[0]) and is_whole(thing[1]) and is_within(thing, size)
+
+
+def need_spot(thing, size):
+    """None, or BadSpot of anything that is no SPOT of a BOARD of such a size."""
+    if not is_spot(thing, size):
+        raise BadSpot("the field has no such spot")
+
+
+def at(rows, spot):
+    """What stands in rows at a SPOT."""
+    x, y = spot
+    return rows[y][x]
+
+
+def with_at(rows, spot, thing):
+    """The rows with another thing at a SPOT."""
+    x, y = spot
+    row = rows[y][:x] + (thing,) + rows[y][x + 1:]
+    return rows[:y] + (row,) + rows[y + 1:]
+
+
+def columns(rows):
+    """The columns of good rows, as rows."""
+    wide, high = sides(rows)
+    return tuple([tuple([rows[y][x] for y in range(high)]) for x in range(wide)])
+
+
+def are_rows(thing, size):
+    """True of a tuple of HIGH rows, tuples of WIDE things, whatever these are."""
+    wide, high = size
+    if not is_tuple_of(thing, high):
+        return False
+    for row in thing:
+        if not is_tuple_of(row, wide):
+            return False
+    return True
+
+
+def is_side_long(thing):
+    """True of a tuple of as many things as a side of a BOARD may have SPOTS."""
+    return type(thing) is tuple and 1 <= len(thing) <= MOST_SIDE
+
+
+def are_height_rows(thing):
+    """True of rows of whole numbers, of a BOARD, those of the RIM within their bounds."""
+    if not is_side_long(thing) or not is_side_long(thing[0]):
+        return False
+    size = sides(thing)
+    if not are_rows(thing, size):
+        return False
+    for spot in spots_of(size):
+        height = at(thing, spot)
+        if not is_whole(height):
+            return False
+        if is_on_rim(spot, size) and abs(height) > MOST_RIM:
+            return False
+    return True
+
+
+def are_steps(rows):
+    """True of rows of whole numbers whose evenness and NEIGHBOURS are those of HEIGHTS."""
+    for x, y in spots_of(sides(rows)):
+        height = rows[y][x]
+        if (x + y + height) % 2 == 1:
+            return False
+        # The pairs to the west and the south are all pairs there are.
+        if x > 0 and abs(height - rows[y][x - 1]) != 1:
+            return False
+        if y > 0 and abs(height - rows[y - 1][x]) != 1:
+            return False
+    return True
+
+
+def is_worth(thing):
+    """True of a FRACTION but 0, of anything."""
+    return is_fraction(thing) and thing[0] != 0
+
+
+def are_worth_rows(thing, size):
+    """True of WORTHS of a BOARD of such a size, of anything."""
+    if not are_rows(thing, size):
+        return False
+    for row in thing:
+        for worth in row:
+            if not is_worth(worth):
+                return False
+    return True
