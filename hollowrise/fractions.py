@@ -28,22 +28,30 @@ def fraction(above, below):
 
 def plus(one, other):
     """One FRACTION and the other together."""
-    return fraction(one[0] * other[1] + other[0] * one[1], one[1] * other[1])
+    shared = gcd(one[1], other[1])
+    part = one[1] // shared
+    above = one[0] * (other[1] // shared) + other[0] * part
+    # Only by what the BELOWS share can the sum still be reduced: that is shorter than their product.
+    common = gcd(above, shared)
+    return (above // common, part * (other[1] // common))
 
 
 def less(one, other):
     """One FRACTION less the other."""
-    return fraction(one[0] * other[1] - other[0] * one[1], one[1] * other[1])
+    return plus(one, (-other[0], other[1]))
 
 
 def times(one, other):
     """One FRACTION times the other."""
-    return fraction(one[0] * other[0], one[1] * other[1])
+    # Both are in lowest terms, so the product is reduced crosswise: by shorter numbers than it has itself.
+    first = gcd(one[0], other[1])
+    second = gcd(other[0], one[1])
+    return ((one[0] // first) * (other[0] // second), (one[1] // second) * (other[1] // first))
 
 
 def by(one, other):
     """One FRACTION divided by the other; BadFraction by nought."""
-    return fraction(one[0] * other[1], one[1] * other[0])
+    return times(one, fraction(other[1], other[0]))
 
 
 def power(one, number):

@@ -222,6 +222,154 @@ class Names(unittest.TestCase):
                     self.assertIn(node, compared, (path.name, node.lineno))
 
 
+def parents_of(tree):
+    """From each part of a file to the one around it."""
+    return {child: node for node in ast.walk(tree) for child in ast.iter_child_nodes(node)}
+
+
+def own_errors():
+    return {node.name for node in TREES[PACKAGE / "errors.py"].body if isinstance(node, ast.ClassDef)}
+
+
+def functions_of(path):
+    return nodes_of(path, (ast.FunctionDef, ast.Lambda))
+
+
+class Iteration(unittest.TestCase):
+    """L7, L23, L24, L25, since a class compares and has a length."""
+
+    def test_no_generators_no_sets_no_powers(self):
+        barred = (ast.GeneratorExp, ast.Yield, ast.YieldFrom, ast.Set, ast.SetComp, ast.Pow, ast.Global, ast.Match)
+        for path in FILES:
+            self.assertEqual(nodes_of(path, barred), [], path.name)
+            for node in nodes_of(path, ast.Call):
+                self.assertNotIn(ast.unparse(node.func), ("set", "frozenset", "iter", "next", "bytes"), path.name)
+                if isinstance(node.func, ast.Attribute):
+                    self.assertNotEqual(node.func.attr, "sort", path.name)
+
+    def test_iterated_at_once(self):
+        takers = {"list", "tuple", "dict", "sorted", "sum", "any", "all", "min", "max", "enumerate", "zip"}
+        for path in FILES:
+            parents = parents_of(TREES[path])
+            for node in nodes_of(path, ast.Call):
+                name = ast.unparse(node.func)
+                if name not in ("zip", "enumerate", "reversed", "range") and not name.endswith((".items", ".values",
+                                                                                               ".keys")):
+                    continue
+                around = parents[node]
+                iterated = isinstance(around, (ast.For, ast.comprehension)) and around.iter is node
+                taken = isinstance(around, ast.Call) and ast.unparse(around.func) in takers
+                kept = name == "range" and isinstance(around, ast.Assign) and isinstance(around.targets[0], ast.Name)
+                self.assertTrue(iterated or taken or kept, (path.name, node.lineno))
+
+    def test_what_a_loop_goes_over_is_not_changed_in_it(self):
+        for path in FILES:
+            for loop in nodes_of(path, ast.For):
+                gone_over = {node.id for node in ast.walk(loop.iter) if isinstance(node, ast.Name)}
+                gone_over |= {ast.unparse(node) for node in ast.walk(loop.iter) if isinstance(node, ast.Attribute)}
+                for node in ast.walk(ast.Module(loop.body, [])):
+                    if isinstance(node, ast.Subscript) and not isinstance(node.ctx, ast.Load):
+                        self.assertNotIn(ast.unparse(node.value), gone_over, (path.name, node.lineno))
+                    if isinstance(node, ast.Call) and isinstance(node.func, ast.Attribute):
+                        self.assertNotIn(ast.unparse(node.func.value), gone_over, (path.name, node.lineno))
+
+    def test_underscore_is_never_read(self):
+        for path in FILES:
+            for node in nodes_of(path, ast.Name):
+                self.assertFalse(node.id == "_" and isinstance(node.ctx, ast.Load), (path.name, node.lineno))
+
+
+class Calls(unittest.TestCase):
+    """L4, L13, L15, L19, L22."""
+
+    def test_builtins_are_called_not_kept(self):
+        for path in FILES:
+            bound = bound_names(TREES[path])
+            parents = parents_of(TREES[path])
+            for node in nodes_of(path, ast.Name):
+                if node.id in BUILTINS and node.id not in bound:
+                    around = parents[node]
+                    called = isinstance(around, ast.Call) and around.func is node
+                    kind = isinstance(around, (ast.ClassDef, ast.ExceptHandler, ast.Compare))
+                    self.assertTrue(called or kind, (path.name, node.lineno, node.id))
+
+    def test_builtins_and_their_methods_take_no_keywords(self):
+        for path in FILES:
+            for node in nodes_of(path, ast.Call):
+                plain = isinstance(node.func, ast.Name) and node.func.id in BUILTINS
+                method = isinstance(node.func, ast.Attribute) and node.func.attr in METHODS
+                if plain or method:
+                    self.assertEqual(node.keywords, [], (path.name, node.lineno))
+
+    def test_errors_are_made_where_they_are_raised_and_caught_by_name(self):
+        for path in FILES:
+            for node in nodes_of(path, ast.Raise):
+                self.assertTrue(node.exc is None or ast.unparse(node.exc.func) in own_errors(), (path.name, node.lineno))
+                self.assertIsNone(node.cause)
+            for node in nodes_of(path, ast.ExceptHandler):
+                self.assertIn(ast.unparse(node.type), own_errors() | {"KeyError", "ZeroDivisionError"}, path.name)
+
+    def test_one_lambda_a_line(self):
+        for path in FILES:
+            lines = [node.lineno for node in nodes_of(path, ast.Lambda)]
+            self.assertEqual(len(lines), len(set(lines)), path.name)
+
+    def test_defaults_are_plain(self):
+        for path in FILES:
+            for node in functions_of(path):
+                for default in node.args.defaults + [default for default in node.args.kw_defaults if default]:
+                    self.assertIn(type(ast.literal_eval(default)), (int, str, tuple, bool, type(None)), path.name)
+
+    def test_no_parameter_or_variable_is_called_as_a_class_of_its_file(self):
+        for path in FILES:
+            classes = {node.name for node in nodes_of(path, ast.ClassDef)}
+            for node in ast.walk(TREES[path]):
+                name = node.arg if isinstance(node, ast.arg) else getattr(node, "id", None)
+                if name in classes:
+                    self.assertIsInstance(node, ast.Name)
+                    self.assertIsInstance(node.ctx, ast.Load)
+
+
+class Classes(unittest.TestCase):
+    """L5, L18, L26, L28."""
+
+    def classes(self):
+        return [(path, node) for path in FILES for node in nodes_of(path, ast.ClassDef)]
+
+    def test_no_name_is_a_method_and_an_attribute(self):
+        for path, kind in self.classes():
+            methods = [node.name for node in kind.body if isinstance(node, ast.FunctionDef)]
+            self.assertEqual(len(methods), len(set(methods)), kind.name)
+            stored = {node.attr for node in ast.walk(kind) if isinstance(node, ast.Attribute)
+                      and isinstance(node.ctx, ast.Store)}
+            self.assertEqual(stored & set(methods), set(), (path.name, kind.name))
+
+    def test_no_attribute_has_the_name_of_a_method_of_plain_values(self):
+        taken = {name for kind in (str, int, list, dict, set, bytes, tuple) for name in dir(kind)}
+        for path, kind in self.classes():
+            for node in ast.walk(kind):
+                if isinstance(node, ast.Attribute) and isinstance(node.ctx, ast.Store):
+                    self.assertNotIn(node.attr, taken, (path.name, node.lineno))
+                if isinstance(node, ast.FunctionDef) and not node.name.startswith("__"):
+                    self.assertNotIn(node.name, taken, (path.name, node.lineno))
+
+    def test_double_underscore_methods(self):
+        for path, kind in self.classes():
+            for node in kind.body:
+                if isinstance(node, ast.FunctionDef) and node.name in ("__eq__", "__len__"):
+                    self.assertEqual([type(row) for row in node.body], [ast.Expr, ast.Return], (path.name, node.name))
+                    if node.name == "__len__":
+                        self.assertRegex(ast.unparse(node.body[1]), r"^return len\(")
+                if isinstance(node, ast.FunctionDef) and node.name == "__init__":
+                    self.assertEqual([row for row in ast.walk(node) if isinstance(row, ast.Return)], [])
+
+    def test_attributes_are_assigned_through_self(self):
+        for path in FILES:
+            for node in nodes_of(path, ast.Attribute):
+                if not isinstance(node.ctx, ast.Load):
+                    self.assertEqual(ast.unparse(node.value), "self", (path.name, node.lineno))
+
+
 def without_docstrings(tree):
     for node in ast.walk(tree):
         if isinstance(node, (ast.Module, ast.FunctionDef, ast.ClassDef)) and ast.get_docstring(node) is not None:

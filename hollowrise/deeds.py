@@ -1,0 +1,118 @@
+"""HOLLOWS and PEAKS, RAISED and LOWERED, one or several at once."""
+
+from hollowrise.errors import BadSpot, NoHollow, NoPeak, Nought
+from hollowrise.fields import at, is_on_rim, need_field, need_spot, neighbours_of, sides, spots_of, with_at
+from hollowrise.fractions import by, plus, times
+from hollowrise.kinds import need_rule
+
+UP = 1
+DOWN = -1
+
+
+def hollows(field):
+    """All HOLLOWS, rising."""
+    need_field(field)
+    return movable_spots(field[0], UP)
+
+
+def peaks(field):
+    """All PEAKS, rising."""
+    need_field(field)
+    return movable_spots(field[0], DOWN)
+
+
+def raised(field, spot, *, rule=(1, 1)):
+    """The FIELD with a HOLLOW RAISED; NoHollow, Nought."""
+    need_field(field)
+    need_spot(spot, sides(field[0]))
+    need_rule(rule)
+    return moved(field, (spot,), UP, rule)
+
+
+def lowered(field, spot, *, rule=(1, 1)):
+    """The FIELD with a PEAK LOWERED; NoPeak, Nought."""
+    need_field(field)
+    need_spot(spot, sides(field[0]))
+    need_rule(rule)
+    return moved(field, (spot,), DOWN, rule)
+
+
+def raised_all(field, some, *, rule=(1, 1)):
+    """The FIELD with some HOLLOWS RAISED at once; NoHollow, Nought of the first for which one is due."""
+    need_field(field)
+    need_rising_spots(some, sides(field[0]))
+    need_rule(rule)
+    return moved(field, some, UP, rule)
+
+
+def lowered_all(field, some, *, rule=(1, 1)):
+    """The FIELD with some PEAKS LOWERED at once; NoPeak, Nought of the first for which one is due."""
+    need_field(field)
+    need_rising_spots(some, sides(field[0]))
+    need_rule(rule)
+    return moved(field, some, DOWN, rule)
+
+
+def need_rising_spots(thing, size):
+    """None, or BadSpot of anything that is no rising tuple of SPOTS of a BOARD of such a size."""
+    if type(thing) is not tuple:
+        raise BadSpot("this is no tuple of spots")
+    for spot in thing:
+        need_spot(spot, size)
+    for one, other in zip(thing, thing[1:]):
+        if one >= other:
+            raise BadSpot("these spots don't rise")
+
+
+def moved(field, some, step, rule):
+    """The FIELD with some SPOTS gone two UP or DOWN, each as if it alone went."""
+    heights, worths = field
+    # No two of them are NEIGHBOURS, so what the FIELD has as it is handed in is what each one wants.
+    heights_behind, worths_behind = field
+    for spot in some:
+        need_movable(heights, spot, step)
+        near = [at(worths, other) for other in neighbours_of(spot, sides(heights))]
+        worth = worth_behind(spot, near, at(worths, spot), rule)
+        heights_behind = with_at(heights_behind, spot, height_behind(heights, spot, step))
+        worths_behind = with_at(worths_behind, spot, worth)
+    return (heights_behind, worths_behind)
+
+
+def movable_spots(heights, step):
+    """All HOLLOWS where the step is UP, all PEAKS where it is DOWN, rising."""
+    return tuple([spot for spot in spots_of(sides(heights)) if is_movable(heights, spot, step)])
+
+
+def is_movable(heights, spot, step):
+    """True of a HOLLOW where the step is UP, of a PEAK where it is DOWN."""
+    size = sides(heights)
+    if is_on_rim(spot, size):
+        return False
+    height = at(heights, spot) + step
+    return all([at(heights, near) == height for near in neighbours_of(spot, size)])
+
+
+def need_movable(heights, spot, step):
+    """None, or NoHollow, NoPeak of a SPOT that can't go UP, DOWN."""
+    if is_movable(heights, spot, step):
+        return
+    if step == UP:
+        raise NoHollow(spot)
+    raise NoPeak(spot)
+
+
+def height_behind(heights, spot, step):
+    """The height to which a SPOT goes UP or DOWN."""
+    return at(heights, spot) + 2 * step
+
+
+def worth_behind(spot, near, own, rule):
+    """The WORTH that a SPOT has behind a DEED, by those of its NEIGHBOURS, as they rise, and its own; or Nought."""
+    a, b = rule
+    west, south, north, east = near
+    side_by_side = times((a, 1), times(west, east))
+    above_one_another = times((b, 1), times(north, south))
+    worth = by(plus(side_by_side, above_one_another), own)
+    if worth[0] == 0:
+        raise Nought(spot)
+    return worth

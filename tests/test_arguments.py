@@ -1,0 +1,159 @@
+"""How the functions of heights, deeds, rows and reach take what is handed in: names, places, rules, and all stays."""
+
+import copy
+import inspect
+import unittest
+
+from hollowrise import deeds, heights, reach, rows
+from hollowrise.errors import BadField, BadRule
+from hollowrise.heights import highest
+from tests.plain import ONE, outcome
+from tests.samples import flat_field, rows_by
+from tests.test_deeds import HOLLOW, NO_RULES
+from tests.test_fields import NO_FIELDS
+from tests.test_heights import FEW
+
+RAISED = highest(FEW)
+UP = (("up", 1, 1),)
+
+# Of each function: what may rightly be handed in, by the names and in the order that the interface tells.
+TOLD = {
+    heights: {
+        "is_heights": {"thing": FEW}, "lesser": {"one": FEW, "other": RAISED}, "greater": {"one": FEW, "other": RAISED},
+        "lowest": {"heights": FEW}, "highest": {"heights": FEW}, "apart": {"one": FEW, "other": RAISED},
+        "all_heights": {"heights": FEW}, "how_many_heights": {"heights": FEW},
+    },
+    deeds: {
+        "hollows": {"field": HOLLOW}, "peaks": {"field": HOLLOW}, "raised": {"field": HOLLOW, "spot": (1, 1)},
+        "lowered": {"field": (RAISED, HOLLOW[1]), "spot": (1, 1)}, "raised_all": {"field": HOLLOW, "some": ((1, 1),)},
+        "lowered_all": {"field": (RAISED, HOLLOW[1]), "some": ((1, 1),)},
+    },
+    rows: {
+        "need_row": {"field": HOLLOW, "row": UP}, "done": {"field": HOLLOW, "row": UP},
+        "how_far": {"field": HOLLOW, "row": UP}, "back": {"row": UP}, "first_row": {"one": FEW, "other": RAISED},
+        "how_many_rows": {"one": FEW, "other": RAISED}, "row_by": {"one": FEW, "other": RAISED, "number": 0},
+        "led": {"field": HOLLOW, "heights": RAISED},
+    },
+    reach: {
+        "span": {"field": HOLLOW, "spot": (1, 1)}, "need_height": {"field": HOLLOW, "x": 1, "y": 1, "height": 2},
+        "worth_at": {"field": HOLLOW, "x": 1, "y": 1, "height": 2}, "worths_at": {"field": HOLLOW, "spot": (1, 1)},
+        "Held": {"field": HOLLOW},
+    },
+}
+BY_RULE = {"raised", "lowered", "raised_all", "lowered_all", "done", "how_far", "led", "worth_at", "worths_at", "Held"}
+WRONG = [None, [], {}, [[0]], ["up", 1, 1], [("up", 1, 1)], [[1, 1]], {"up": [1]}, ([1, 1],), ((1, [1]),)]
+
+
+def functions():
+    return [(getattr(module, name), name, told) for module, names in TOLD.items() for name, told in names.items()]
+
+
+class Arguments(unittest.TestCase):
+    def test_names_and_order(self):
+        for function, name, told in functions():
+            taken = inspect.signature(function).parameters
+            self.assertEqual(list(taken), [*told, "rule"] if name in BY_RULE else list(told), name)
+            if name in BY_RULE:
+                self.assertEqual((taken["rule"].kind, taken["rule"].default), (inspect.Parameter.KEYWORD_ONLY, ONE))
+            for argument in told:
+                self.assertIs(taken[argument].default, inspect.Parameter.empty)
+
+    def test_each_is_defined_in_its_own_file(self):
+        for module, names in TOLD.items():
+            for name in names:
+                self.assertEqual(getattr(module, name).__module__, module.__name__)
+
+    def test_by_places_and_by_names(self):
+        for function, name, told in functions():
+            by_places = outcome(function, *told.values())
+            self.assertEqual(by_places[0], "told", name)
+            self.assertEqual(outcome(function, **told), by_places)
+            self.assertEqual(outcome(function, **dict(reversed(told.items()))), by_places)
+            first, *others = told
+            self.assertEqual(outcome(function, told[first], **{key: told[key] for key in others}), by_places)
+
+    def test_the_methods_of_held(self):
+        told = {"do": ["deed"], "undo": [], "now": [], "journal": [], "worth_at": ["x", "y", "height"], "reckoned": []}
+        for name, names in told.items():
+            self.assertEqual(list(inspect.signature(getattr(reach.Held, name)).parameters), ["self"] + names)
+
+    def test_the_rule_left_out_told_and_behind_the_star(self):
+        for function, name, told in functions():
+            if name in BY_RULE:
+                self.assertEqual(outcome(function, **told), outcome(function, **told, rule=(1, 1)))
+                with self.assertRaises(TypeError):
+                    function(*told.values(), (1, 1))
+            else:
+                with self.assertRaises(TypeError):
+                    function(**told, rule=(1, 1))
+
+    def test_bad_rule_of_anything(self):
+        for function, name, told in functions():
+            if name in BY_RULE:
+                for rule in NO_RULES:
+                    with self.assertRaises(BadRule, msg=(name, rule)):
+                        function(**told, rule=rule)
+
+    def test_bad_field_ahead_of_all_else(self):
+        for function, name, told in functions():
+            if "field" in told:
+                for place, thing in NO_FIELDS:
+                    for wrong in (told, {key: None for key in told}):
+                        names = {**wrong, "field": thing, **({"rule": None} if name in BY_RULE else {})}
+                        with self.assertRaises(BadField) as caught:
+                            function(**names)
+                        self.assertEqual(caught.exception.place, place, name)
+
+    def test_handed_in_is_afterwards_what_it_was(self):
+        for function, _, told in functions():
+            kept = copy.deepcopy(told)
+            function(**told)
+            self.assertEqual(told, kept)
+            for key in told:
+                for thing in WRONG:
+                    wrong = {**told, key: copy.deepcopy(thing)}
+                    outcome(function, **wrong)
+                    self.assertEqual(wrong[key], thing)
+
+    def test_asked_twice_it_tells_the_same(self):
+        for function, _, told in functions():
+            self.assertEqual(function(**told), function(**told))
+
+    def test_a_told_list_is_the_askers_own(self):
+        first = heights.all_heights(FEW)
+        first.append(None)
+        self.assertEqual(heights.all_heights(FEW), [FEW, RAISED])
+
+    def test_true_and_false_are_no_whole_numbers(self):
+        field = (flat_field(5, 5)[0], rows_by(5, 5, lambda x, y: ONE))
+        for function, name, told in functions():
+            for key, thing in told.items():
+                for number, flag in ((0, False), (1, True)):
+                    wrong = with_flags(thing, number, flag)
+                    if wrong is not None and name != "is_heights":
+                        self.assertNotEqual(outcome(function, **{**told, key: wrong})[0], "told", (name, key))
+        self.assertIs(heights.is_heights(with_flags(FEW, 1, True)), False)
+        self.assertEqual(outcome(reach.worth_at, field, True, 1, 0)[0], "BadTarget")
+
+    def test_what_is_told_may_be_handed_in_again_however_long(self):
+        low = heights.lowest(flat_field(7, 7)[0])
+        long_ones = rows_by(7, 7, lambda x, y: (10 ** 999 + 10 ** (7 * x + y) + 1, 1))
+        field = rows.led((low, long_ones), highest(low), rule=(9, 7))
+        self.assertTrue(max(worth[0] for row in field[1] for worth in row) > 10 ** 4500)
+        self.assertEqual(reach.worths_at(field, (3, 2), rule=(9, 7))[-1][1], field[1][2][3])
+        self.assertEqual(rows.led(field, low, rule=(9, 7))[1], long_ones)
+
+
+def with_flags(thing, number, flag):
+    """The thing with each such number as a flag, None where it has none."""
+    if type(thing) is int:
+        return flag if thing == number else None
+    if type(thing) is tuple:
+        parts = [with_flags(part, number, flag) for part in thing]
+        if any(part is not None for part in parts):
+            return tuple(old if new is None else new for old, new in zip(thing, parts))
+    return None
+
+
+if __name__ == "__main__":
+    unittest.main()
