@@ -304,7 +304,8 @@ class Calls(unittest.TestCase):
     def test_errors_are_made_where_they_are_raised_and_caught_by_name(self):
         for path in FILES:
             for node in nodes_of(path, ast.Raise):
-                self.assertTrue(node.exc is None or ast.unparse(node.exc.func) in own_errors(), (path.name, node.lineno))
+                made = node.exc is None or ast.unparse(node.exc.func) in own_errors()
+                self.assertTrue(made, (path.name, node.lineno))
                 self.assertIsNone(node.cause)
             for node in nodes_of(path, ast.ExceptHandler):
                 self.assertIn(ast.unparse(node.type), own_errors() | {"KeyError", "ZeroDivisionError"}, path.name)

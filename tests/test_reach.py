@@ -94,7 +94,8 @@ class NeedHeight(unittest.TestCase):
         wrong += [(1, thing, 2) for thing in ODD_THINGS if type(thing) is not int or thing != 1]
         wrong += [(-1, 1, 2), (1, -1, 2), (5, 1, 0), (1, 5, 0), (0, 0, 2), (0, 0, -2), (0, 0, 1), (1, 1, 1), (1, 1, 4),
                   (1, 1, -2), (2, 2, 10 ** 999), (2, 2, -10 ** 999), (10 ** 999, 1, 0), (2, 2, 1), (2, 2, True),
-                  (True, 1, 0), (1, True, 0), (1, 1, False), ((1, 1), 1, 0), (1.0, 1, 0), (1, 1, 0.0), (None, None, None)]
+                  (True, 1, 0), (1, True, 0), (1, 1, False), ((1, 1), 1, 0), (1.0, 1, 0), (1, 1, 0.0),
+                  (None, None, None)]
         for call, places in itertools.product(calls, wrong):
             self.assertRaises(BadTarget, call, *places)
 
@@ -179,8 +180,9 @@ class WorthAt(unittest.TestCase):
             self.assertRaises(BadSpot, worths_at, ONES, (1, 5), rule=rule)
         for place, thing in NO_FIELDS:
             for call in (lambda: span(thing, None), lambda: need_height(thing, None, None, None),
-                         lambda: worth_at(thing, None, None, None, rule=None), lambda: worths_at(thing, None, rule=None),
-                         lambda: Held(thing, rule=None), lambda: Held(thing)):
+                         lambda: worth_at(thing, None, None, None, rule=None),
+                         lambda: worths_at(thing, None, rule=None), lambda: Held(thing, rule=None),
+                         lambda: Held(thing)):
                 with self.assertRaises(BadField) as caught:
                     call()
                 self.assertEqual(caught.exception.place, place)

@@ -284,8 +284,9 @@ class FirstRow(unittest.TestCase):
 
     def test_from_the_lowest_to_the_highest_of_the_greatest_board(self):
         flat = flat_field(11, 11)[0]
-        row = first_row(lowest(flat), highest(flat))
-        self.assertEqual((len(row), heights_behind(lowest(flat), row)), (apart(lowest(flat), highest(flat)), highest(flat)))
+        low, top = lowest(flat), highest(flat)
+        row = first_row(low, top)
+        self.assertEqual((len(row), heights_behind(low, row)), (apart(low, top), top))
 
     def test_refused(self):
         for function in (first_row, how_many_rows, lambda one, other: row_by(one, other, None)):
@@ -350,8 +351,8 @@ class AllFewestRows(unittest.TestCase):
 
     def test_too_great(self):
         one, other, _ = twelve_apart(13)
-        cases = [(one, other), (other, one), (lowest(ONE_MORE), highest(ONE_MORE)), (highest(ONE_MORE), lowest(ONE_MORE))]
-        for first, last in cases:
+        low, top = lowest(ONE_MORE), highest(ONE_MORE)
+        for first, last in [(one, other), (other, one), (low, top), (top, low)]:
             for call in (lambda: how_many_rows(first, last), lambda: row_by(first, last, 0),
                          lambda: row_by(first, last, -1), lambda: row_by(first, last, None)):
                 with self.assertRaises(TooGreat) as caught:
