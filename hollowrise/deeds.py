@@ -1,8 +1,8 @@
 """HOLLOWS and PEAKS, RAISED and LOWERED, one or several at once."""
 
 from hollowrise.errors import BadSpot, NoHollow, NoPeak, Nought
-from hollowrise.fields import at, is_on_rim, need_field, need_spot, neighbours_of, sides, spots_of, with_at
-from hollowrise.fractions import by, plus, times
+from hollowrise.fields import at, inner_of, need_field, need_spot, sides, with_at
+from hollowrise.fractions import by, plus, so_many, times
 from hollowrise.kinds import need_rule
 
 UP = 1
@@ -70,26 +70,33 @@ def moved(field, some, step, rule):
     # No two of them are NEIGHBOURS, so what the FIELD has as it is handed in is what each one wants.
     heights_behind, worths_behind = field
     for spot in some:
-        need_movable(heights, spot, step)
-        near = [at(worths, other) for other in neighbours_of(spot, sides(heights))]
-        worth = worth_behind(spot, near, at(worths, spot), rule)
+        worth = worth_moved(heights, worths, spot, step, rule)
         heights_behind = with_at(heights_behind, spot, height_behind(heights, spot, step))
         worths_behind = with_at(worths_behind, spot, worth)
     return (heights_behind, worths_behind)
 
 
+def worth_moved(heights, worths, spot, step, rule):
+    """The WORTH that a SPOT has behind it goes UP or DOWN, of rows that are tuples or lists; or as it is refused."""
+    need_movable(heights, spot, step)
+    x, y = spot
+    row = worths[y]
+    return worth_behind(spot, (row[x - 1], worths[y - 1][x], worths[y + 1][x], row[x + 1]), row[x], rule)
+
+
 def movable_spots(heights, step):
     """All HOLLOWS where the step is UP, all PEAKS where it is DOWN, rising."""
-    return tuple([spot for spot in spots_of(sides(heights)) if is_movable(heights, spot, step)])
+    return tuple([spot for spot in inner_of(sides(heights)) if is_movable(heights, spot, step)])
 
 
 def is_movable(heights, spot, step):
     """True of a HOLLOW where the step is UP, of a PEAK where it is DOWN."""
-    size = sides(heights)
-    if is_on_rim(spot, size):
+    x, y = spot
+    row = heights[y]
+    if not 0 < x < len(row) - 1 or not 0 < y < len(heights) - 1:
         return False
-    height = at(heights, spot) + step
-    return all([at(heights, near) == height for near in neighbours_of(spot, size)])
+    height = row[x] + step
+    return row[x - 1] == height and row[x + 1] == height and heights[y - 1][x] == height == heights[y + 1][x]
 
 
 def need_movable(heights, spot, step):
@@ -110,9 +117,7 @@ def worth_behind(spot, near, own, rule):
     """The WORTH that a SPOT has behind a DEED, by those of its NEIGHBOURS, as they rise, and its own; or Nought."""
     a, b = rule
     west, south, north, east = near
-    side_by_side = times((a, 1), times(west, east))
-    above_one_another = times((b, 1), times(north, south))
-    worth = by(plus(side_by_side, above_one_another), own)
+    worth = by(plus(so_many(times(west, east), a), so_many(times(north, south), b)), own)
     if worth[0] == 0:
         raise Nought(spot)
     return worth

@@ -1,5 +1,7 @@
 """BOARDS, SPOTS and FIELDS: what they are, what is asked of them, how they are turned."""
 
+from math import gcd
+
 from hollowrise.errors import BadField, BadFraction, BadSpot
 from hollowrise.fractions import is_fraction
 from hollowrise.kinds import is_tuple_of, is_whole
@@ -22,9 +24,10 @@ def need_field(thing):
     if not is_tuple_of(thing, 2):
         raise BadField(None)
     heights, worths = thing
-    if not are_height_rows(heights):
-        raise BadField("heights")
-    if not are_steps(heights):
+    if not are_heights(heights):
+        # Which of both it is has to be told of what is refused alone.
+        if not are_height_rows(heights):
+            raise BadField("heights")
         raise BadField("steps")
     if not are_worth_rows(worths, sides(heights)):
         raise BadField("worths")
@@ -48,8 +51,7 @@ def rim(field):
 
 def inner(field):
     """The INNER SPOTS, rising."""
-    size = board(field)
-    return tuple([spot for spot in spots_of(size) if not is_on_rim(spot, size)])
+    return inner_of(board(field))
 
 
 def neighbours(field, spot):
@@ -126,14 +128,30 @@ def spots_of(size):
 
 def rim_of(size):
     """The SPOTS of the RIM of a BOARD of such a size, rising."""
-    return tuple([spot for spot in spots_of(size) if is_on_rim(spot, size)])
+    wide, high = size
+    if wide < 3 or high < 3:
+        return spots_of(size)
+    west = [(0, y) for y in range(high)]
+    east = [(wide - 1, y) for y in range(high)]
+    between = [(x, y) for x in range(1, wide - 1) for y in (0, high - 1)]
+    return tuple(west + between + east)
+
+
+def inner_of(size):
+    """The INNER SPOTS of a BOARD of such a size, rising."""
+    wide, high = size
+    return tuple([(x, y) for x in range(1, wide - 1) for y in range(1, high - 1)])
+
+
+def around(spot):
+    """The four places beside a SPOT, whether they are there or not, rising: west, south, north, east."""
+    x, y = spot
+    return ((x - 1, y), (x, y - 1), (x, y + 1), (x + 1, y))
 
 
 def neighbours_of(spot, size):
     """The NEIGHBOURS of a good SPOT on a BOARD of such a size, rising."""
-    x, y = spot
-    around = ((x - 1, y), (x, y - 1), (x, y + 1), (x + 1, y))
-    return tuple([near for near in around if is_within(near, size)])
+    return tuple([near for near in around(spot) if is_within(near, size)])
 
 
 def is_within(place, size):
@@ -152,7 +170,11 @@ def is_on_rim(spot, size):
 
 def is_spot(thing, size):
     """True of a SPOT of a BOARD of such a size, of anything."""
-    return is_tuple_of(thing, 2) and is_whole(thing[0]) and is_whole(thing[1]) and is_within(thing, size)
+    if not is_tuple_of(thing, 2):
+        return False
+    x, y = thing
+    wide, high = size
+    return type(x) is int and type(y) is int and 0 <= x < wide and 0 <= y < high
 
 
 def need_spot(thing, size):
@@ -180,50 +202,64 @@ def columns(rows):
     return tuple([tuple([rows[y][x] for y in range(high)]) for x in range(wide)])
 
 
-def are_rows(thing, size):
-    """True of a tuple of HIGH rows, tuples of WIDE things, whatever these are."""
-    wide, high = size
-    if not is_tuple_of(thing, high):
-        return False
-    for row in thing:
-        if not is_tuple_of(row, wide):
-            return False
-    return True
-
-
 def is_side_long(thing):
     """True of a tuple of as many things as a side of a BOARD may have SPOTS."""
     return type(thing) is tuple and 1 <= len(thing) <= MOST_SIDE
 
 
-def are_height_rows(thing):
-    """True of rows of whole numbers, of a BOARD, those of the RIM within their bounds."""
+def are_heights(thing):
+    """True of HEIGHTS, of anything."""
+    # Each FIELD that is handed in comes by here, so this calls nothing of its own for each SPOT.
     if not is_side_long(thing) or not is_side_long(thing[0]):
         return False
-    size = sides(thing)
-    if not are_rows(thing, size):
+    first = thing[0][0]
+    # Where all NEIGHBOURS are one apart the evenness of one SPOT is that of all.
+    if type(first) is not int or first % 2 == 1 or not are_steps_beside(thing[0]):
         return False
-    for spot in spots_of(size):
-        height = at(thing, spot)
-        if not is_whole(height):
+    wide = len(thing[0])
+    south = thing[0]
+    for row in thing[1:]:
+        if type(row) is not tuple or len(row) != wide:
             return False
-        if is_on_rim(spot, size) and abs(height) > MOST_RIM:
+        # The row's first SPOT has no NEIGHBOUR to the west: it is held against the one to the south twice.
+        west = south[0]
+        for height, below in zip(row, south):
+            if type(height) is not int or height - west not in (1, -1) or height - below not in (1, -1):
+                return False
+            west = height
+        south = row
+    # No height is farther from the first one than the WAY, so most RIMS needn't be gone round.
+    return abs(first) + wide + len(thing) - 2 <= MOST_RIM or is_rim_low(thing)
+
+
+def are_steps_beside(row):
+    """True of a row of whole numbers, the first of which is one, each one apart from the next."""
+    west = row[0] - 1
+    for height in row:
+        if type(height) is not int or height - west not in (1, -1):
             return False
+        west = height
     return True
 
 
-def are_steps(rows):
-    """True of rows of whole numbers whose evenness and NEIGHBOURS are those of HEIGHTS."""
-    for x, y in spots_of(sides(rows)):
-        height = rows[y][x]
-        if (x + y + height) % 2 == 1:
+def is_rim_low(rows):
+    """True of rows of whole numbers that are within the bounds of the RIM where they are on it."""
+    edge = list(rows[0] + rows[-1]) + [row[0] for row in rows] + [row[-1] for row in rows]
+    return -MOST_RIM <= min(edge) and max(edge) <= MOST_RIM
+
+
+def are_height_rows(thing):
+    """True of rows of whole numbers, of a BOARD, those of the RIM within their bounds, whatever their steps."""
+    if not is_side_long(thing) or not is_side_long(thing[0]):
+        return False
+    wide = len(thing[0])
+    for row in thing:
+        if not is_tuple_of(row, wide):
             return False
-        # The pairs to the west and the south are all pairs there are.
-        if x > 0 and abs(height - rows[y][x - 1]) != 1:
-            return False
-        if y > 0 and abs(height - rows[y - 1][x]) != 1:
-            return False
-    return True
+        for height in row:
+            if not is_whole(height):
+                return False
+    return is_rim_low(thing)
 
 
 def is_worth(thing):
@@ -233,10 +269,22 @@ def is_worth(thing):
 
 def are_worth_rows(thing, size):
     """True of WORTHS of a BOARD of such a size, of anything."""
-    if not are_rows(thing, size):
+    wide, high = size
+    if not is_tuple_of(thing, high):
         return False
     for row in thing:
+        if type(row) is not tuple or len(row) != wide:
+            return False
         for worth in row:
-            if not is_worth(worth):
+            # As is_worth, once more: to call that for each WORTH takes longer than all else of a FIELD.
+            if type(worth) is not tuple or len(worth) != 2:
+                return False
+            above, below = worth
+            if type(above) is not int or type(below) is not int:
+                return False
+            if below == 1:
+                if above == 0:
+                    return False
+            elif below < 1 or gcd(above, below) != 1:
                 return False
     return True

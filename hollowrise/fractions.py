@@ -28,12 +28,16 @@ def fraction(above, below):
 
 def plus(one, other):
     """One FRACTION and the other together."""
-    shared = gcd(one[1], other[1])
-    part = one[1] // shared
-    above = one[0] * (other[1] // shared) + other[0] * part
+    above, below = one
+    other_above, other_below = other
+    shared = gcd(below, other_below)
+    if shared == 1:
+        return (above * other_below + other_above * below, below * other_below)
+    part = below // shared
+    whole = above * (other_below // shared) + other_above * part
     # Only by what the BELOWS share can the sum still be reduced: that is shorter than their product.
-    common = gcd(above, shared)
-    return (above // common, part * (other[1] // common))
+    common = gcd(whole, shared)
+    return (whole // common, part * (other_below // common))
 
 
 def less(one, other):
@@ -43,15 +47,29 @@ def less(one, other):
 
 def times(one, other):
     """One FRACTION times the other."""
+    above, below = one
+    other_above, other_below = other
     # Both are in lowest terms, so the product is reduced crosswise: by shorter numbers than it has itself.
-    first = gcd(one[0], other[1])
-    second = gcd(other[0], one[1])
-    return ((one[0] // first) * (other[0] // second), (one[1] // second) * (other[1] // first))
+    first = gcd(above, other_below)
+    second = gcd(other_above, below)
+    return ((above // first) * (other_above // second), (below // second) * (other_below // first))
+
+
+def so_many(one, number):
+    """One FRACTION times a whole number."""
+    above, below = one
+    shared = gcd(number, below)
+    return (above * (number // shared), below // shared)
 
 
 def by(one, other):
     """One FRACTION divided by the other; BadFraction by nought."""
-    return times(one, fraction(other[1], other[0]))
+    above, below = other
+    if above == 0:
+        raise BadFraction("nothing is divided by nought")
+    if above < 0:
+        return times(one, (-below, -above))
+    return times(one, (below, above))
 
 
 def power(one, number):

@@ -1,14 +1,14 @@
 """HEIGHTS by themselves: held against others of one BOARD and RIM, and all of these."""
 
 from hollowrise.errors import BadHeights, TooGreat
-from hollowrise.fields import are_height_rows, are_steps, at, rim_of, sides, way
+from hollowrise.fields import are_heights, at, rim_of, sides, way
 
 MOST_HEIGHTS = 4096
 
 
 def is_heights(thing):
     """True of HEIGHTS, of anything."""
-    return are_height_rows(thing) and are_steps(thing)
+    return are_heights(thing)
 
 
 def lesser(one, other):
@@ -144,10 +144,13 @@ def _next_heights(ahead, spot, least, most):
     """The heights, rising, at which a SPOT may stand behind those ahead of it, told row by row."""
     x, y = spot
     wide, _ = sides(least)
-    near = []
+    low = at(least, spot)
+    high = at(most, spot)
+    # All of its evenness that are no more than one away from a NEIGHBOUR are just one away.
     if x > 0:
-        near.append(ahead[-1])
+        low = max(low, ahead[-1] - 1)
+        high = min(high, ahead[-1] + 1)
     if y > 0:
-        near.append(ahead[-wide])
-    heights = range(at(least, spot), at(most, spot) + 1, 2)
-    return [height for height in heights if all([abs(height - other) == 1 for other in near])]
+        low = max(low, ahead[-wide] - 1)
+        high = min(high, ahead[-wide] + 1)
+    return list(range(low, high + 1, 2))

@@ -20,10 +20,10 @@ def is_rule(thing):
     """True of a RULE: a pair of whole numbers from -9 to 9, none 0."""
     if not is_tuple_of(thing, 2):
         return False
-    for number in thing:
-        if not is_whole(number) or number == 0 or abs(number) > MOST_RULE:
-            return False
-    return True
+    a, b = thing
+    if type(a) is not int or type(b) is not int:
+        return False
+    return a != 0 and b != 0 and -MOST_RULE <= a <= MOST_RULE and -MOST_RULE <= b <= MOST_RULE
 
 
 def need_rule(thing):

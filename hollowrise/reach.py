@@ -1,8 +1,8 @@
 """The WORTHS of a SPOT at all heights that it can be brought to, and FIELDS that hold what was found of them."""
 
-from hollowrise.deeds import height_behind, need_movable, worth_behind
+from hollowrise.deeds import need_movable, worth_behind
 from hollowrise.errors import BadRow, BadTarget, Gone, Nought
-from hollowrise.fields import at, is_spot, need_field, need_spot, neighbours_of, rim_of, sides, spots_of, way, with_at
+from hollowrise.fields import around, at, is_spot, need_field, need_spot, rim_of, sides, spots_of, way, with_at
 from hollowrise.heights import rows_by, span_at
 from hollowrise.kinds import is_whole, need_rule
 from hollowrise.rows import first_row_of, heights_behind, is_deed, other_way, spot_of, step_of
@@ -147,20 +147,20 @@ def _held_at_first(field):
 def _held_behind(held, heights, row, rule):
     """What is held behind a ROW from these HEIGHTS: what was ahead, and what it wants; or Nought."""
     known = {level: held[level] for level in held}
-    reached = heights
+    reached = [list(line) for line in heights]
     for deed in row:
-        spot = spot_of(deed)
-        level = spot + (height_behind(reached, spot, step_of(deed)),)
+        x, y = spot_of(deed)
+        reached[y][x] += 2 * step_of(deed)
+        level = (x, y, reached[y][x])
         if level not in known:
-            known[level] = _reckoned(known, level, step_of(deed), sides(heights), rule)
-        reached = heights_behind(reached, deed)
+            known[level] = _reckoned(known, level, step_of(deed), rule)
     return known
 
 
-def _reckoned(known, level, step, size, rule):
+def _reckoned(known, level, step, rule):
     """The WORTH of a SPOT at a height to which it goes UP or DOWN, by those that are known; or Nought."""
     x, y, height = level
-    near = [known[(a, b, height - step)] for a, b in neighbours_of((x, y), size)]
+    near = [known[(a, b, height - step)] for a, b in around((x, y))]
     return worth_behind((x, y), near, known[(x, y, height - 2 * step)], rule)
 
 

@@ -1,8 +1,8 @@
 """ROWS of DEEDS: done, TOLD BACK, and the FEWEST ROWS that lead from HEIGHTS to HEIGHTS."""
 
-from hollowrise.deeds import DOWN, UP, height_behind, is_movable, moved
+from hollowrise.deeds import DOWN, UP, height_behind, is_movable, worth_moved
 from hollowrise.errors import BadRow, DeedError, TooGreat
-from hollowrise.fields import MOST_SIDE, at, is_spot, need_field, sides, spots_of, with_at
+from hollowrise.fields import MOST_SIDE, at, inner_of, is_spot, need_field, sides, spots_of, with_at
 from hollowrise.heights import MOST_HEIGHTS, greater_of, how_many_between, lesser_of, need_alike
 from hollowrise.kinds import is_tuple_of, is_whole, need_rule
 
@@ -24,10 +24,10 @@ def how_far(field, row, *, rule=(1, 1)):
     """How many of its first DEEDS can be done."""
     need_row(field, row)
     need_rule(rule)
-    reached = field
+    heights, worths = as_lists(field)
     for number, deed in enumerate(row):
         try:
-            reached = _deed_done(reached, deed, rule)
+            _do(heights, worths, deed, rule)
         except DeedError:
             return number
     return len(row)
@@ -127,27 +127,54 @@ def deeds_nearer(heights, last):
 
 def first_row_of(one, other):
     """As first_row, of HEIGHTS that are alike."""
-    row = []
-    heights = one
-    while heights != other:
-        # All FEWEST ROWS are as long, and each DEED that brings nearer begins one: the least one begins the first.
-        deed = deeds_nearer(heights, other)[0]
-        row.append(deed)
-        heights = heights_behind(heights, deed)
-    return tuple(row)
+    heights = [list(row) for row in one]
+    # All FEWEST ROWS are as long, and each DEED that brings nearer begins one: the least one begins the first. There is
+    # one that goes down as long as a SPOT stands higher than at last.
+    downs = _first_deeds(heights, other, "down")
+    return tuple(downs + _first_deeds(heights, other, "up"))
 
 
-def _deed_done(field, deed, rule):
-    """The FIELD behind a good DEED, or as it is refused."""
-    return moved(field, (spot_of(deed),), step_of(deed), rule)
+def as_lists(field):
+    """The heights and the WORTHS of a FIELD as lists of lists, the caller's own."""
+    heights, worths = field
+    return ([list(row) for row in heights], [list(row) for row in worths])
+
+
+def _first_deeds(heights, last, word):
+    """The DEEDS of one word that bring SPOTS to their last height, always the first; done at lists of heights."""
+    step = step_of((word, 0, 0))
+    left = [spot for spot in inner_of(sides(last)) if (at(last, spot) - at(heights, spot)) * step > 0]
+    deeds = []
+    number = 0
+    while left:
+        x, y = left[number]
+        if not is_movable(heights, (x, y), step):
+            number += 1
+            continue
+        deeds.append((word, x, y))
+        heights[y][x] += 2 * step
+        if heights[y][x] == last[y][x]:
+            del left[number]
+        # Of those ahead that couldn't go just its NEIGHBOURS may have come to.
+        while number > 0 and left[number - 1] >= (x - 1, y):
+            number -= 1
+    return deeds
+
+
+def _do(heights, worths, deed, rule):
+    """A good DEED done at lists of heights and WORTHS, or as it is refused."""
+    x, y = spot_of(deed)
+    step = step_of(deed)
+    worths[y][x] = worth_moved(heights, worths, (x, y), step, rule)
+    heights[y][x] += 2 * step
 
 
 def _done_by(field, row, rule):
     """As done, of a good ROW and RULE."""
-    reached = field
+    heights, worths = as_lists(field)
     for deed in row:
-        reached = _deed_done(reached, deed, rule)
-    return reached
+        _do(heights, worths, deed, rule)
+    return (tuple([tuple(line) for line in heights]), tuple([tuple(line) for line in worths]))
 
 
 def _rows_left(one, other):

@@ -75,25 +75,25 @@ def lacks_one(x, y, wide, high):
 
 
 def whole(thing):
-    return isinstance(thing, int) and not isinstance(thing, bool)
+    return type(thing) is int
 
 
 def worth_like(thing):
-    return (isinstance(thing, tuple) and len(thing) == 2 and all(map(whole, thing))
+    return (type(thing) is tuple and len(thing) == 2 and all(map(whole, thing))
             and thing[1] > 0 and thing[0] != 0 and gcd(*thing) == 1)
 
 
 def like_rows(thing, wide, high, told):
-    return (isinstance(thing, tuple) and len(thing) == high
-            and all(isinstance(row, tuple) and len(row) == wide and all(map(told, row)) for row in thing))
+    return (type(thing) is tuple and len(thing) == high
+            and all(type(row) is tuple and len(row) == wide and all(map(told, row)) for row in thing))
 
 
 def place_of(thing):
     """The place of the BadField of anything, "" of a FIELD; told by the words of point 3, one by one."""
-    if not isinstance(thing, tuple) or len(thing) != 2:
+    if not type(thing) is tuple or len(thing) != 2:
         return None
     heights, worths = thing
-    if not isinstance(heights, tuple) or not heights or not isinstance(heights[0], tuple):
+    if not type(heights) is tuple or not heights or not type(heights[0]) is tuple:
         return "heights"
     wide, high = len(heights[0]), len(heights)
     if not (1 <= wide <= 11 and 1 <= high <= 11 and like_rows(heights, wide, high, whole)):

@@ -137,6 +137,20 @@ class Refused(unittest.TestCase):
         self.assertIs(is_field((rows, worths_for(3, 3))), True)
         self.assertIs(is_field(upside_down((rows, worths_for(3, 3)))), True)
 
+    def test_rims_that_slope_to_their_bounds(self):
+        # From each corner to the one across: as far as heights of one FIELD can be apart.
+        for wide, high in [(11, 11), (11, 1), (1, 11), (10, 7), (2, 2), (3, 3)]:
+            slopes = [lambda x, y: x + y, lambda x, y: x - y, lambda x, y: y - x, lambda x, y: -x - y,
+                      lambda x, y: abs(x - wide // 2) + y, lambda x, y: -abs(x - wide // 2) - abs(y - high // 2)]
+            for slope in slopes:
+                for lift in range(-60, 61, 2):
+                    rows = rows_by(wide, high, lambda x, y: slope(x, y) + lift)
+                    field = (rows_by(wide, high, lambda x, y: rows[y][x] + (rows[0][0] % 2)), worths_for(wide, high))
+                    if place_of(field):
+                        self.check(field, "heights")
+                    else:
+                        self.assertIsNone(need_field(field))
+
     def test_evenness(self):
         for wide, high in [(1, 1), (1, 4), (4, 1), (3, 3), (11, 11)]:
             rows, worths = flat_field(wide, high)
@@ -172,6 +186,60 @@ class Refused(unittest.TestCase):
                 for wrong in ((0, 1), (2, 2), (1, 0), (1, -1), (-1, -1), (True, 1), (1, True), [1, 1], (1,), (1, 1, 1), 1,
                               1.0, "1", None, (1.0, 1), (1, 1.0), (2 * SIXTY, 2), (0, 0), (), True):
                     self.check((rows, with_thing(worths, x, y, wrong)), "worths")
+
+    def test_what_claims_to_be_what_it_is_not(self):
+        class Number(int):
+            pass
+
+        class Pair(tuple):
+            pass
+
+        class Liar:
+            def __init__(self, thing):
+                self.thing = thing
+
+            @property
+            def __class__(self):
+                return type(self.thing)
+
+            def __eq__(self, other):
+                return True
+
+            def __hash__(self):
+                return hash(self.thing)
+
+            def __len__(self):
+                return len(self.thing)
+
+            def __iter__(self):
+                return iter(self.thing)
+
+            def __getitem__(self, at):
+                return self.thing[at]
+
+        rows, worths = flat_field(3, 4)
+        for kind in (Pair, Liar, list):
+            self.check(kind((rows, worths)), None)
+            self.check((kind(rows), worths), "heights")
+            self.check((rows, kind(worths)), "worths")
+            for y in range(4):
+                self.check((rows[:y] + (kind(rows[y]),) + rows[y + 1:], worths), "heights")
+                self.check((rows, worths[:y] + (kind(worths[y]),) + worths[y + 1:]), "worths")
+        for x, y in itertools.product(range(3), range(4)):
+            height, (above, below) = rows[y][x], worths[y][x]
+            for thing in (Number(height), Liar(height), bool(height), float(height), complex(height)):
+                self.check((with_thing(rows, x, y, thing), worths), "heights")
+            for thing in (Pair((above, below)), Liar((above, below)), (Number(above), below), (above, Number(below)),
+                          (Liar(above), below), (above, Liar(below)), (above, True), (True, below), (False, 1)):
+                self.check((rows, with_thing(worths, x, y, thing)), "worths")
+
+    def test_rows_of_one_length_less_or_more_behind_those_that_are_steps(self):
+        rows, worths = flat_field(4, 4)
+        for y in range(4):
+            for row in (rows[y][:3], rows[y] + (y % 2,), rows[y] + (None,), rows[y][:3] + (None,), ()):
+                wrong = rows[:y] + (row,) + rows[y + 1:]
+                self.check((wrong, worths), "heights")
+                self.check((wrong[:2] + ((9, 9, 9, 9),) + wrong[3:] if y != 2 else wrong, None), "heights")
 
     def test_the_first_place_that_is_due(self):
         for place, thing in NO_FIELDS:
