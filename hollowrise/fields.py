@@ -161,13 +161,6 @@ def is_within(place, size):
     return 0 <= x < wide and 0 <= y < high
 
 
-def is_on_rim(spot, size):
-    """True of a good SPOT that lacks one of the four NEIGHBOURS."""
-    x, y = spot
-    wide, high = size
-    return x in (0, wide - 1) or y in (0, high - 1)
-
-
 def is_spot(thing, size):
     """True of a SPOT of a BOARD of such a size, of anything."""
     if not is_tuple_of(thing, 2):

@@ -17,7 +17,7 @@ def done(field, row, *, rule=(1, 1)):
     """The FIELD to which a ROW leads; else as its first DEED that can't be done is refused."""
     need_row(field, row)
     need_rule(rule)
-    return _done_by(field, row, rule)
+    return done_by(field, row, rule)
 
 
 def how_far(field, row, *, rule=(1, 1)):
@@ -71,7 +71,7 @@ def led(field, heights, *, rule=(1, 1)):
     need_field(field)
     need_alike(field[0], heights)
     need_rule(rule)
-    return _done_by(field, first_row_of(field[0], heights), rule)
+    return done_by(field, first_row_of(field[0], heights), rule)
 
 
 def is_deed(thing, size):
@@ -169,7 +169,7 @@ def _do(heights, worths, deed, rule):
     heights[y][x] += 2 * step
 
 
-def _done_by(field, row, rule):
+def done_by(field, row, rule):
     """As done, of a good ROW and RULE."""
     heights, worths = as_lists(field)
     for deed in row:

@@ -1,10 +1,10 @@
-"""How the functions of heights, deeds, rows and reach take what is handed in: names, places, rules, and all stays."""
+"""How the functions take what is handed in: names, places, rules, and all stays as it was."""
 
 import copy
 import inspect
 import unittest
 
-from hollowrise import deeds, heights, reach, rows
+from hollowrise import deeds, heights, pairings, reach, rows, targets, webs
 from hollowrise.errors import BadField, BadRule
 from hollowrise.heights import highest
 from tests.plain import ONE, outcome
@@ -15,6 +15,8 @@ from tests.test_heights import FEW
 
 RAISED = highest(FEW)
 UP = (("up", 1, 1),)
+AT_HOLLOW = {"field": HOLLOW, "target": (1, 1, 2)}
+PAIRED = (((1, 0), (1, 1)), ((1, 1), (1, 2)))
 
 # Of each function: what may rightly be handed in, by the names and in the order that the interface tells.
 TOLD = {
@@ -39,8 +41,26 @@ TOLD = {
         "worth_at": {"field": HOLLOW, "x": 1, "y": 1, "height": 2}, "worths_at": {"field": HOLLOW, "spot": (1, 1)},
         "Held": {"field": HOLLOW},
     },
+    targets: {
+        "need_target": AT_HOLLOW, "is_closed": {**AT_HOLLOW, "spot": (1, 1)}, "is_open": {**AT_HOLLOW, "spot": (1, 1)},
+        "cone": AT_HOLLOW, "field_of": AT_HOLLOW, "first_rising": AT_HOLLOW,
+    },
+    webs: {
+        "knots_at": {"field": HOLLOW, "corner": (1, 0)}, "ends": {"field": HOLLOW, "tie": PAIRED[0]},
+        "is_side": {"tie": PAIRED[0]}, "web": AT_HOLLOW, "knots": AT_HOLLOW, "ties_at": {**AT_HOLLOW, "spot": (1, 1)},
+    },
+    pairings: {
+        "is_pairing": {**AT_HOLLOW, "thing": PAIRED}, "need_pairing": {**AT_HOLLOW, "pairing": PAIRED},
+        "how_many": AT_HOLLOW, "pairings": AT_HOLLOW, "nth_pairing": {**AT_HOLLOW, "number": 1},
+        "number_of": {**AT_HOLLOW, "pairing": PAIRED}, "powers_of": {**AT_HOLLOW, "pairing": PAIRED},
+        "rule_counts": {**AT_HOLLOW, "pairing": PAIRED}, "pairing_worth": {**AT_HOLLOW, "pairing": PAIRED},
+        "worth_by_pairings": AT_HOLLOW,
+    },
 }
-BY_RULE = {"raised", "lowered", "raised_all", "lowered_all", "done", "how_far", "led", "worth_at", "worths_at", "Held"}
+BY_RULE = {"raised", "lowered", "raised_all", "lowered_all", "done", "how_far", "led", "worth_at", "worths_at", "Held",
+           "field_of", "pairing_worth", "worth_by_pairings"}
+# These tell what a thing isn't, instead of refusing it, or take good ones alone.
+TELLING = {"is_heights", "is_pairing", "is_side"}
 WRONG = [None, [], {}, [[0]], ["up", 1, 1], [("up", 1, 1)], [[1, 1]], {"up": [1]}, ([1, 1],), ((1, [1]),)]
 
 
@@ -105,15 +125,16 @@ class Arguments(unittest.TestCase):
                         self.assertEqual(caught.exception.place, place, name)
 
     def test_handed_in_is_afterwards_what_it_was(self):
-        for function, _, told in functions():
+        for function, name, told in functions():
             kept = copy.deepcopy(told)
             function(**told)
             self.assertEqual(told, kept)
             for key in told:
-                for thing in WRONG:
-                    wrong = {**told, key: copy.deepcopy(thing)}
-                    outcome(function, **wrong)
-                    self.assertEqual(wrong[key], thing)
+                if name != "is_side":
+                    for thing in WRONG:
+                        wrong = {**told, key: copy.deepcopy(thing)}
+                        outcome(function, **wrong)
+                        self.assertEqual(wrong[key], thing)
 
     def test_asked_twice_it_tells_the_same(self):
         for function, _, told in functions():
@@ -123,6 +144,10 @@ class Arguments(unittest.TestCase):
         first = heights.all_heights(FEW)
         first.append(None)
         self.assertEqual(heights.all_heights(FEW), [FEW, RAISED])
+        every = pairings.pairings(HOLLOW, (1, 1, 2))
+        kept = list(every)
+        every.clear()
+        self.assertEqual(pairings.pairings(HOLLOW, (1, 1, 2)), kept)
 
     def test_true_and_false_are_no_whole_numbers(self):
         field = (flat_field(5, 5)[0], rows_by(5, 5, lambda x, y: ONE))
@@ -130,9 +155,10 @@ class Arguments(unittest.TestCase):
             for key, thing in told.items():
                 for number, flag in ((0, False), (1, True)):
                     wrong = with_flags(thing, number, flag)
-                    if wrong is not None and name != "is_heights":
+                    if wrong is not None and name not in TELLING:
                         self.assertNotEqual(outcome(function, **{**told, key: wrong})[0], "told", (name, key))
         self.assertIs(heights.is_heights(with_flags(FEW, 1, True)), False)
+        self.assertIs(pairings.is_pairing(HOLLOW, (1, 1, 2), with_flags(PAIRED, 1, True)), False)
         self.assertEqual(outcome(reach.worth_at, field, True, 1, 0)[0], "BadTarget")
 
     def test_what_is_told_may_be_handed_in_again_however_long(self):

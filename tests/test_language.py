@@ -260,7 +260,8 @@ class Iteration(unittest.TestCase):
                 iterated = isinstance(around, (ast.For, ast.comprehension)) and around.iter is node
                 taken = isinstance(around, ast.Call) and ast.unparse(around.func) in takers
                 kept = name == "range" and isinstance(around, ast.Assign) and isinstance(around.targets[0], ast.Name)
-                self.assertTrue(iterated or taken or kept, (path.name, node.lineno))
+                turned = name == "range" and isinstance(around, ast.Call) and ast.unparse(around.func) == "reversed"
+                self.assertTrue(iterated or taken or kept or turned, (path.name, node.lineno))
 
     def test_what_a_loop_goes_over_is_not_changed_in_it(self):
         for path in FILES:

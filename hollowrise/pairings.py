@@ -1,0 +1,184 @@
+"""PAIRINGS of a WEB: which they are, how many, their POWERS and their WORTHS."""
+
+from hollowrise.errors import BadPairing, Nought, TooGreat
+from hollowrise.fields import at
+from hollowrise.fractions import by, power, times
+from hollowrise.kinds import is_whole, need_rule
+from hollowrise.reach import worth_at
+from hollowrise.sweeps import all_by, how_many_by, number_by, of_number, steps_of, sum_by
+from hollowrise.targets import need_target, stands, sunk
+from hollowrise.webs import ends_of, is_side, is_tie, knots_among, web_of
+
+MOST_PAIRINGS = 4096
+
+
+def is_pairing(field, target, thing):
+    """True of a PAIRING of the WEB, of anything."""
+    try:
+        need_pairing(field, target, thing)
+    except BadPairing:
+        return False
+    return True
+
+
+def need_pairing(field, target, pairing):
+    """None, or BadPairing(number) of anything that is no PAIRING of the WEB."""
+    need_target(field, target)
+    need_pairing_on(field[0], target, pairing)
+
+
+def how_many(field, target):
+    """How many PAIRINGS there are."""
+    need_target(field, target)
+    return how_many_by(web_steps(field[0], target))
+
+
+def pairings(field, target):
+    """A list of all PAIRINGS, rising; TooGreat where there are more than 4096."""
+    need_target(field, target)
+    return pairings_of(field[0], target)
+
+
+def nth_pairing(field, target, number):
+    """The PAIRING of a number; BadPairing(None), TooGreat."""
+    need_target(field, target)
+    steps = web_steps(field[0], target)
+    many = how_many_by(steps)
+    if not is_whole(number) or not 0 <= number < many:
+        raise BadPairing(None)
+    _need_few(many)
+    return of_number(steps, number)
+
+
+def number_of(field, target, pairing):
+    """The number of a PAIRING; TooGreat."""
+    need_pairing(field, target, pairing)
+    steps = web_steps(field[0], target)
+    _need_few(how_many_by(steps))
+    return number_by(steps, pairing)
+
+
+def powers_of(field, target, pairing):
+    """A rising tuple of (SPOT, POWER), POWER not 0."""
+    need_pairing(field, target, pairing)
+    heights, _ = field
+    return powers_by(heights, target, web_of(heights, target), pairing)
+
+
+def rule_counts(field, target, pairing):
+    """(How often A, how often B) a PAIRING brings."""
+    need_pairing(field, target, pairing)
+    return counts_by(pairing)
+
+
+def pairing_worth(field, target, pairing, *, rule=(1, 1)):
+    """The WORTH of a PAIRING."""
+    need_pairing(field, target, pairing)
+    need_rule(rule)
+    heights, _ = field
+    return worth_by(field, powers_by(heights, target, web_of(heights, target), pairing), counts_by(pairing), rule)
+
+
+def worth_by_pairings(field, target, *, rule=(1, 1)):
+    """The sum of the WORTHS of all PAIRINGS, also where the WORTH AT the TARGET is refused; TooGreat."""
+    need_target(field, target)
+    need_rule(rule)
+    x, y, top = target
+    steps = web_steps(field[0], target)
+    _need_few(how_many_by(steps))
+    try:
+        # By T3 it is the same, and that takes less long.
+        return worth_at(field, x, y, top, rule=rule)
+    except Nought:
+        return _sum_by_steps(field, target, steps, rule)
+
+
+def web_steps(heights, target):
+    """The steps in which the WEB is gone over."""
+    return steps_of(heights, web_of(heights, target))
+
+
+def _need_few(many):
+    """None, or TooGreat of more PAIRINGS than are gone through."""
+    if many > MOST_PAIRINGS:
+        raise TooGreat(MOST_PAIRINGS)
+
+
+def pairings_of(heights, target):
+    """As pairings, of good HEIGHTS and a good TARGET."""
+    steps = web_steps(heights, target)
+    _need_few(how_many_by(steps))
+    return all_by(steps)
+
+
+def need_pairing_on(heights, target, thing):
+    """As need_pairing, of good HEIGHTS and a good TARGET."""
+    if type(thing) is not tuple:
+        raise BadPairing(None)
+    ties = {tie: True for tie in web_of(heights, target)}
+    paired = {}
+    ahead = ()
+    for number, tie in enumerate(thing):
+        # What is no TIE by its form needn't have an order, nor be a key.
+        if not is_tie(heights, tie) or tie not in ties or tie <= ahead:
+            raise BadPairing(number)
+        for knot in ends_of(heights, tie):
+            if knot in paired:
+                raise BadPairing(number)
+            paired[knot] = True
+        ahead = tie
+    if len(paired) < len(knots_among(heights, ties)):
+        raise BadPairing(len(thing))
+
+
+def powers_by(heights, target, ties, pairing):
+    """As powers_of, of a good PAIRING and the TIES of its WEB."""
+    if stands(heights, target):
+        return ((target[:2], 1),)
+    paired = {tie: True for tie in pairing}
+    unpaired = {}
+    for tie in ties:
+        step = -1 if tie in paired else 1
+        for spot in tie:
+            unpaired[spot] = unpaired.get(spot, 0) + step
+    told = [(spot, _power(heights, target, spot, unpaired[spot])) for spot in sorted(unpaired)]
+    return tuple([pair for pair in told if pair[1] != 0])
+
+
+def _power(heights, target, spot, unpaired):
+    """The POWER of a SPOT at which so many more TIES aren't in the PAIRING than are."""
+    half = (unpaired + 1) // 2
+    return half - 1 if sunk(heights, target, spot) > 0 else half
+
+
+def counts_by(pairing):
+    """As rule_counts, of a good PAIRING."""
+    sides = [tie for tie in pairing if is_side(tie)]
+    # Between SPOTS above one another: these have one X.
+    upright = [tie for tie in sides if tie[0][0] == tie[1][0]]
+    return (len(upright) // 2, (len(sides) - len(upright)) // 2)
+
+
+def worth_by(field, powers, counts, rule):
+    """The WORTH of a PAIRING with these POWERS that brings A and B so often."""
+    a, b = rule
+    often_a, often_b = counts
+    worth = times(power((a, 1), often_a), power((b, 1), often_b))
+    for spot, often in powers:
+        worth = times(worth, power(at(field[1], spot), often))
+    return worth
+
+
+def _sum_by_steps(field, target, steps, rule):
+    """The sum of T3 by the TIES: each that is paired takes one WORTH of its SPOTS away from what there is without."""
+    heights, worths = field
+    ties = [step[0] for step in steps]
+    many = {}
+    for tie in ties:
+        for spot in tie:
+            many[spot] = many.get(spot, 0) + 1
+    whole = (1, 1)
+    for spot in many:
+        whole = times(whole, power(at(worths, spot), _power(heights, target, spot, many[spot])))
+    brought = {tie: by((1, 1), times(at(worths, tie[0]), at(worths, tie[1]))) for tie in ties}
+    return times(whole, sum_by(steps, brought, rule))
