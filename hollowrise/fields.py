@@ -4,7 +4,7 @@ from math import gcd
 
 from hollowrise.errors import BadField, BadFraction, BadSpot
 from hollowrise.fractions import is_fraction
-from hollowrise.kinds import is_tuple_of, is_whole
+from hollowrise.kinds import is_tuple_of
 
 MOST_SIDE = 11
 MOST_RIM = 35
@@ -24,11 +24,9 @@ def need_field(thing):
     if not is_tuple_of(thing, 2):
         raise BadField(None)
     heights, worths = thing
-    if not are_heights(heights):
-        # Which of both it is has to be told of what is refused alone.
-        if not are_height_rows(heights):
-            raise BadField("heights")
-        raise BadField("steps")
+    place = wrong_with_heights(heights)
+    if place is not None:
+        raise BadField(place)
     if not are_worth_rows(worths, sides(heights)):
         raise BadField("worths")
 
@@ -200,29 +198,40 @@ def is_side_long(thing):
     return type(thing) is tuple and 1 <= len(thing) <= MOST_SIDE
 
 
-def are_heights(thing):
-    """True of HEIGHTS, of anything."""
+def wrong_with_heights(thing):
+    """None of HEIGHTS, of anything; else the place that is due, "heights" or "steps"."""
     # Each FIELD that is handed in comes by here, so this calls nothing of its own for each SPOT.
     if not is_side_long(thing) or not is_side_long(thing[0]):
-        return False
+        return "heights"
     first = thing[0][0]
     # Where all NEIGHBOURS are one apart the evenness of one SPOT is that of all.
     if type(first) is not int or first % 2 == 1 or not are_steps_beside(thing[0]):
-        return False
+        return _wrong_or_steps(thing)
     wide = len(thing[0])
     south = thing[0]
     for row in thing[1:]:
         if type(row) is not tuple or len(row) != wide:
-            return False
+            return "heights"
         # The row's first SPOT has no NEIGHBOUR to the west: it is held against the one to the south twice.
         west = south[0]
         for height, below in zip(row, south):
-            if type(height) is not int or height - west not in (1, -1) or height - below not in (1, -1):
-                return False
+            if type(height) is not int:
+                return "heights"
+            if height - west not in (1, -1) or height - below not in (1, -1):
+                return _wrong_or_steps(thing)
             west = height
         south = row
     # No height is farther from the first one than the WAY, so most RIMS needn't be gone round.
-    return abs(first) + wide + len(thing) - 2 <= MOST_RIM or is_rim_low(thing)
+    if abs(first) + wide + len(thing) - 2 <= MOST_RIM or is_rim_low(thing):
+        return None
+    return "heights"
+
+
+def _wrong_or_steps(thing):
+    """The place of what isn't stepped as HEIGHTS are: "steps" where all else is right."""
+    if are_height_rows(thing):
+        return "steps"
+    return "heights"
 
 
 def are_steps_beside(row):
@@ -247,10 +256,10 @@ def are_height_rows(thing):
         return False
     wide = len(thing[0])
     for row in thing:
-        if not is_tuple_of(row, wide):
+        if type(row) is not tuple or len(row) != wide:
             return False
         for height in row:
-            if not is_whole(height):
+            if type(height) is not int:
                 return False
     return is_rim_low(thing)
 

@@ -1,14 +1,14 @@
 """HEIGHTS by themselves: held against others of one BOARD and RIM, and all of these."""
 
 from hollowrise.errors import BadHeights, TooGreat
-from hollowrise.fields import are_heights, at, rim_of, sides, way
+from hollowrise.fields import at, rim_of, sides, way, wrong_with_heights
 
 MOST_HEIGHTS = 4096
 
 
 def is_heights(thing):
     """True of HEIGHTS, of anything."""
-    return are_heights(thing)
+    return wrong_with_heights(thing) is None
 
 
 def lesser(one, other):

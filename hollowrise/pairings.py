@@ -61,8 +61,7 @@ def number_of(field, target, pairing):
 def powers_of(field, target, pairing):
     """A rising tuple of (SPOT, POWER), POWER not 0."""
     need_pairing(field, target, pairing)
-    heights, _ = field
-    return powers_by(heights, target, web_of(heights, target), pairing)
+    return powers_by(bare_powers(field[0], target), pairing)
 
 
 def rule_counts(field, target, pairing):
@@ -75,8 +74,7 @@ def pairing_worth(field, target, pairing, *, rule=(1, 1)):
     """The WORTH of a PAIRING."""
     need_pairing(field, target, pairing)
     need_rule(rule)
-    heights, _ = field
-    return worth_by(field, powers_by(heights, target, web_of(heights, target), pairing), counts_by(pairing), rule)
+    return worth_by(field, powers_by(bare_powers(field[0], target), pairing), counts_by(pairing), rule)
 
 
 def worth_by_pairings(field, target, *, rule=(1, 1)):
@@ -131,24 +129,30 @@ def need_pairing_on(heights, target, thing):
         raise BadPairing(len(thing))
 
 
-def powers_by(heights, target, ties, pairing):
-    """As powers_of, of a good PAIRING and the TIES of its WEB."""
+def bare_powers(heights, target):
+    """(SPOT, the POWER that it would have without any TIE paired) of all SPOTS that may have one, rising."""
     if stands(heights, target):
         return ((target[:2], 1),)
-    paired = {tie: True for tie in pairing}
-    unpaired = {}
-    for tie in ties:
-        step = -1 if tie in paired else 1
+    many = {}
+    for tie in web_of(heights, target):
         for spot in tie:
-            unpaired[spot] = unpaired.get(spot, 0) + step
-    told = [(spot, _power(heights, target, spot, unpaired[spot])) for spot in sorted(unpaired)]
+            many[spot] = many.get(spot, 0) + 1
+    return tuple([(spot, (many[spot] + 1) // 2 - _is_sunk(heights, target, spot)) for spot in sorted(many)])
+
+
+def _is_sunk(heights, target, spot):
+    """1 of a CLOSED SPOT, 0 of another one."""
+    return 1 if sunk(heights, target, spot) > 0 else 0
+
+
+def powers_by(bare, pairing):
+    """As powers_of, of a good PAIRING, by the bare POWERS: a TIE that is paired makes both its SPOTS' less by one."""
+    paired = {}
+    for one, other in pairing:
+        paired[one] = paired.get(one, 0) + 1
+        paired[other] = paired.get(other, 0) + 1
+    told = [(spot, often - paired.get(spot, 0)) for spot, often in bare]
     return tuple([pair for pair in told if pair[1] != 0])
-
-
-def _power(heights, target, spot, unpaired):
-    """The POWER of a SPOT at which so many more TIES aren't in the PAIRING than are."""
-    half = (unpaired + 1) // 2
-    return half - 1 if sunk(heights, target, spot) > 0 else half
 
 
 def counts_by(pairing):
@@ -170,15 +174,11 @@ def worth_by(field, powers, counts, rule):
 
 
 def _sum_by_steps(field, target, steps, rule):
-    """The sum of T3 by the TIES: each that is paired takes one WORTH of its SPOTS away from what there is without."""
+    """The sum of T3 by the TIES: each that is paired takes one WORTH of both its SPOTS away from what there is bare."""
     heights, worths = field
-    ties = [step[0] for step in steps]
-    many = {}
-    for tie in ties:
-        for spot in tie:
-            many[spot] = many.get(spot, 0) + 1
-    whole = (1, 1)
-    for spot in many:
-        whole = times(whole, power(at(worths, spot), _power(heights, target, spot, many[spot])))
-    brought = {tie: by((1, 1), times(at(worths, tie[0]), at(worths, tie[1]))) for tie in ties}
-    return times(whole, sum_by(steps, brought, rule))
+    bare = worth_by(field, bare_powers(heights, target), (0, 0), rule)
+    brought = {}
+    for step in steps:
+        tie = step[0]
+        brought[tie] = by((1, 1), times(at(worths, tie[0]), at(worths, tie[1])))
+    return times(bare, sum_by(steps, brought, rule))

@@ -27,8 +27,7 @@ def worth_at(field, x, y, height, *, rule=(1, 1)):
     need_rule(rule)
     heights, _ = field
     row = first_row_of(heights, _nearest(heights, (x, y), height))
-    held = _held_behind(_held_at_first(field), heights, row, rule)
-    return held[(x, y, height)]
+    return levels_behind(field, row, rule)[(x, y, height)]
 
 
 def worths_at(field, spot, *, rule=(1, 1)):
@@ -136,6 +135,11 @@ def _nearest(heights, spot, height):
     if at(heights, spot) > height:
         return rows_by(sides(heights), lambda other: min(at(heights, other), height + way(spot, other)))
     return rows_by(sides(heights), lambda other: max(at(heights, other), height - way(spot, other)))
+
+
+def levels_behind(field, row, rule):
+    """A dict from (X, Y, HEIGHT) to the WORTH, of the FIELD's own and of all that a ROW wants; or Nought."""
+    return _held_behind(_held_at_first(field), field[0], row, rule)
 
 
 def _held_at_first(field):

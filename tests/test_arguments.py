@@ -4,7 +4,8 @@ import copy
 import inspect
 import unittest
 
-from hollowrise import deeds, heights, pairings, reach, rows, targets, webs
+from hollowrise import (
+    coins, deeds, flats, heights, letters, pairings, reach, renewing, rows, targets, webs)
 from hollowrise.errors import BadField, BadRule
 from hollowrise.heights import highest
 from tests.plain import ONE, outcome
@@ -17,6 +18,12 @@ RAISED = highest(FEW)
 UP = (("up", 1, 1),)
 AT_HOLLOW = {"field": HOLLOW, "target": (1, 1, 2)}
 PAIRED = (((1, 0), (1, 1)), ((1, 1), (1, 2)))
+PAIRED_LEVEL = (((0, 1), (1, 1)), ((1, 1), (2, 1)))
+RENEWED = {**AT_HOLLOW, "spot": (1, 1)}
+ABOVE = {**AT_HOLLOW, "field": (HOLLOW[0], rows_by(3, 3, lambda x, y: (1 + x, 1)))}
+POWERS = (((0, 1), 1), ((1, 1), -1), ((2, 1), 1))
+SUM = (((), 1), (POWERS, 2))
+WEIGHING = (1, (1, 0), (1, 1), (2, 3))
 
 # Of each function: what may rightly be handed in, by the names and in the order that the interface tells.
 TOLD = {
@@ -56,11 +63,38 @@ TOLD = {
         "rule_counts": {**AT_HOLLOW, "pairing": PAIRED}, "pairing_worth": {**AT_HOLLOW, "pairing": PAIRED},
         "worth_by_pairings": AT_HOLLOW,
     },
+    renewing: {
+        "at_hollow": RENEWED, "at_raised": RENEWED, "rest": {**RENEWED, "pairing": PAIRED},
+        "taken": {**RENEWED, "pairing": PAIRED}, "gone_over": {**RENEWED, "pairing": PAIRED},
+        "come_from": {**RENEWED, "pairing": ()}, "groups": RENEWED,
+        "check_groups": {**RENEWED, "thing": [((PAIRED_LEVEL, PAIRED), ((),))]},
+    },
+    coins: {
+        "share": {**ABOVE, "pairing": PAIRED}, "drawn": {**ABOVE, "coins": ((0, 1),)},
+        "story": {**ABOVE, "coins": ((0, 1),)}, "boxes": {**ABOVE, "pairing": PAIRED},
+    },
+    letters: {
+        "is_powers": {"thing": POWERS}, "is_sum": {"thing": SUM}, "need_powers": {"thing": POWERS},
+        "need_sum": {"thing": SUM}, "sum_plus": {"one": SUM, "other": SUM}, "sum_times": {"one": SUM, "other": SUM},
+        "so_often": {"thing": SUM, "number": 1}, "put_in": {"field": HOLLOW, "thing": SUM}, "sum_of": AT_HOLLOW,
+        "by_powers": {**AT_HOLLOW, "powers": POWERS}, "met": {**AT_HOLLOW, "spot": (1, 1)},
+        "most_met": {**AT_HOLLOW, "spot": (1, 1)},
+        "weight": {"weighing": WEIGHING, "x": 2, "y": 2, "height": 2},
+        "moment": {"field": HOLLOW, "powers": POWERS, "weighing": WEIGHING}, "closed_worth": AT_HOLLOW,
+    },
+    flats: {
+        "flat": {"wide": 1, "high": 2}, "is_flat": {"field": HOLLOW}, "flat_worth": {"n": 1},
+        "flat_target": {"field": HOLLOW, "spot": (1, 1)}, "order_of": AT_HOLLOW,
+        "leaning": {"field": HOLLOW, "base": 1, "q": (1, 2)}, "told_floors": {"order": 1},
+    },
 }
 BY_RULE = {"raised", "lowered", "raised_all", "lowered_all", "done", "how_far", "led", "worth_at", "worths_at", "Held",
-           "field_of", "pairing_worth", "worth_by_pairings"}
+           "field_of", "pairing_worth", "worth_by_pairings", "check_groups", "share", "drawn", "story", "boxes", "sum_of",
+           "flat_worth"}
+# These have another argument behind the star.
+RAISED_OR_NOT = {"rest", "taken"}
 # These tell what a thing isn't, instead of refusing it, or take good ones alone.
-TELLING = {"is_heights", "is_pairing", "is_side"}
+TELLING = {"is_heights", "is_pairing", "is_side", "is_powers", "is_sum"}
 WRONG = [None, [], {}, [[0]], ["up", 1, 1], [("up", 1, 1)], [[1, 1]], {"up": [1]}, ([1, 1],), ((1, [1]),)]
 
 
@@ -72,7 +106,10 @@ class Arguments(unittest.TestCase):
     def test_names_and_order(self):
         for function, name, told in functions():
             taken = inspect.signature(function).parameters
-            self.assertEqual(list(taken), [*told, "rule"] if name in BY_RULE else list(told), name)
+            behind = ["rule"] if name in BY_RULE else ["raised"] if name in RAISED_OR_NOT else []
+            self.assertEqual(list(taken), [*told, *behind], name)
+            if name in RAISED_OR_NOT:
+                self.assertEqual((taken["raised"].kind, taken["raised"].default), (inspect.Parameter.KEYWORD_ONLY, False))
             if name in BY_RULE:
                 self.assertEqual((taken["rule"].kind, taken["rule"].default), (inspect.Parameter.KEYWORD_ONLY, ONE))
             for argument in told:
@@ -130,7 +167,7 @@ class Arguments(unittest.TestCase):
             function(**told)
             self.assertEqual(told, kept)
             for key in told:
-                if name != "is_side":
+                if name != "is_side" and (name != "weight" or key == "weighing"):
                     for thing in WRONG:
                         wrong = {**told, key: copy.deepcopy(thing)}
                         outcome(function, **wrong)
@@ -149,6 +186,14 @@ class Arguments(unittest.TestCase):
         every.clear()
         self.assertEqual(pairings.pairings(HOLLOW, (1, 1, 2)), kept)
 
+    def test_a_told_list_or_dict_that_is_changed_changes_nothing(self):
+        for function, _, told in functions():
+            first = function(**told)
+            if type(first) in (list, dict):
+                kept = copy.deepcopy(first)
+                first.clear()
+                self.assertEqual(function(**told), kept)
+
     def test_true_and_false_are_no_whole_numbers(self):
         field = (flat_field(5, 5)[0], rows_by(5, 5, lambda x, y: ONE))
         for function, name, told in functions():
@@ -159,6 +204,8 @@ class Arguments(unittest.TestCase):
                         self.assertNotEqual(outcome(function, **{**told, key: wrong})[0], "told", (name, key))
         self.assertIs(heights.is_heights(with_flags(FEW, 1, True)), False)
         self.assertIs(pairings.is_pairing(HOLLOW, (1, 1, 2), with_flags(PAIRED, 1, True)), False)
+        self.assertIs(letters.is_powers(with_flags(POWERS, 1, True)), False)
+        self.assertIs(letters.is_sum(with_flags(SUM, 1, True)), False)
         self.assertEqual(outcome(reach.worth_at, field, True, 1, 0)[0], "BadTarget")
 
     def test_what_is_told_may_be_handed_in_again_however_long(self):
@@ -178,6 +225,8 @@ def with_flags(thing, number, flag):
         parts = [with_flags(part, number, flag) for part in thing]
         if any(part is not None for part in parts):
             return tuple(old if new is None else new for old, new in zip(thing, parts))
+    if type(thing) is list:
+        return None if with_flags(tuple(thing), number, flag) is None else list(with_flags(tuple(thing), number, flag))
     return None
 
 

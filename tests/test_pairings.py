@@ -72,7 +72,7 @@ class WhichTheyAre(unittest.TestCase):
         for heights, target in [(SLOPE[0], (7, 3, 6)), (flat_field(9, 9)[0], (4, 4, 4)),
                                 (low_heights(8, 8, "one", 20), None)]:
             if target is None:
-                target = next(target for target in targets_of(heights) if target[2] - heights[target[1]][target[0]] == 4)
+                target = next((x, y, n) for x, y, n in targets_of(heights) if n - heights[y][x] == 4)
             field = field_on(heights)
             every = knots(field, target)
             told = {tie: ends(field, tie) for tie in web(field, target)}

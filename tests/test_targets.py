@@ -111,7 +111,8 @@ class ClosedAndOpen(unittest.TestCase):
         told = {spot: (is_closed(FLAT, (2, 2, 2), spot), is_open(FLAT, (2, 2, 2), spot)) for spot in places_of(FLAT[0])}
         self.assertEqual([spot for spot in told if told[spot] == (True, False)], [(2, 2)])
         self.assertEqual([spot for spot in told if told[spot] == (False, True)],
-                         [(0, 2), (1, 1), (1, 2), (1, 3), (2, 0), (2, 1), (2, 3), (2, 4), (3, 1), (3, 2), (3, 3), (4, 2)])
+                         [(0, 2), (1, 1), (1, 2), (1, 3), (2, 0), (2, 1), (2, 3), (2, 4), (3, 1), (3, 2), (3, 3),
+                          (4, 2)])
         self.assertEqual([spot for spot in told if told[spot] == (False, False)],
                          [spot for spot in places_of(FLAT[0]) if abs(spot[0] - 2) + abs(spot[1] - 2) > 2])
         self.assertEqual(cone(FLAT, (2, 2, 2)), ((2, 2),))
