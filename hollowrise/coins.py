@@ -104,8 +104,7 @@ def _boxes_behind(stage, found):
         if len(ways) == 1:
             behind[ways[0]] = behind.get(ways[0], []) + some
         else:
-            upright = [box + (((0, 1), stage.part),) for box in some]
-            level = [box + ((stage.part, (1, 1)),) for box in some]
-            behind[ways[0]] = behind.get(ways[0], []) + upright
-            behind[ways[1]] = behind.get(ways[1], []) + level
+            # Where one goes over to two, no other one goes over to these.
+            behind[ways[0]] = [box + (((0, 1), stage.part),) for box in some]
+            behind[ways[1]] = [box + ((stage.part, (1, 1)),) for box in some]
     return behind

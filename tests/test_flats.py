@@ -181,6 +181,7 @@ class Leaning(unittest.TestCase):
             if thing != (1, 2) or type(thing) is not tuple:
                 self.assertRaises(BadFraction, leaning, HIGH, 0, thing)
         self.assertIs(is_flat(leaning(HIGH, 0, (1, 2))), True)
+        self.assertRaises(BadFraction, leaning, flat(3, 1), 0, (0, 1))
 
     def test_too_great_with_1000(self):
         # By the base 0 the farthest row of 11 has F 55, that of 2 has 1; by the base 10 row 0 has 45.
@@ -194,6 +195,8 @@ class Leaning(unittest.TestCase):
                 with self.assertRaises(TooGreat) as caught:
                     leaning(flat(3, high), base, q)
                 self.assertEqual(caught.exception.most, 1000)
+        for q in ((below + 1, 1), (1, below + 1), (below + 1, below), (below, below + 1)):
+            self.assertRaises(TooGreat, leaning, flat(3, 2), 0, q)
         self.assertEqual(leaning(flat(3, 1), 0, (10 ** 3000, 1)), flat(3, 1))
 
 
