@@ -251,9 +251,7 @@ def is_rim_low(rows):
 
 
 def are_height_rows(thing):
-    """True of rows of whole numbers, of a BOARD, those of the RIM within their bounds, whatever their steps."""
-    if not is_side_long(thing) or not is_side_long(thing[0]):
-        return False
+    """True of a tuple of rows like the first, of whole numbers, within bounds on the RIM, whatever their steps."""
     wide = len(thing[0])
     for row in thing:
         if type(row) is not tuple or len(row) != wide:

@@ -8,7 +8,7 @@ from hollowrise.deeds import hollows, lowered, lowered_all, peaks, raised, raise
 from hollowrise.errors import BadField, BadRule, BadSpot, NoHollow, NoPeak, Nought
 from hollowrise.fields import is_field, with_worth, worth_of
 from tests.plain import ONE, RULES, can_go, chance_field, deed_done, heights_behind, outcome, places_of, wander
-from tests.samples import ODD_THINGS, SIXTY, SIZES, flat_field, random_field, rows_by, worths_for
+from tests.samples import ODD_THINGS, SIXTY, SIZES, flat_field, lacks_one, random_field, rows_by, worths_for
 from tests.test_fields import NO_FIELDS, no_spots
 
 # A HOLLOW in the middle, and what it is RAISED to by (1, 1) and by (2, -3).
@@ -129,6 +129,15 @@ class One(unittest.TestCase):
                         with self.assertRaises(kind) as caught:
                             function(field, (x, y))
                         self.assertEqual(caught.exception.spot, (x, y))
+
+    def test_none_on_the_rim_whatever_stands_at_the_other_side_of_the_board(self):
+        for wide, high in SIZES:
+            flat = flat_field(wide, high)
+            for field in (flat, (rows_by(wide, high, lambda x, y: -((x + y) % 2)), flat[1])):
+                for x, y in places_of(field[0]):
+                    if lacks_one(x, y, wide, high) and (wide * high < 40 or (x + y) % 3 == 0):
+                        for _, function, kind in SINGLE:
+                            self.assertRaises(kind, function, field, (x, y))
 
     def test_nought_with_its_spot(self):
         for heights, function in ((HOLLOW[0], raised), (PEAK[0], lowered)):

@@ -5,7 +5,7 @@ from fractions import Fraction
 from math import gcd
 
 from hollowrise.errors import BadFraction
-from hollowrise.fractions import by, fraction, is_fraction, less, plus, power, times
+from hollowrise.fractions import by, fraction, is_fraction, less, plus, power, so_many, times
 from tests.samples import ODD_THINGS
 
 SIXTY = 10 ** 59 + 7
@@ -16,6 +16,14 @@ GREAT = [(SIXTY, 1), (-SIXTY, 10 ** 59), (1, SIXTY), (6 * SIXTY, 35 * (SIXTY + 2
 
 def pair(value):
     return (value.numerator, value.denominator)
+
+
+class SoMany(unittest.TestCase):
+    def test_as_times_a_whole_number(self):
+        for one in SMALL + GREAT:
+            for number in NUMBERS:
+                self.assertEqual(so_many(one, number), times(one, (number, 1)))
+                self.assertEqual(so_many(one, number), pair(Fraction(*one) * number))
 
 
 class IsFraction(unittest.TestCase):

@@ -282,6 +282,14 @@ class FirstRow(unittest.TestCase):
                     self.assertEqual(row, first_by_hand(first, last))
                     self.assertEqual((len(row), heights_behind(first, row)), (apart(first, last), last))
 
+    def test_boards_with_one_row_or_column_within(self):
+        for long, number in itertools.product(range(3, 12), range(12)):
+            for wide, high in ((long, 3), (3, long)):
+                heights = random_heights(wide, high, f"one row {number}", 20)
+                for one, other in ((lowest(heights), highest(heights)), (highest(heights), lowest(heights)),
+                                   (heights, highest(heights)), (lowest(heights), heights)):
+                    self.assertEqual(first_row(one, other), first_by_hand(one, other))
+
     def test_from_the_lowest_to_the_highest_of_the_greatest_board(self):
         flat = flat_field(11, 11)[0]
         low, top = lowest(flat), highest(flat)
