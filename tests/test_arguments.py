@@ -5,7 +5,7 @@ import inspect
 import unittest
 
 from hollowrise import (
-    coins, deeds, flats, heights, letters, pairings, reach, renewing, rows, targets, webs)
+    coins, deeds, flats, floors, heights, letters, minors, pairings, reach, renewing, rows, tables, targets, webs)
 from hollowrise.errors import BadField, BadRule
 from hollowrise.heights import highest
 from tests.plain import ONE, outcome
@@ -24,6 +24,10 @@ ABOVE = {**AT_HOLLOW, "field": (HOLLOW[0], rows_by(3, 3, lambda x, y: (1 + x, 1)
 POWERS = (((0, 1), 1), ((1, 1), -1), ((2, 1), 1))
 SUM = (((), 1), (POWERS, 2))
 WEIGHING = (1, (1, 0), (1, 1), (2, 3))
+LYING = ("ew", "ew")
+TWO_ROWS = (((1, 1), (2, 1)), ((0, 1), (1, 3)))
+TWO_WORTHS = (((1, 1), (2, 1)), ((-1, 2), (1, 3)))
+TABLE = ((0, 1), (1, 0))
 
 # Of each function: what may rightly be handed in, by the names and in the order that the interface tells.
 TOLD = {
@@ -87,14 +91,36 @@ TOLD = {
         "flat_target": {"field": HOLLOW, "spot": (1, 1)}, "order_of": AT_HOLLOW,
         "leaning": {"field": HOLLOW, "base": 1, "q": (1, 2)}, "told_floors": {"order": 1},
     },
+    floors: {
+        "is_floor": {"thing": LYING}, "floor_order": {"floor": LYING}, "floor_of": {**AT_HOLLOW, "pairing": PAIRED},
+        "pairing_by": {**AT_HOLLOW, "floor": LYING}, "lowest_floor": {"order": 1}, "highest_floor": {"order": 1},
+        "floors": {"order": 1}, "lifts_of": {"floor": LYING}, "floor_by": {"lifts": ((1,),)},
+        "lift_sum": {"floor": LYING}, "standing": {"floor": LYING}, "flips": {"floor": LYING},
+        "flipped": {"floor": LYING, "spot": (0, 0)}, "lesser_floor": {"one": LYING, "other": ("nn", "ss")},
+        "greater_floor": {"one": LYING, "other": ("nn", "ss")}, "apart_floors": {"one": LYING, "other": ("nn", "ss")},
+        "first_flips": {"one": LYING, "other": ("nn", "ss")}, "floor_powers": {"floor": LYING},
+        "by_number": {"order": 1, "number": 1}, "number_by": {"floor": LYING},
+    },
+    minors: {
+        "square": AT_HOLLOW, "inside": AT_HOLLOW, "square_worths": AT_HOLLOW, "minor_at": AT_HOLLOW,
+        "is_plain": AT_HOLLOW, "minor": {"rows": TWO_ROWS}, "frame": {"size": 1}, "field_by": {"rows": TWO_WORTHS},
+    },
+    tables: {
+        "is_table": {"thing": TABLE}, "need_table": {"thing": TABLE}, "sums": {"table": TABLE},
+        "minuses": {"table": TABLE}, "crossings": {"table": TABLE}, "heights_of": {"table": TABLE},
+        "table_of": {"heights": ((0, 1), (1, 0))}, "all_tables": {"size": 1}, "how_many_tables": {"size": 1},
+        "meet": {"great": TABLE, "small": ((1,),)}, "small_ones": {"great": TABLE}, "great_ones": {"small": TABLE},
+        "great_of": {**AT_HOLLOW, "pairing": PAIRED}, "small_of": {**AT_HOLLOW, "pairing": PAIRED},
+        "pairing_of": {**AT_HOLLOW, "great": TABLE, "small": ((1,),)}, "sum_by_tables": {"rows": TWO_WORTHS},
+    },
 }
 BY_RULE = {"raised", "lowered", "raised_all", "lowered_all", "done", "how_far", "led", "worth_at", "worths_at", "Held",
            "field_of", "pairing_worth", "worth_by_pairings", "check_groups", "share", "drawn", "story", "boxes", "sum_of",
-           "flat_worth"}
+           "flat_worth", "sum_by_tables"}
 # These have another argument behind the star.
 RAISED_OR_NOT = {"rest", "taken"}
 # These tell what a thing isn't, instead of refusing it, or take good ones alone.
-TELLING = {"is_heights", "is_pairing", "is_side", "is_powers", "is_sum"}
+TELLING = {"is_heights", "is_pairing", "is_side", "is_powers", "is_sum", "is_floor", "is_table"}
 WRONG = [None, [], {}, [[0]], ["up", 1, 1], [("up", 1, 1)], [[1, 1]], {"up": [1]}, ([1, 1],), ((1, [1]),)]
 
 
@@ -206,6 +232,8 @@ class Arguments(unittest.TestCase):
         self.assertIs(pairings.is_pairing(HOLLOW, (1, 1, 2), with_flags(PAIRED, 1, True)), False)
         self.assertIs(letters.is_powers(with_flags(POWERS, 1, True)), False)
         self.assertIs(letters.is_sum(with_flags(SUM, 1, True)), False)
+        self.assertIs(tables.is_table(with_flags(TABLE, 1, True)), False)
+        self.assertIs(tables.is_table(with_flags(TABLE, 0, False)), False)
         self.assertEqual(outcome(reach.worth_at, field, True, 1, 0)[0], "BadTarget")
 
     def test_what_is_told_may_be_handed_in_again_however_long(self):
