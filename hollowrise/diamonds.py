@@ -44,10 +44,8 @@ def is_even(spot, order):
 
 
 def words_of(order, row, below):
-    """All (text, its standing ones) of a row, rising, by the standing ones of the row below."""
+    """All (text, its standing ones) of a row, rising, by those of the row below; some may lead to no FLOOR."""
     half = half_of(order, row)
-    # Only where the next row has a cell, too, can one stand.
-    most = half_of(order, row + 1)
     told = [("", 0)]
     last = []
     for place in reversed(range(order - half, order + half)):
@@ -55,10 +53,8 @@ def words_of(order, row, below):
             found = [("s" + text, up) for text, up in told]
             last = []
         else:
-            found = [("ew" + text, up) for text, up in last]
+            found = [("ew" + text, up) for text, up in last] + [("n" + text, up | 1 << place) for text, up in told]
             last = told
-            if order - most <= place < order + most:
-                found = found + [("n" + text, up | 1 << place) for text, up in told]
         told = found
     return told
 
@@ -95,19 +91,17 @@ def _is_covered(floor):
     lines = []
     for row, text in enumerate(floor):
         half = half_of(order, row)
-        if len(text) != 2 * half:
+        if len(text) != 2 * half or "." in text:
             return False
         beside = "." * (order - half)
         lines.append(beside + text + beside)
     # One sign between two rows, so that none leads from the end of one to the next.
     cells = ".".join(lines)
-    if cells.count("n") + cells.count("s") + 2 * cells.count("ew") != 2 * order * (order + 1):
-        return False
-    standing = cells.replace("ew", "..")
-    feet = standing.replace("s", ".")
-    heads = standing.replace("n", ".").replace("s", "n")
+    # What is left but "s" has to stand once more in the row to the north, as what is left but "n": any other letter
+    # would go on so, and come to an end nowhere.
+    left = cells.replace("ew", "..")
     gap = "." * (2 * order + 1)
-    return gap + feet == heads + gap
+    return gap + left.replace("s", ".") == left.replace("n", ".").replace("s", "n") + gap
 
 
 def _first_wrong(floor):

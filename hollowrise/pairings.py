@@ -4,9 +4,9 @@ from hollowrise.errors import BadPairing, Nought, TooGreat
 from hollowrise.fields import at
 from hollowrise.fractions import by, power, times
 from hollowrise.kinds import is_whole, need_rule
-from hollowrise.reach import worth_at
-from hollowrise.sweeps import all_by, how_many_by, number_by, of_number, steps_of, sum_by
-from hollowrise.targets import need_target, stands, sunk
+from hollowrise.reach import levels_behind
+from hollowrise.sweeps import all_by, how_many_by, number_by, of_number, steps_of, sums_by
+from hollowrise.targets import need_target, rising_to, stands, sunk
 from hollowrise.webs import ends_of, is_side, is_tie, knots_among, web_of
 
 MOST_PAIRINGS = 4096
@@ -53,9 +53,7 @@ def nth_pairing(field, target, number):
 def number_of(field, target, pairing):
     """The number of a PAIRING; TooGreat."""
     need_pairing(field, target, pairing)
-    steps = web_steps(field[0], target)
-    _need_few(how_many_by(steps))
-    return number_by(steps, pairing)
+    return number_by(few_steps(field[0], target), pairing)
 
 
 def powers_of(field, target, pairing):
@@ -81,19 +79,19 @@ def worth_by_pairings(field, target, *, rule=(1, 1)):
     """The sum of the WORTHS of all PAIRINGS, also where the WORTH AT the TARGET is refused; TooGreat."""
     need_target(field, target)
     need_rule(rule)
-    x, y, top = target
-    steps = web_steps(field[0], target)
-    _need_few(how_many_by(steps))
-    try:
-        # By T3 it is the same, and that takes less long.
-        return worth_at(field, x, y, top, rule=rule)
-    except Nought:
-        return _sum_by_steps(field, target, steps, rule)
+    return sum_of_pairings(field, target, rule)
 
 
 def web_steps(heights, target):
     """The steps in which the WEB is gone over."""
     return steps_of(heights, web_of(heights, target))
+
+
+def few_steps(heights, target):
+    """As web_steps; TooGreat of more PAIRINGS than are gone through."""
+    steps = web_steps(heights, target)
+    _need_few(how_many_by(steps))
+    return steps
 
 
 def _need_few(many):
@@ -104,9 +102,7 @@ def _need_few(many):
 
 def pairings_of(heights, target):
     """As pairings, of good HEIGHTS and a good TARGET."""
-    steps = web_steps(heights, target)
-    _need_few(how_many_by(steps))
-    return all_by(steps)
+    return all_by(few_steps(heights, target))
 
 
 def need_pairing_on(heights, target, thing):
@@ -173,12 +169,28 @@ def worth_by(field, powers, counts, rule):
     return worth
 
 
+def sum_of_pairings(field, target, rule):
+    """As worth_by_pairings, of a good FIELD, TARGET and RULE."""
+    steps = few_steps(field[0], target)
+    try:
+        # By T3 it is the same, and that takes less long.
+        return levels_behind(field, rising_to(field[0], target), rule)[target]
+    except Nought:
+        return _sum_by_steps(field, target, steps, rule)
+
+
 def _sum_by_steps(field, target, steps, rule):
-    """The sum of T3 by the TIES: each that is paired takes one WORTH of both its SPOTS away from what there is bare."""
+    """The sum of T3 by the TIES."""
+    bare, brought = by_ties(field, target, steps, rule)
+    return times(bare, sums_by(steps, brought, (), rule)[0])
+
+
+def by_ties(field, target, steps, rule):
+    """(What there is bare, what each TIE that is paired brings to that): it takes one WORTH of both its SPOTS away."""
     heights, worths = field
     bare = worth_by(field, bare_powers(heights, target), (0, 0), rule)
     brought = {}
     for step in steps:
-        tie = step[0]
-        brought[tie] = by((1, 1), times(at(worths, tie[0]), at(worths, tie[1])))
-    return times(bare, sum_by(steps, brought, rule))
+        one, other = step[0]
+        brought[step[0]] = by((1, 1), times(at(worths, one), at(worths, other)))
+    return (bare, brought)

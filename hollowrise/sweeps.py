@@ -127,21 +127,27 @@ def number_by(steps, pairing):
     return number
 
 
-def sum_by(steps, worths, rule):
-    """The sum, over all PAIRINGS, of all that their TIES bring together: each a FRACTION, and A and B by the SIDES."""
-    reached = {(0, 0, 0): (1, 1)}
+def sums_by(steps, worths, counted, rule):
+    """From how many of the counted TIES are paired to the sum, over all such PAIRINGS, of what their TIES bring.
+
+    Each TIE brings a FRACTION, and by the SIDES there come As and Bs; all that one PAIRING's bring is multiplied.
+    """
+    reached = {(0, 0, 0, 0): (1, 1)}
     for step in steps:
+        tie = step[0]
+        more = 1 if tie in counted else 0
         behind = {}
-        for (state, odd_a, odd_b), worth in reached.items():
+        for (state, odd_a, odd_b, many), worth in reached.items():
             other = gone_on(state, step, False)
             if other is not None:
-                _put(behind, (other, odd_a, odd_b), worth)
+                _put(behind, (other, odd_a, odd_b, many), worth)
             other = gone_on(state, step, True)
             if other is not None:
-                odds, worth = _with_tie(step[0], (odd_a, odd_b), times(worth, worths[step[0]]), rule)
-                _put(behind, (other,) + odds, worth)
+                odds, worth = _with_tie(tie, (odd_a, odd_b), times(worth, worths[tie]), rule)
+                _put(behind, (other,) + odds + (many + more,), worth)
         reached = behind
-    return reached[(0, 0, 0)]
+    # At the end all KNOTS are paired, and evenly many SIDES of either sort.
+    return {many: reached[(0, 0, 0, many)] for _, _, _, many in sorted(reached)}
 
 
 def _put(table, key, worth):

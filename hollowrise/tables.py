@@ -33,10 +33,10 @@ def need_table(thing):
         if not _is_row(row, len(thing)):
             raise BadTable(None)
     for number, row in enumerate(thing):
-        if not _is_line(row):
+        if not is_line(row):
             raise BadTable(("row", number))
     for number, column in enumerate(columns(thing)):
-        if not _is_line(column):
+        if not is_line(column):
             raise BadTable(("column", number))
 
 
@@ -206,7 +206,7 @@ def _is_row(thing, many):
     return True
 
 
-def _is_line(numbers):
+def is_line(numbers):
     """True of a row or a column as a TABLE has it."""
     told = 0
     for number in numbers:

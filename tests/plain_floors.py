@@ -138,7 +138,8 @@ def first_flips_by_hand(one, other):
     apart = ways_by_flips(other)
     row = []
     while one != other:
-        spot, one = next((spot, behind) for spot, (_, behind) in flips_by_hand(one).items() if apart[behind] < apart[one])
+        spot, one = next((spot, behind) for spot,
+                         (_, behind) in flips_by_hand(one).items() if apart[behind] < apart[one])
         row.append(spot)
     return tuple(row)
 

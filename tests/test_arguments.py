@@ -5,7 +5,9 @@ import inspect
 import unittest
 
 from hollowrise import (
-    coins, deeds, flats, floors, heights, letters, minors, pairings, reach, renewing, rows, tables, targets, webs)
+    changes, coins, deeds, flats, floors, heights, letters, minors, pairings, reach, renewing, rows, tables, targets,
+    texts,
+    webs)
 from hollowrise.errors import BadField, BadRule
 from hollowrise.heights import highest
 from tests.plain import ONE, outcome
@@ -113,12 +115,29 @@ TOLD = {
         "great_of": {**AT_HOLLOW, "pairing": PAIRED}, "small_of": {**AT_HOLLOW, "pairing": PAIRED},
         "pairing_of": {**AT_HOLLOW, "great": TABLE, "small": ((1,),)}, "sum_by_tables": {"rows": TWO_WORTHS},
     },
+    changes: {
+        "minded": AT_HOLLOW, "minding": {"field": HOLLOW, "spot": (1, 1)}, "parts": {**AT_HOLLOW, "spot": (1, 1)},
+        "changed": {**AT_HOLLOW, "spot": (1, 1), "fraction": (1, 2)},
+        "form_at": {"form": "x", "x": 1, "y": 2, "height": 3},
+        "laden": {"field": HOLLOW, "form": "x", "fraction": (1, 2)},
+        "weighed": {**AT_HOLLOW, "pairing": PAIRED, "form": "one"},
+    },
+    texts: {
+        "fraction_text": {"fraction": (1, 2)}, "field_text": {"field": HOLLOW}, "row_text": {"row": UP},
+        "pairing_text": {**AT_HOLLOW, "pairing": PAIRED}, "table_text": {"table": TABLE},
+        "fraction_in": {"text": "1/2"},
+        "field_in": {"text": "field 1 1\nheights 0\nworths 1"}, "row_in": {"text": "up 1 1"},
+        "pairing_in": {"field": HOLLOW, "text": "target 0 1 1"}, "table_in": {"text": "+"},
+    },
 }
 BY_RULE = {"raised", "lowered", "raised_all", "lowered_all", "done", "how_far", "led", "worth_at", "worths_at", "Held",
-           "field_of", "pairing_worth", "worth_by_pairings", "check_groups", "share", "drawn", "story", "boxes", "sum_of",
-           "flat_worth", "sum_by_tables"}
+           "field_of", "pairing_worth", "worth_by_pairings", "check_groups", "share", "drawn", "story", "boxes",
+           "sum_of",
+           "flat_worth", "sum_by_tables", "parts", "changed"}
 # These have another argument behind the star.
 RAISED_OR_NOT = {"rest", "taken"}
+# Of these some arguments, or all, have to be good ones.
+OF_ANYTHING = {"is_side": (), "weight": ("weighing",), "form_at": ("form",)}
 # These tell what a thing isn't, instead of refusing it, or take good ones alone.
 TELLING = {"is_heights", "is_pairing", "is_side", "is_powers", "is_sum", "is_floor", "is_table"}
 WRONG = [None, [], {}, [[0]], ["up", 1, 1], [("up", 1, 1)], [[1, 1]], {"up": [1]}, ([1, 1],), ((1, [1]),)]
@@ -135,7 +154,8 @@ class Arguments(unittest.TestCase):
             behind = ["rule"] if name in BY_RULE else ["raised"] if name in RAISED_OR_NOT else []
             self.assertEqual(list(taken), [*told, *behind], name)
             if name in RAISED_OR_NOT:
-                self.assertEqual((taken["raised"].kind, taken["raised"].default), (inspect.Parameter.KEYWORD_ONLY, False))
+                self.assertEqual((taken["raised"].kind, taken["raised"].default),
+                                 (inspect.Parameter.KEYWORD_ONLY, False))
             if name in BY_RULE:
                 self.assertEqual((taken["rule"].kind, taken["rule"].default), (inspect.Parameter.KEYWORD_ONLY, ONE))
             for argument in told:
@@ -193,7 +213,7 @@ class Arguments(unittest.TestCase):
             function(**told)
             self.assertEqual(told, kept)
             for key in told:
-                if name != "is_side" and (name != "weight" or key == "weighing"):
+                if key in OF_ANYTHING.get(name, told):
                     for thing in WRONG:
                         wrong = {**told, key: copy.deepcopy(thing)}
                         outcome(function, **wrong)
@@ -226,7 +246,7 @@ class Arguments(unittest.TestCase):
             for key, thing in told.items():
                 for number, flag in ((0, False), (1, True)):
                     wrong = with_flags(thing, number, flag)
-                    if wrong is not None and name not in TELLING:
+                    if wrong is not None and name not in TELLING and name != "form_at":
                         self.assertNotEqual(outcome(function, **{**told, key: wrong})[0], "told", (name, key))
         self.assertIs(heights.is_heights(with_flags(FEW, 1, True)), False)
         self.assertIs(pairings.is_pairing(HOLLOW, (1, 1, 2), with_flags(PAIRED, 1, True)), False)

@@ -59,8 +59,15 @@ def near_floors(floor, seed):
         for cell in range(len(text)):
             for letter in chance.sample(["e", "w", "n", "s", "x", "E", ".", "", "ew", "\n"], 4):
                 found.append(with_letter(floor, row, cell, letter))
-        found += [floor[:row] + (other,) + floor[row + 1:] for other in (text + "e", "w" + text, text[:-1], text[1:], "",
+        found += [floor[:row] + (other,) + floor[row + 1:] for other in (text + "e", "w" + text, text[:-1], text[1:],
+                                                                         "",
                                                                          text + text, text[::-1], text + " ")]
+    found += [tuple(text.replace(one, other) for text in floor) for one, other in (("ew", ".."), ("n", "."), ("s", "n"),
+                                                                                   ("ew", "we"), ("e", "."),
+                                                                                   ("n", "x"))]
+    found.append(tuple(text.replace("n", ".").replace("s", ".") for text in floor))
+    found.append(tuple(text.replace("n", "x").replace("s", "x") for text in floor))
+    found = [thing for thing in found if thing != floor]
     rows = list(floor)
     for _ in range(6):
         one, other = chance.randrange(len(rows)), chance.randrange(len(rows))
@@ -228,7 +235,8 @@ class AsPairings(unittest.TestCase):
         self.assertEqual(outcome(floor_of, FIELD, (4, 3, 3), pairing[:-1]), ("BadPairing", {"number": 5}))
         self.assertEqual(outcome(floor_of, FIELD, (4, 3, 3), None), ("BadPairing", {"number": None}))
         self.assertEqual(outcome(floor_of, FIELD, (4, 3, 3), floor), ("BadPairing", {"number": 0}))
-        self.assertEqual(outcome(pairing_by, FIELD, (4, 3, 3), ("ew", "ew", "ew", "ew")), ("BadFloor", {"place": (1, 2)}))
+        self.assertEqual(outcome(pairing_by, FIELD, (4, 3, 3), ("ew", "ew", "ew", "ew")),
+                         ("BadFloor", {"place": (1, 2)}))
         for order in (1, 3, 8):
             self.assertEqual(outcome(pairing_by, FIELD, (4, 3, 3), lowest_floor(order)), ("BadFloor", {"place": None}))
         self.assertRaises(BadPairing, floor_of, FIELD, (4, 4, 4), pairing)
@@ -280,7 +288,8 @@ class Lifts(unittest.TestCase):
             lifts = lifts_of(floor)
             spots = inner_spots(order)
             for (u, v), step in itertools.product(spots[::1 if order < 4 else 5], (-2, -1, 1, 2, 10 ** 50)):
-                told = in_rows(order, lambda a, b: lifts[b + order - 1][a + order - 1 - abs(b)] + step * ((a, b) == (u, v)))
+                more = {(u, v): step}
+                told = in_rows(order, lambda a, b: lifts[b + order - 1][a + order - 1 - abs(b)] + more.get((a, b), 0))
                 place = odd_lift(told)
                 if place is None:
                     self.assertEqual(lifts_of(floor_by(told)), told)
@@ -288,7 +297,8 @@ class Lifts(unittest.TestCase):
                     self.assertEqual(outcome(floor_by, told), ("BadLifts", {"place": place}))
 
     def test_bad_lifts_none(self):
-        wrong = ODD_THINGS + [((0,), (0, 0, 0)), ((0,), (0, 0), (0,)), [(0,)], ([0],), ((0.0,),), ((True,),), ((None,),),
+        wrong = ODD_THINGS + [((0,), (0, 0, 0)), ((0,), (0, 0), (0,)), [(0,)], ([0],), ((0.0,),), ((True,),),
+                              ((None,),),
                               ((0,), (0, 0, 0), (False,)), ((0,),) * 3, ((0, 0, 0),), ((), (0,), ()), (((0,),),),
                               ((0,), (0, 0, 0), (0,), ()), lifts_of(lowest_floor(8)) + ((), ()),
                               in_rows(9, lambda u, v: 0), ((0,), [0, 0, 0], (0,)), ("0",), ((9,), (9, 9, 9), ("9",)),
@@ -342,7 +352,8 @@ class Flips(unittest.TestCase):
             order = len(floor) // 2
             every = flips_by_hand(floor)
             near = [(u, v) for u in range(-order - 1, order + 2) for v in range(-order - 1, order + 2)]
-            odd = ODD_THINGS + [(0.0, 0), (0, False), (True, 0), [0, 0], (0,), (0, 0, 0), ((0, 0), (0, 0)), (10 ** 999, 0),
+            odd = ODD_THINGS + [(0.0, 0), (0, False), (True, 0), [0, 0], (0,), (0, 0, 0), ((0, 0), (0, 0)),
+                                (10 ** 999, 0),
                                 ("0", 0), Rows((0, 0))]
             for thing in near + odd:
                 if type(thing) is not tuple or thing not in every or any(type(part) is not int for part in thing):
@@ -445,7 +456,8 @@ class Numbers(unittest.TestCase):
                 self.assertEqual(outcome(by_number, order, thing), ("BadOrder", {}))
         for order in (7, 8):
             self.assertEqual(outcome(number_by, lowest_floor(order)), ("BadOrder", {}))
-            self.assertEqual(outcome(number_by, lowest_floor(order)[:-1] + ("we",)), ("BadFloor", {"place": (2 * order - 1, 0)}))
+            self.assertEqual(outcome(number_by, lowest_floor(order)[:-1] + ("we",)),
+                             ("BadFloor", {"place": (2 * order - 1, 0)}))
 
 
 if __name__ == "__main__":

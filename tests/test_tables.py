@@ -182,7 +182,8 @@ class Told(unittest.TestCase):
                                     [[0, 1], [1, 0]], ((0, 1), (1, True))]
         heights = squares_rim(3)
         wrong += [tuple(tuple(height + 2 for height in row) for row in heights),
-                  tuple(tuple(-height for height in row) for row in heights), heights[::-1], tuple(row[::-1] for row in heights), heights[:3], tuple(row[:3] for row in heights)]
+                  tuple(tuple(-height for height in row) for row in heights), heights[::-1],
+                  tuple(row[::-1] for row in heights), heights[:3], tuple(row[:3] for row in heights)]
         wrong += [random_heights(size, size, f"rim {size}") for size in range(2, 9)]
         for x, y in places_of(heights):
             for step in (-2, -1, 1, 2):
@@ -237,7 +238,8 @@ class Meeting(unittest.TestCase):
             self.assertEqual(told, sorted(told))
             self.assertEqual(len(set(told)), 2 ** minuses(great))
             if 1 < len(great) < 6:
-                self.assertEqual(told, [small for small in tables_by_hand(len(great) - 1) if meet_by_hand(great, small)])
+                self.assertEqual(told, [small for small in tables_by_hand(len(great) - 1) if meet_by_hand(great,
+                                                                                                          small)])
             else:
                 self.assertTrue(all(small == () or is_table(small) and meet_by_hand(great, small) for small in told))
 
@@ -252,7 +254,8 @@ class Meeting(unittest.TestCase):
             self.assertEqual(told, sorted(told))
             self.assertEqual(len(set(told)), 2 ** sum(number == 1 for row in small for number in row))
             if len(small) < 5:
-                self.assertEqual(told, [great for great in tables_by_hand(len(small) + 1) if meet_by_hand(great, small)])
+                self.assertEqual(told, [great for great in tables_by_hand(len(small) + 1) if meet_by_hand(great,
+                                                                                                          small)])
             else:
                 self.assertTrue(all(is_table(great) and meet_by_hand(great, small) for great in told[::97]))
 
@@ -283,8 +286,9 @@ class AsPairings(unittest.TestCase):
         for pairing in pairings(field, target):
             great = great_of(field=field, target=target, pairing=pairing)
             small = small_of(field=field, target=target, pairing=pairing)
-            self.assertEqual(great, tuple(tuple(1 - sum(spot in tie for tie in pairing) for spot in row) for row in spots))
-            self.assertEqual(small, tuple(tuple(sum(spot in tie for tie in pairing) - 1 for spot in row) for row in within))
+            many = {spot: sum(spot in tie for tie in pairing) for spot in places_of(field[0])}
+            self.assertEqual(great, tuple(tuple(1 - many[spot] for spot in row) for row in spots))
+            self.assertEqual(small, tuple(tuple(many[spot] - 1 for spot in row) for row in within))
             self.assertIsNone(wrong_line(great))
             self.assertIsNone(wrong_line(small))
             self.assertEqual(pairing_of(field=field, target=target, great=great, small=small), pairing)
@@ -332,7 +336,8 @@ class AsPairings(unittest.TestCase):
         for target, great, small, place in [
                 ((3, 2, 3), wrong, None, ("row", 1)), ((3, 2, 3), unit(3), wrong, ("row", 1)),
                 ((3, 2, 3), unit(2), wrong, ("row", 1)), ((3, 2, 3), unit(2), unit(1), None),
-                ((3, 2, 3), unit(3), unit(3), None), ((3, 2, 3), unit(4), unit(3), None), ((3, 2, 3), unit(3), (), None),
+                ((3, 2, 3), unit(3), unit(3), None), ((3, 2, 3), unit(4), unit(3), None),
+                ((3, 2, 3), unit(3), (), None),
                 ((3, 2, 1), unit(1), unit(1), None), ((3, 2, 1), unit(2), (), None), ((3, 2, 1), unit(1), None, None),
                 ((3, 3, 2), unit(2), (), None), ((3, 3, 2), unit(1), (), None)]:
             self.assertEqual(outcome(pairing_of, FIELD, target, great, small), ("BadTable", {"place": place}))
