@@ -1,7 +1,8 @@
 """FLAT FIELDS, and how many FLOORS of small stones there are by their LIFTS and their STANDING stones."""
 
-from hollowrise.errors import BadField, BadFraction, BadOrder, BadTarget, TooGreat
+from hollowrise.errors import BadField, BadFraction, BadOrder, BadTarget
 from hollowrise.fields import MOST_SIDE, need_field, need_spot, rim_of, sides
+from hollowrise.figures import short_power
 from hollowrise.fractions import is_fraction, power
 from hollowrise.heights import rows_by, span_at
 from hollowrise.kinds import is_whole, need_rule
@@ -10,7 +11,6 @@ from hollowrise.targets import need_target_on
 MOST_ORDER = 8
 MOST_N = 9
 MOST_BASE = 10
-MOST_FIGURES = 1000
 
 
 def flat(wide, high):
@@ -61,7 +61,6 @@ def leaning(field, base, q):
         raise BadFraction("this is no fraction above 0")
     wide, high = sides(field[0])
     rows = [_leaning_worths(q, y - base) for y in range(high)]
-    _need_short(rows)
     return (_flat_heights((wide, high)), rows_by((wide, high), lambda spot: rows[spot[1]][(spot[0] + spot[1]) % 2]))
 
 
@@ -102,18 +101,10 @@ def _flat_heights(size):
 
 
 def _leaning_worths(q, north):
-    """The WORTHS at the heights 0 and 1, so many rows north of the base."""
-    often = north * (north + 1) // 2
-    return (power(q, -often), power(q, often))
-
-
-def _need_short(rows):
-    """None, or TooGreat of a WORTH with a number of more than a thousand figures; of WORTHS above 0."""
-    bound, _ = power((10, 1), MOST_FIGURES)
-    for row in rows:
-        for above, below in row:
-            if above >= bound or below >= bound:
-                raise TooGreat(MOST_FIGURES)
+    """The WORTHS at the heights 0 and 1, so many rows north of the base; TooGreat."""
+    worth = short_power(q, north * (north + 1) // 2)
+    # Above 0, one is turned over by exchanging both its numbers.
+    return (worth[::-1], worth)
 
 
 def _times_one_more(told, lifts):

@@ -199,6 +199,41 @@ class Leaning(unittest.TestCase):
             self.assertRaises(TooGreat, leaning, flat(3, 2), 0, q)
         self.assertEqual(leaning(flat(3, 1), 0, (10 ** 3000, 1)), flat(3, 1))
 
+    def test_however_long_a_fraction_is(self):
+        # What has so many figures would never be worked out.
+        for q in ((10 ** 40000 + 1, 1), (7 ** 40000, 10), (1, 10 ** 40000), (3, 2 ** 90000), (2 ** 90000, 3 ** 50)):
+            for (wide, high), base in itertools.product([(9, 9), (2, 11), (1, 2), (3, 3)], range(11)):
+                # V is 0, or one less, in each row of a BOARD whose WORTHS are all 1.
+                if all(v in (-1, 0) for v in range(-base, high - base)):
+                    self.assertEqual(leaning(flat(wide, high), base, q), flat(wide, high))
+                else:
+                    with self.assertRaises(TooGreat) as caught:
+                        leaning(flat(wide, high), base, q)
+                    self.assertEqual(caught.exception.most, 1000)
+        for q in ((10 ** 40000, 1), (1, 10 ** 40000)):
+            self.assertEqual(leaning(flat(11, 1), 0, q), flat(11, 1))
+            self.assertEqual(leaning(flat(11, 1), 1, q), flat(11, 1))
+            self.assertEqual(leaning(flat(2, 2), 1, q), flat(2, 2))
+            self.assertRaises(TooGreat, leaning, flat(2, 2), 0, q)
+            self.assertRaises(TooGreat, leaning, flat(2, 2), 2, q)
+            self.assertRaises(BadOrder, leaning, flat(9, 9), None, q)
+        self.assertRaises(BadFraction, leaning, flat(9, 9), 0, (10 ** 4000, 10))
+        self.assertRaises(BadFraction, leaning, flat(9, 9), 0, (-10 ** 4000, 1))
+
+    def test_the_bound_bit_by_bit(self):
+        # Of each number of bits round the bound the least and the greatest.
+        for high, base, often in ((2, 0, 1), (3, 0, 3), (4, 0, 6), (5, 0, 10), (1, 3, 3), (1, 4, 6)):
+            for bits in range(3315 // often - 1, 3330 // often + 3):
+                for number in (2 ** bits - 1, 2 ** bits, 2 ** bits + 1):
+                    for q in ((number, 1), (1, number)):
+                        try:
+                            told = leaning(flat(2, high), base, q)
+                        except TooGreat:
+                            self.assertGreaterEqual(number ** often, 10 ** 1000)
+                        else:
+                            self.assertLess(number ** often, 10 ** 1000)
+                            self.assertIn(number ** often, [worth[0] for row in told[1] for worth in row])
+
 
 def integer_root(number, often):
     """The greatest whole number that to this power is no more."""
