@@ -1,5 +1,6 @@
 """Where the WORTH AT a TARGET changes with that of a SPOT, and FIELDS LADEN with FORMS."""
 
+from hollowrise.cones import cone_of, stands, sunk
 from hollowrise.errors import BadForm, BadFraction
 from hollowrise.fields import around, at, is_worth, need_field, need_spot, neighbours_of, sides, spots_of, with_at
 from hollowrise.figures import short_product
@@ -8,7 +9,7 @@ from hollowrise.heights import highest_of
 from hollowrise.kinds import need_rule
 from hollowrise.pairings import bare_powers, by_ties, few_steps, need_pairing, powers_by, sum_of_pairings
 from hollowrise.sweeps import sums_by
-from hollowrise.targets import cone_of, need_target, stands, sunk
+from hollowrise.targets import need_target
 
 FORMS = ("one", "x", "y", "height", "xy", "x height", "y height", "squares")
 

@@ -2,11 +2,13 @@
 
 from hollowrise.errors import BadSpot, NoHollow, NoPeak, Nought
 from hollowrise.fields import at, inner_of, need_field, need_spot, sides, with_at
-from hollowrise.fractions import by, plus, so_many, times
+from hollowrise.fractions import by, fraction, plus, so_many, times
 from hollowrise.kinds import need_rule
 
 UP = 1
 DOWN = -1
+# Where all BELOWS together are no more, one division at the end takes less long than several on the way.
+SMALL = 10 ** 15
 
 
 def hollows(field):
@@ -115,9 +117,19 @@ def height_behind(heights, spot, step):
 
 def worth_behind(spot, near, own, rule):
     """The WORTH that a SPOT has behind a DEED, by those of its NEIGHBOURS, as they rise, and its own; or Nought."""
-    a, b = rule
-    west, south, north, east = near
-    worth = by(plus(so_many(times(west, east), a), so_many(times(north, south), b)), own)
+    worth = sum_by_own(near, own, rule)
     if worth[0] == 0:
         raise Nought(spot)
     return worth
+
+
+def sum_by_own(near, own, rule):
+    """As worth_behind, also where it is 0."""
+    a, b = rule
+    (west, west_below), (south, south_below), (north, north_below), (east, east_below) = near
+    if west_below + south_below + north_below + east_below > SMALL:
+        # Long numbers are kept short by what they share on the way.
+        return by(plus(so_many(times(near[0], near[3]), a), so_many(times(near[1], near[2]), b)), own)
+    level = west_below * east_below
+    upright = south_below * north_below
+    return fraction((a * west * east * upright + b * south * north * level) * own[1], level * upright * own[0])

@@ -2,13 +2,14 @@
 
 from hollowrise.book import Book, is_name
 from hollowrise.changes import FORMS, minded
+from hollowrise.cones import heights_of_target
 from hollowrise.deeds import hollows, peaks
 from hollowrise.errors import BadJob, DeedError, Full, Gone, HollowError, NoName, Taken
 from hollowrise.flats import flat
 from hollowrise.minors import minor_at, need_square
 from hollowrise.pairings import how_many, nth_pairing, powers_of
 from hollowrise.tables import great_of, small_of
-from hollowrise.targets import heights_of_target, need_target
+from hollowrise.targets import need_target
 from hollowrise.texts import field_text, fraction_text, rows_signed
 from hollowrise.words import fraction_in_word, number_in_word
 

@@ -217,7 +217,8 @@ def wrong_with_heights(thing):
         for height, below in zip(row, south):
             if type(height) is not int:
                 return "heights"
-            if height - west not in (1, -1) or height - below not in (1, -1):
+            # Of whole numbers just where both are one apart.
+            if (height - west) * (height - below) not in (1, -1):
                 return _wrong_or_steps(thing)
             west = height
         south = row

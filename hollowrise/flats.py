@@ -1,7 +1,7 @@
 """FLAT FIELDS, and how many FLOORS of small stones there are by their LIFTS and their STANDING stones."""
 
 from hollowrise.errors import BadField, BadFraction, BadOrder, BadTarget
-from hollowrise.fields import MOST_SIDE, need_field, need_spot, rim_of, sides
+from hollowrise.fields import MOST_SIDE, need_field, need_spot, sides
 from hollowrise.figures import short_power
 from hollowrise.fractions import is_fraction, power
 from hollowrise.heights import rows_by, span_at
@@ -40,7 +40,7 @@ def flat_target(field, spot):
     need_flat(field)
     heights, _ = field
     need_spot(spot, sides(heights))
-    _, top = span_at(heights, rim_of(sides(heights)), spot)
+    _, top = span_at(heights, spot)
     return spot + (top,)
 
 

@@ -1,7 +1,7 @@
 """HEIGHTS by themselves: held against others of one BOARD and RIM, and all of these."""
 
 from hollowrise.errors import BadHeights, TooGreat
-from hollowrise.fields import at, rim_of, sides, way, wrong_with_heights
+from hollowrise.fields import at, rim_of, sides, wrong_with_heights
 
 MOST_HEIGHTS = 4096
 
@@ -83,21 +83,23 @@ def greater_of(one, other):
 
 def lowest_of(heights):
     """As lowest, of good HEIGHTS."""
-    edge = rim_of(sides(heights))
-    return rows_by(sides(heights), lambda spot: span_at(heights, edge, spot)[0])
+    return rows_by(sides(heights), lambda spot: span_at(heights, spot)[0])
 
 
 def highest_of(heights):
     """As highest, of good HEIGHTS."""
-    edge = rim_of(sides(heights))
-    return rows_by(sides(heights), lambda spot: span_at(heights, edge, spot)[1])
+    return rows_by(sides(heights), lambda spot: span_at(heights, spot)[1])
 
 
-def span_at(heights, edge, spot):
-    """(LOWEST, HIGHEST) at a SPOT, by the SPOTS of the RIM."""
-    lows = [at(heights, near) - way(spot, near) for near in edge]
-    highs = [at(heights, near) + way(spot, near) for near in edge]
-    return (max(lows), min(highs))
+def span_at(heights, spot):
+    """(LOWEST, HIGHEST) of the RIM at a SPOT."""
+    x, y = spot
+    row = heights[y]
+    east = len(row) - 1 - x
+    north = len(heights) - 1 - y
+    # Along each side of the RIM heights are one apart: no SPOT of it sets closer bounds than the one in line with this.
+    low = max(row[0] - x, row[-1] - east, heights[0][x] - y, heights[-1][x] - north)
+    return (low, min(row[0] + x, row[-1] + east, heights[0][x] + y, heights[-1][x] + north))
 
 
 def rows_by(size, told):

@@ -1,12 +1,13 @@
 """SUMS of letters: POWERS with NUMBERS, the SUM OF A TARGET, and WEIGHTS."""
 
+from hollowrise.cones import cone_of, stands, sunk
 from hollowrise.errors import BadPowers, BadSum, BadWeighing, TooGreat
 from hollowrise.fields import MOST_SIDE, at, is_spot, need_field, need_spot, sides
 from hollowrise.fractions import plus, power, so_many, times
 from hollowrise.kinds import is_tuple_of, is_whole, need_rule
 from hollowrise.pairings import bare_powers, counts_by, pairings_of, powers_by
-from hollowrise.targets import cone_of, need_target, stands, sunk
-from hollowrise.webs import web_of
+from hollowrise.targets import need_target
+from hollowrise.webs import ties_by
 
 MOST_ROWS = 4096
 MOST_PRODUCTS = 16384
@@ -154,7 +155,7 @@ def most_met(field, target, spot):
     need_spot(spot, sides(heights))
     if stands(heights, target) and spot == target[:2]:
         return (1, 1)
-    many = len([tie for tie in web_of(heights, target) if spot in tie])
+    many = len(ties_by(heights, target, spot))
     if sunk(heights, target, spot) > 0:
         return (-1, many // 2 - 1)
     return (0, min(many, 1))

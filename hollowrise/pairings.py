@@ -1,15 +1,17 @@
 """PAIRINGS of a WEB: which they are, how many, their POWERS and their WORTHS."""
 
-from hollowrise.errors import BadPairing, Nought, TooGreat
+from hollowrise.cones import cone_of, levels_to, many_risen, stands, worths_risen
+from hollowrise.errors import BadPairing, TooGreat
 from hollowrise.fields import at
-from hollowrise.fractions import by, power, times
+from hollowrise.fractions import by, fraction, power, times
 from hollowrise.kinds import is_whole, need_rule
-from hollowrise.reach import levels_behind
-from hollowrise.sweeps import all_by, how_many_by, number_by, of_number, steps_of, sums_by
-from hollowrise.targets import need_target, rising_to, stands, sunk
-from hollowrise.webs import ends_of, is_side, is_tie, knots_among, web_of
+from hollowrise.sweeps import all_by, number_by, of_number, steps_of, sums_by
+from hollowrise.targets import need_target
+from hollowrise.webs import knots_by, knots_numbered, web_of
 
 MOST_PAIRINGS = 4096
+# Numbers up to this one are multiplied as they are, and divided by what they share at the end.
+SHORT = 10 ** 30
 
 
 def is_pairing(field, target, thing):
@@ -30,7 +32,7 @@ def need_pairing(field, target, pairing):
 def how_many(field, target):
     """How many PAIRINGS there are."""
     need_target(field, target)
-    return how_many_by(web_steps(field[0], target))
+    return many_of(field[0], target)
 
 
 def pairings(field, target):
@@ -42,12 +44,11 @@ def pairings(field, target):
 def nth_pairing(field, target, number):
     """The PAIRING of a number; BadPairing(None), TooGreat."""
     need_target(field, target)
-    steps = web_steps(field[0], target)
-    many = how_many_by(steps)
+    many = many_of(field[0], target)
     if not is_whole(number) or not 0 <= number < many:
         raise BadPairing(None)
     _need_few(many)
-    return of_number(steps, number)
+    return of_number(web_steps(field[0], target), number)
 
 
 def number_of(field, target, pairing):
@@ -89,9 +90,13 @@ def web_steps(heights, target):
 
 def few_steps(heights, target):
     """As web_steps; TooGreat of more PAIRINGS than are gone through."""
-    steps = web_steps(heights, target)
-    _need_few(how_many_by(steps))
-    return steps
+    _need_few(many_of(heights, target))
+    return web_steps(heights, target)
+
+
+def many_of(heights, target):
+    """As how_many, of good HEIGHTS and a good TARGET."""
+    return many_risen(heights, target, levels_to(heights, target))
 
 
 def _need_few(many):
@@ -109,19 +114,17 @@ def need_pairing_on(heights, target, thing):
     """As need_pairing, of good HEIGHTS and a good TARGET."""
     if type(thing) is not tuple:
         raise BadPairing(None)
-    ties = {tie: True for tie in web_of(heights, target)}
     paired = {}
     ahead = ()
     for number, tie in enumerate(thing):
-        # What is no TIE by its form needn't have an order, nor be a key.
-        if not is_tie(heights, tie) or tie not in ties or tie <= ahead:
+        # What is no TIE needn't have an order.
+        knots = knots_numbered(heights, target, tie)
+        if knots is None or tie <= ahead or knots[0] in paired or knots[1] in paired:
             raise BadPairing(number)
-        for knot in ends_of(heights, tie):
-            if knot in paired:
-                raise BadPairing(number)
-            paired[knot] = True
+        paired[knots[0]] = True
+        paired[knots[1]] = True
         ahead = tie
-    if len(paired) < len(knots_among(heights, ties)):
+    if len(paired) < len(knots_by(heights, target)):
         raise BadPairing(len(thing))
 
 
@@ -129,16 +132,25 @@ def bare_powers(heights, target):
     """(SPOT, the POWER that it would have without any TIE paired) of all SPOTS that may have one, rising."""
     if stands(heights, target):
         return ((target[:2], 1),)
-    many = {}
-    for tie in web_of(heights, target):
-        for spot in tie:
-            many[spot] = many.get(spot, 0) + 1
-    return tuple([(spot, (many[spot] + 1) // 2 - _is_sunk(heights, target, spot)) for spot in sorted(many)])
-
-
-def _is_sunk(heights, target, spot):
-    """1 of a CLOSED SPOT, 0 of another one."""
-    return 1 if sunk(heights, target, spot) > 0 else 0
+    bare = {}
+    for x, y in cone_of(heights, target):
+        south, row, north = heights[y - 1:y + 2]
+        height = row[x]
+        legs = 0
+        # By 61: of four SIDES there come 1, of each two LEGS one more; each of these to a SPOT across that is as high.
+        if south[x - 1] == height and south[x] != row[x - 1]:
+            legs += 1
+        if south[x + 1] == height and south[x] != row[x + 1]:
+            legs += 1
+        if north[x - 1] == height and north[x] != row[x - 1]:
+            legs += 1
+        if north[x + 1] == height and north[x] != row[x + 1]:
+            legs += 1
+        bare[(x, y)] = 1 + legs // 2
+        # An OPEN SPOT has 1 where it has TIES: those it has to a CLOSED NEIGHBOUR, and a LEG just beside such a one.
+        for near in ((x - 1, y), (x, y - 1), (x, y + 1), (x + 1, y)):
+            bare[near] = bare.get(near, 1)
+    return tuple(sorted(bare.items()))
 
 
 def powers_by(bare, pairing):
@@ -153,34 +165,52 @@ def powers_by(bare, pairing):
 
 def counts_by(pairing):
     """As rule_counts, of a good PAIRING."""
-    sides = [tie for tie in pairing if is_side(tie)]
-    # Between SPOTS above one another: these have one X.
-    upright = [tie for tie in sides if tie[0][0] == tie[1][0]]
-    return (len(upright) // 2, (len(sides) - len(upright)) // 2)
+    upright = 0
+    level = 0
+    for (x, y), (a, b) in pairing:
+        if x == a:
+            upright += 1
+        elif y == b:
+            level += 1
+    # Between SPOTS above one another: these bring A.
+    return (upright // 2, level // 2)
 
 
 def worth_by(field, powers, counts, rule):
     """The WORTH of a PAIRING with these POWERS that brings A and B so often."""
+    worths = field[1]
     a, b = rule
-    often_a, often_b = counts
-    worth = times(power((a, 1), often_a), power((b, 1), often_b))
-    for spot, often in powers:
-        worth = times(worth, power(at(field[1], spot), often))
+    above = power((a, 1), counts[0])[0] * power((b, 1), counts[1])[0]
+    below = 1
+    longs = []
+    for (x, y), often in powers:
+        one, other = worths[y][x]
+        if other > SHORT or one > SHORT or one < -SHORT:
+            longs.append(power((one, other), often))
+            continue
+        if often < 0:
+            one, other = other, one
+        # By 31 it is no more than 3.
+        for _ in range(abs(often)):
+            above = above * one
+            below = below * other
+    worth = fraction(above, below)
+    # Long numbers are kept short by what they share on the way.
+    for one in longs:
+        worth = times(worth, one)
     return worth
 
 
 def sum_of_pairings(field, target, rule):
     """As worth_by_pairings, of a good FIELD, TARGET and RULE."""
-    steps = few_steps(field[0], target)
-    try:
-        # By T3 it is the same, and that takes less long.
-        return levels_behind(field, rising_to(field[0], target), rule)[target]
-    except Nought:
-        return _sum_by_steps(field, target, steps, rule)
-
-
-def _sum_by_steps(field, target, steps, rule):
-    """The sum of T3 by the TIES."""
+    heights, worths = field
+    levels = levels_to(heights, target)
+    _need_few(many_risen(heights, target, levels))
+    # By T3 the WORTH AT the TARGET is the same, and takes less long; but there may be a 0 on the way to it.
+    told = worths_risen(worths, levels, rule)
+    if told is not None:
+        return told[0][target[1]][target[0]]
+    steps = web_steps(heights, target)
     bare, brought = by_ties(field, target, steps, rule)
     return times(bare, sums_by(steps, brought, (), rule)[0])
 

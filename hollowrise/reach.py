@@ -2,7 +2,7 @@
 
 from hollowrise.deeds import need_movable, worth_behind
 from hollowrise.errors import BadRow, BadTarget, Gone, Nought
-from hollowrise.fields import around, at, is_spot, need_field, need_spot, rim_of, sides, spots_of, way, with_at
+from hollowrise.fields import around, at, is_spot, need_field, need_spot, sides, spots_of, way, with_at
 from hollowrise.heights import rows_by, span_at
 from hollowrise.kinds import is_whole, need_rule
 from hollowrise.rows import first_row_of, heights_behind, is_deed, other_way, spot_of, step_of
@@ -12,7 +12,7 @@ def span(field, spot):
     """(LOWEST, HIGHEST) of the FIELD's RIM at a SPOT."""
     need_field(field)
     need_spot(spot, sides(field[0]))
-    return _span_of(field[0], spot)
+    return span_at(field[0], spot)
 
 
 def need_height(field, x, y, height):
@@ -35,7 +35,7 @@ def worths_at(field, spot, *, rule=(1, 1)):
     need_field(field)
     need_spot(spot, sides(field[0]))
     need_rule(rule)
-    low, high = _span_of(field[0], spot)
+    low, high = span_at(field[0], spot)
     held = Held(field, rule=rule)
     return tuple([(height, _worth_or_none(held, spot, height)) for height in range(low, high + 1, 2)])
 
@@ -116,16 +116,11 @@ class Held:
         return worth
 
 
-def _span_of(heights, spot):
-    """As span, of good HEIGHTS and a good SPOT."""
-    return span_at(heights, rim_of(sides(heights)), spot)
-
-
 def _need_height_of(heights, x, y, height):
     """As need_height, of good HEIGHTS."""
     if not is_spot((x, y), sides(heights)) or not is_whole(height):
         raise BadTarget("this is no spot with a height")
-    low, high = _span_of(heights, (x, y))
+    low, high = span_at(heights, (x, y))
     if not low <= height <= high or (height - low) % 2 == 1:
         raise BadTarget("this spot can't be brought to this height")
 

@@ -1,12 +1,13 @@
 """A HOLLOW RAISED: which PAIRINGS ahead and behind BELONG together."""
 
+from hollowrise.cones import sunk
 from hollowrise.deeds import UP, moved, need_movable
 from hollowrise.errors import BadPaper, BadTarget
 from hollowrise.fields import at, need_spot, sides, with_at
 from hollowrise.kinds import is_whole, need_rule
 from hollowrise.pairings import need_pairing_on, pairings_of
-from hollowrise.targets import need_target, sunk
-from hollowrise.turns import at_ties, corners_taken, with_rest, without
+from hollowrise.targets import need_target
+from hollowrise.turns import at_ties, corners_taken, turned, without
 
 # How deep numbers stand in a GROUP: AHEAD or BEHIND, PAIRING, TIE, SPOT, number.
 DEEP = 5
@@ -35,21 +36,21 @@ def taken(field, target, spot, pairing, *, raised=False):
     """The CORNERS TAKEN of a PAIRING ahead, or of one behind, rising."""
     heights = _heights_of(field, target, spot, raised)
     need_pairing_on(heights, target, pairing)
-    return corners_taken(heights, spot, pairing)
+    return corners_taken(spot, pairing)
 
 
 def gone_over(field, target, spot, pairing):
     """The PAIRINGS behind that BELONG to one ahead, rising."""
     ahead, behind = _both_heights(field, target, spot)
     need_pairing_on(ahead, target, pairing)
-    return tuple(with_rest(behind, target, spot, without(pairing, at_ties(ahead, target, spot))))
+    return turned(ahead, behind, target, spot, pairing)
 
 
 def come_from(field, target, spot, pairing):
     """The PAIRINGS ahead that BELONG to one behind, rising."""
     ahead, behind = _both_heights(field, target, spot)
     need_pairing_on(behind, target, pairing)
-    return tuple(with_rest(ahead, target, spot, without(pairing, at_ties(behind, target, spot))))
+    return turned(behind, ahead, target, spot, pairing)
 
 
 def groups(field, target, spot):

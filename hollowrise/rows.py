@@ -130,8 +130,9 @@ def first_row_of(one, other):
     heights = [list(row) for row in one]
     # All FEWEST ROWS are as long, and each DEED that brings nearer begins one: the least one begins the first. There is
     # one that goes down as long as a SPOT stands higher than at last.
-    downs = _first_deeds(heights, other, "down")
-    return tuple(downs + _first_deeds(heights, other, "up"))
+    spots = inner_of(sides(other))
+    downs = first_deeds(heights, other, "down", [(x, y) for x, y in spots if one[y][x] > other[y][x]])
+    return tuple(downs + first_deeds(heights, other, "up", [(x, y) for x, y in spots if one[y][x] < other[y][x]]))
 
 
 def as_lists(field):
@@ -140,23 +141,29 @@ def as_lists(field):
     return ([list(row) for row in heights], [list(row) for row in worths])
 
 
-def _first_deeds(heights, last, word):
-    """The DEEDS of one word that bring SPOTS to their last height, always the first; done at lists of heights."""
+def first_deeds(heights, last, word, left):
+    """The DEEDS of one word that bring the SPOTS that are left, rising, to their last height, always the first.
+
+    They are done at lists of heights; the list of what is left is used up.
+    """
     step = step_of((word, 0, 0))
-    left = [spot for spot in inner_of(sides(last)) if (at(last, spot) - at(heights, spot)) * step > 0]
     deeds = []
     number = 0
     while left:
         x, y = left[number]
-        if not is_movable(heights, (x, y), step):
+        row = heights[y]
+        height = row[x] + step
+        # As is_movable: to call that for each SPOT takes longer than all else here.
+        if row[x - 1] != height or row[x + 1] != height or heights[y - 1][x] != height or heights[y + 1][x] != height:
             number += 1
             continue
         deeds.append((word, x, y))
-        heights[y][x] += 2 * step
-        if heights[y][x] == last[y][x]:
+        row[x] = height + step
+        if row[x] == last[y][x]:
             del left[number]
         # Of those ahead that couldn't go just its NEIGHBOURS may have come to.
-        while number > 0 and left[number - 1] >= (x - 1, y):
+        near = (x - 1, y)
+        while number > 0 and left[number - 1] >= near:
             number -= 1
     return deeds
 

@@ -5,24 +5,26 @@ of two. What PAIRINGS go on with from one state is the same for all that come to
 """
 
 from hollowrise.fractions import plus, so_many, times
-from hollowrise.webs import ends_of, is_side
+from hollowrise.webs import ends_numbered, is_side
 
 
 def steps_of(heights, ties):
     """For each TIE of a WEB (TIE, both its KNOTS, those of them to which no TIE comes behind it), KNOTS as bits."""
     bits = {}
     last = {}
-    for tie in ties:
-        for knot in ends_of(heights, tie):
+    ends = []
+    for number, tie in enumerate(ties):
+        one, other = ends_numbered(heights, tie)
+        ends.append((one, other))
+        for knot in (one, other):
             bits[knot] = bits.get(knot, 1 << len(bits))
-            last[knot] = tie
-    return [(tie,) + _bits_of(tie, ends_of(heights, tie), bits, last) for tie in ties]
-
-
-def _bits_of(tie, knots, bits, last):
-    """(Both KNOTS, those for which this TIE is the last one)."""
-    both = sum([bits[knot] for knot in knots])
-    return (both, sum([bits[knot] for knot in knots if last[knot] == tie]))
+            last[knot] = number
+    steps = []
+    for number, tie in enumerate(ties):
+        one, other = ends[number]
+        gone = (bits[one] if last[one] == number else 0) | (bits[other] if last[other] == number else 0)
+        steps.append((tie, bits[one] | bits[other], gone))
+    return steps
 
 
 def gone_on(state, step, paired):
@@ -51,12 +53,6 @@ def ways_to(steps):
         reached = behind
         told.append(reached)
     return told
-
-
-def how_many_by(steps):
-    """How many PAIRINGS there are."""
-    # All KNOTS are paired at the end, so there is one state, the empty one, or there is none.
-    return ways_to(steps)[-1].get(0, 0)
 
 
 def ways_on(steps):

@@ -1,10 +1,10 @@
 """TARGETS of a FIELD, the SPOTS that are CLOSED or OPEN for them, and the way there."""
 
+from hollowrise.cones import cone_of, heights_of_target, levels_to, lists_of_target, sunk, worths_risen
 from hollowrise.errors import BadTarget
-from hollowrise.fields import at, inner_of, is_spot, need_field, need_spot, rim_of, sides, way
-from hollowrise.heights import rows_by
-from hollowrise.kinds import is_tuple_of, is_whole, need_rule
-from hollowrise.rows import done_by, first_row_of
+from hollowrise.fields import need_field, need_spot, sides
+from hollowrise.kinds import need_rule
+from hollowrise.rows import done_by, first_deeds
 
 
 def need_target(field, target):
@@ -33,7 +33,12 @@ def field_of(field, target, *, rule=(1, 1)):
     """The FIELD OF A TARGET; refused as led is."""
     need_target(field, target)
     need_rule(rule)
-    return done_by(field, rising_to(field[0], target), rule)
+    heights, worths = field
+    told = worths_risen(worths, levels_to(heights, target), rule)
+    if told is None:
+        # By this it is refused at the first of its DEEDS for which that is due.
+        return done_by(field, rising_to(heights, target), rule)
+    return (heights_of_target(heights, target), tuple([tuple(line) for line in told[0]]))
 
 
 def first_rising(field, target):
@@ -44,40 +49,28 @@ def first_rising(field, target):
 
 def need_target_on(heights, thing):
     """None, or BadTarget of anything that is no TARGET of good HEIGHTS."""
-    if not is_tuple_of(thing, 3) or not is_whole(thing[2]) or not is_spot(thing[:2], sides(heights)):
+    if type(thing) is not tuple or len(thing) != 3:
         raise BadTarget("this is no spot with a height")
     x, y, top = thing
-    if (x + y + top) % 2 == 1 or top < at(heights, (x, y)):
+    if type(x) is not int or type(y) is not int or type(top) is not int:
+        raise BadTarget("this is no spot with a height")
+    if not 0 <= y < len(heights) or not 0 <= x < len(heights[0]):
+        raise BadTarget("this is no spot of the field")
+    row = heights[y]
+    if top < row[x] or (top - row[x]) % 2 == 1:
         raise BadTarget("this spot can't be raised to this height")
-    for edge in rim_of(sides(heights)):
-        if top > at(heights, edge) + way((x, y), edge):
-            raise BadTarget("this spot can't be raised as high as this")
-
-
-def sunk(heights, target, spot):
-    """How much a SPOT stands beneath its height in the FIELD OF A TARGET: above 0 where it is CLOSED, 0 where OPEN."""
-    x, y, top = target
-    return top - at(heights, spot) - way((x, y), spot)
-
-
-def stands(heights, target):
-    """True of a TARGET that stands on the FIELD: no SPOT is CLOSED for it."""
-    return sunk(heights, target, target[:2]) == 0
-
-
-def cone_of(heights, target):
-    """As cone, of good HEIGHTS and a good TARGET."""
-    return tuple([spot for spot in inner_of(sides(heights)) if sunk(heights, target, spot) > 0])
-
-
-def heights_of_target(heights, target):
-    """The HEIGHTS of the FIELD OF A TARGET."""
-    return rows_by(sides(heights), lambda spot: at(heights, spot) + max(sunk(heights, target, spot), 0))
+    # No SPOT of the RIM sets a closer bound than one of the four that are in line with this one.
+    if top > row[0] + x or top > row[-1] + len(row) - 1 - x:
+        raise BadTarget("this spot can't be raised as high as this")
+    if top > heights[0][x] + y or top > heights[-1][x] + len(heights) - 1 - y:
+        raise BadTarget("this spot can't be raised as high as this")
 
 
 def rising_to(heights, target):
     """As first_rising, of good HEIGHTS and a good TARGET."""
-    return first_row_of(heights, heights_of_target(heights, target))
+    # As many of these are RAISED as are CLOSED, and to these heights; the others stay.
+    reached = [list(row) for row in heights]
+    return tuple(first_deeds(reached, lists_of_target(heights, target), "up", list(cone_of(heights, target))))
 
 
 def _sunk_at(field, target, spot):

@@ -206,9 +206,8 @@ def _can_stand_on(heights, row, high):
 
 def _target_in(heights, line):
     """The TARGET of a PAIRING's first line; BadText."""
+    # Where the line isn't written so this is None, no TARGET either.
     target = _numbers_behind(line, "target", 3)
-    if target is None:
-        raise BadText(1)
     try:
         need_target_on(heights, target)
     except BadTarget:

@@ -1,17 +1,55 @@
-"""What of PAIRINGS changes where a HOLLOW is RAISED, or a PEAK LOWERED: the TIES AT it, all others stay."""
+"""What of PAIRINGS changes where a HOLLOW is RAISED, or a PEAK LOWERED: the TIES AT it, all others stay.
 
-from hollowrise.fields import around
-from hollowrise.targets import sunk
-from hollowrise.webs import ends_of, is_leg, tie_of
+By 42 a CORNER of the SPOT is TAKEN behind just where it wasn't ahead, and the LEG at a CORNER that isn't TAKEN is in
+the PAIRING where the WEB has one. CORNERS are bits here, some of them together a number.
+"""
+
+from hollowrise.cones import sunk
+
+SOUTH_WEST = 1
+SOUTH_EAST = 2
+NORTH_WEST = 4
+NORTH_EAST = 8
+ALL = 15
+
+
+def sides_at(spot):
+    """The four SIDES at an INNER SPOT, rising, each with the CORNERS at which it ends."""
+    x, y = spot
+    return (
+        (((x - 1, y), spot), SOUTH_WEST | NORTH_WEST),
+        (((x, y - 1), spot), SOUTH_WEST | SOUTH_EAST),
+        ((spot, (x, y + 1)), NORTH_WEST | NORTH_EAST),
+        ((spot, (x + 1, y)), SOUTH_EAST | NORTH_EAST),
+    )
+
+
+def legs_at(heights, target, spot):
+    """The LEGS of the WEB between two of a HOLLOW's or a PEAK's NEIGHBOURS, rising, each with its CORNER."""
+    x, y = spot
+    west, south, north, east = (x - 1, y), (x, y - 1), (x, y + 1), (x + 1, y)
+    height = heights[y][x]
+    found = []
+    # The NEIGHBOURS are all as high, so there is a LEG where the SPOT across isn't as high as this one.
+    if heights[y - 1][x - 1] != height:
+        found.append(((west, south), SOUTH_WEST))
+    if heights[y + 1][x - 1] != height:
+        found.append(((west, north), NORTH_WEST))
+    if heights[y - 1][x + 1] != height:
+        found.append(((south, east), SOUTH_EAST))
+    if heights[y + 1][x + 1] != height:
+        found.append(((north, east), NORTH_EAST))
+    return [leg for leg in found if _lies_at_closed(heights, target, leg[0])]
 
 
 def at_ties(heights, target, spot):
     """The TIES AT a HOLLOW or a PEAK, of the WEB that these HEIGHTS tell, rising."""
-    west, south, north, east = around(spot)
-    sides = [tie_of(spot, near) for near in around(spot)]
-    beside = [(west, south), (west, north), (south, east), (north, east)]
-    legs = [tie_of(one, other) for one, other in beside if is_leg(heights, one, other)]
-    return tuple(sorted([tie for tie in sides + legs if _lies_at_closed(heights, target, tie)]))
+    ties = [tie for tie, _ in legs_at(heights, target, spot)]
+    if sunk(heights, target, spot) > 0:
+        ties = ties + [tie for tie, _ in sides_at(spot)]
+    else:
+        ties = ties + [tie for tie, _ in sides_at(spot) if _lies_at_closed(heights, target, tie)]
+    return tuple(sorted(ties))
 
 
 def _lies_at_closed(heights, target, tie):
@@ -25,47 +63,38 @@ def without(pairing, ties):
     return tuple([tie for tie in pairing if tie not in ties])
 
 
-def corners_taken(heights, spot, pairing):
-    """The CORNERS TAKEN at a SPOT, rising."""
-    corners = {}
-    for near in around(spot):
-        tie = tie_of(spot, near)
+def taken_by(spot, pairing):
+    """The CORNERS TAKEN at a SPOT, as a number."""
+    corners = 0
+    for tie, ends in sides_at(spot):
         if tie in pairing:
-            for x, y, _ in ends_of(heights, tie):
-                corners[(x, y)] = True
-    return tuple(sorted(corners))
+            corners = corners | ends
+    return corners
 
 
-def with_rest(heights, target, spot, rest):
-    """All PAIRINGS, by these HEIGHTS, that have this REST at a HOLLOW or a PEAK, rising.
+def corners_taken(spot, pairing):
+    """The CORNERS TAKEN at a SPOT, rising."""
+    x, y = spot
+    places = ((SOUTH_WEST, (x - 1, y - 1)), (NORTH_WEST, (x - 1, y)), (SOUTH_EAST, (x, y - 1)), (NORTH_EAST, (x, y)))
+    corners = taken_by(spot, pairing)
+    return tuple([place for bit, place in places if corners & bit != 0])
 
-    Of the REST just the TIES near the SPOT matter, so it may be told without others: these lack in each PAIRING then.
+
+def ways_behind(heights, target, spot, ahead):
+    """The TIES AT a SPOT that PAIRINGS have behind, by the CORNERS TAKEN ahead: a list, or two of them.
+
+    Of two the first has the SIDES to north and south.
     """
-    ties = {tie: ends_of(heights, tie) for tie in at_ties(heights, target, spot)}
-    left = {}
-    for tie in ties:
-        for knot in ties[tie]:
-            left[knot] = True
-    for tie in rest:
-        if is_near(spot, tie[0]) and is_near(spot, tie[1]):
-            for knot in ends_of(heights, tie):
-                left.pop(knot, None)
-    return sorted([tuple(sorted(rest + chosen)) for chosen in _chosen(ties, sorted(left))])
+    left = ALL ^ ahead
+    legs = [tie for tie, corner in legs_at(heights, target, spot) if corner & left == 0]
+    west, south, north, east = sides_at(spot)
+    if left == ALL:
+        return [[south[0], north[0]], [west[0], east[0]]]
+    return [legs + [tie for tie, ends in (west, south, north, east) if ends == left]]
 
 
-def is_near(spot, other):
-    """True of two SPOTS that are at most one apart in X, and in Y."""
-    return abs(spot[0] - other[0]) <= 1 and abs(spot[1] - other[1]) <= 1
-
-
-def _chosen(ties, left):
-    """All choices of TIES by which just those KNOTS that are left are paired, each once."""
-    if len(left) == 0:
-        return [()]
-    found = []
-    for tie in ties:
-        one, other = ties[tie]
-        if left[0] in (one, other) and one in left and other in left:
-            behind = [knot for knot in left if knot not in (one, other)]
-            found = found + [(tie,) + rest for rest in _chosen(ties, behind)]
-    return found
+def turned(ahead, behind, target, spot, pairing):
+    """The PAIRINGS, rising, by the HEIGHTS behind that BELONG to one by those ahead, where a SPOT goes UP or DOWN."""
+    rest = without(pairing, at_ties(ahead, target, spot))
+    ways = ways_behind(behind, target, spot, taken_by(spot, pairing))
+    return tuple(sorted([tuple(sorted(rest + tuple(ties))) for ties in ways]))

@@ -99,7 +99,7 @@ def how_many_boxes(field, target):
     """How many BOXES of all PAIRINGS there are: a number for each way by which one is come to."""
     bits = bits_for(field[0], target)
     found = {0: 1}
-    for stage in stages_of(field, target, bits, (1, 1)):
+    for stage, _ in stages_of(field[0], target, bits):
         behind = {}
         for number, many in found.items():
             for other in stage.ways(number):

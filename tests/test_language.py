@@ -244,8 +244,14 @@ def functions_of(path):
 class Iteration(unittest.TestCase):
     """L7, L23, L24, L25, since a class compares and has a length."""
 
-    def test_no_generators_no_sets_no_powers(self):
-        barred = (ast.GeneratorExp, ast.Yield, ast.YieldFrom, ast.Set, ast.SetComp, ast.Pow, ast.Global, ast.Match)
+    def test_exponents_are_small_literals(self):
+        for path in FILES:
+            for node in nodes_of(path, ast.BinOp):
+                if isinstance(node.op, ast.Pow):
+                    self.assertIn(ast.literal_eval(node.right), range(65), (path.name, node.lineno))
+
+    def test_no_generators_no_sets(self):
+        barred = (ast.GeneratorExp, ast.Yield, ast.YieldFrom, ast.Set, ast.SetComp, ast.Global, ast.Match)
         for path in FILES:
             self.assertEqual(nodes_of(path, barred), [], path.name)
             for node in nodes_of(path, ast.Call):

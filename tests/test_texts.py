@@ -180,6 +180,10 @@ class Fields(unittest.TestCase):
         self.assertEqual(line_of(field_in, "field 3 3\nheights -34 -35 -34\nheights -35 -36 -35\nheights -34 -35 -34"),
                          5)
         self.assertEqual(line_of(field_in, "field 2 3\nheights 34 35\nheights 35 36"), 3)
+        self.assertEqual(line_of(field_in, "field 5 3\nheights 34 35 36 35 34"), 2)
+        steep = "field 3 5\nheights 34 35 34\nheights 35 36 35\nheights "
+        self.assertEqual([line_of(field_in, steep + row) for row in ("36 35 34", "34 35 36", "34 37 34", "34 35 34")],
+                         [4, 4, 4, 5])
         self.assertEqual(line_of(field_in, "field 3 2\nheights 34 35 34\nheights 35 36 35"), 3)
         # Beyond 35 an INNER SPOT may stand.
         field = steep_field(5, 5, 34)
