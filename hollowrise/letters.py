@@ -2,16 +2,17 @@
 
 from hollowrise.cones import cone_of, stands, sunk
 from hollowrise.errors import BadPowers, BadSum, BadWeighing, TooGreat
-from hollowrise.fields import MOST_SIDE, at, is_spot, need_field, need_spot, sides
+from hollowrise.fields import MOST_SIDE, at, need_field, need_spot, sides
 from hollowrise.fractions import plus, power, so_many, times
 from hollowrise.kinds import is_tuple_of, is_whole, need_rule
 from hollowrise.pairings import bare_powers, counts_by, pairings_of, powers_by
+from hollowrise.products import MOST_POWER, multiplied
 from hollowrise.targets import need_target
 from hollowrise.webs import ties_by
 
 MOST_ROWS = 4096
 MOST_PRODUCTS = 16384
-MOST_POWER = 99
+LAST_PLACE = 120
 MOST_STEP = 3
 MOST_START = 9
 
@@ -38,22 +39,25 @@ def need_powers(thing):
     """None, or BadPowers(number) of anything that are no POWERS."""
     if type(thing) is not tuple:
         raise BadPowers(None)
-    ahead = ()
-    for number, pair in enumerate(thing):
-        if not _is_powers_pair(pair) or pair[0] <= ahead:
-            raise BadPowers(number)
-        ahead = pair[0]
+    number = _wrong_with(thing)
+    if number is not None:
+        raise BadPowers(number)
 
 
 def need_sum(thing):
     """None, or BadSum(number) of anything that is no SUM."""
     if type(thing) is not tuple:
         raise BadSum(None)
+    ahead = None
     for number, row in enumerate(thing):
-        if not is_tuple_of(row, 2) or not is_powers(row[0]) or not is_whole(row[1]) or row[1] == 0:
+        if type(row) is not tuple or len(row) != 2:
             raise BadSum(number)
-        if number > 0 and row[0] <= thing[number - 1][0]:
+        powers, many = row
+        if type(powers) is not tuple or type(many) is not int or many == 0 or _wrong_with(powers) is not None:
             raise BadSum(number)
+        if ahead is not None and powers <= ahead:
+            raise BadSum(number)
+        ahead = powers
 
 
 def sum_plus(one, other):
@@ -72,12 +76,7 @@ def sum_times(one, other):
     need_sum(other)
     if len(one) * len(other) > MOST_PRODUCTS:
         raise TooGreat(MOST_PRODUCTS)
-    numbers = {}
-    for powers, number in one:
-        for powers_other, number_other in other:
-            both = _powers_times(powers, powers_other)
-            numbers[both] = numbers.get(both, 0) + number * number_other
-    return _as_sum(numbers)
+    return multiplied(one, other, MOST_ROWS)
 
 
 def so_often(thing, number):
@@ -189,11 +188,29 @@ def closed_worth(field, target):
     return told
 
 
-def _is_powers_pair(thing):
-    """True of (SPOT, POWER), of anything."""
-    if not is_tuple_of(thing, 2) or not is_spot(thing[0], (MOST_SIDE, MOST_SIDE)) or not is_whole(thing[1]):
-        return False
-    return thing[1] != 0 and -MOST_POWER <= thing[1] <= MOST_POWER
+def _wrong_with(thing):
+    """The number of the first thing, of a tuple, by which it is no POWERS; None of POWERS."""
+    # Each row of a SUM that is handed in comes by here, so this calls nothing for each SPOT that it needn't.
+    ahead = -1
+    number = 0
+    for pair in thing:
+        if type(pair) is not tuple or len(pair) != 2:
+            return number
+        spot, often = pair
+        if type(spot) is not tuple or len(spot) != 2:
+            return number
+        x, y = spot
+        if type(x) is not int or type(y) is not int or type(often) is not int:
+            return number
+        # As SPOTS rise, so do these; where Y is right they are from 0 to the last one just where X is, too.
+        place = MOST_SIDE * x + y
+        if place <= ahead or place > LAST_PLACE or y < 0 or y >= MOST_SIDE:
+            return number
+        if often > MOST_POWER or often < -MOST_POWER or often == 0:
+            return number
+        ahead = place
+        number += 1
+    return None
 
 
 def _as_sum(numbers):
@@ -201,25 +218,14 @@ def _as_sum(numbers):
     told = tuple(sorted([(powers, number) for powers, number in numbers.items() if number != 0]))
     if len(told) > MOST_ROWS:
         raise TooGreat(MOST_ROWS)
-    for powers, _ in told:
-        for _, often in powers:
-            if abs(often) > MOST_POWER:
-                raise TooGreat(MOST_ROWS)
     return told
-
-
-def _powers_times(one, other):
-    """POWERS multiplied, perhaps with some beyond their bounds."""
-    often = {spot: many for spot, many in one}
-    for spot, many in other:
-        often[spot] = often.get(spot, 0) + many
-    return tuple([(spot, often[spot]) for spot in sorted(often) if often[spot] != 0])
 
 
 def _first_beyond(heights, powers):
     """The number of the first SPOT that isn't on the BOARD, None without."""
-    for number, (spot, _) in enumerate(powers):
-        if not is_spot(spot, sides(heights)):
+    wide, high = sides(heights)
+    for number, ((x, y), _) in enumerate(powers):
+        if x >= wide or y >= high:
             return number
     return None
 

@@ -129,8 +129,7 @@ def small_ones(great):
 
 def great_ones(small):
     """A rising list of all TABLES that MEET this one as the SMALL one; BadTable, also of one of 7 rows."""
-    if small != ():
-        need_table(small)
+    _need_small(small)
     size = len(small)
     if size == MOST_TABLE:
         raise BadTable(None)
@@ -219,8 +218,16 @@ def is_line(numbers):
 def _need_both(great, small):
     """None, or BadTable of what is no GREAT TABLE, then of what is no SMALL one, () where that is of 1 row."""
     need_table(great)
-    if len(great) != 1 or small != ():
+    if len(great) == 1:
+        _need_small(small)
+    else:
         need_table(small)
+
+
+def _need_small(thing):
+    """None, or BadTable(place) of anything that is no TABLE, nor ()."""
+    if type(thing) is not tuple or len(thing) > 0:
+        need_table(thing)
 
 
 def _sums_of(table):

@@ -114,3 +114,58 @@ def with_thing(rows, x, y, thing):
     """Rows, of tuples, with another thing at (X, Y)."""
     return tuple(tuple(thing if (x, y) == (a, b) else kept for a, kept in enumerate(row))
                  for b, row in enumerate(rows))
+
+
+class Claim(tuple):
+    """What says of itself that it is a tuple like any other."""
+    __class__ = tuple
+
+
+class ClaimedNumber(int):
+    """What says of itself that it is a whole number like any other."""
+    __class__ = int
+
+
+class ClaimedText(str):
+    """What says of itself that it is a text like any other."""
+    __class__ = str
+
+
+class Anything:
+    """What says that it is whatever it is held against."""
+    __class__ = tuple
+
+    def __init__(self, *parts):
+        self.parts = parts
+
+    def __eq__(self, other):
+        return True
+
+    def __hash__(self):
+        return hash(self.parts)
+
+    def __len__(self):
+        return len(self.parts)
+
+    def __iter__(self):
+        return iter(self.parts)
+
+    def __getitem__(self, at):
+        return self.parts[at]
+
+    def __lt__(self, other):
+        return False
+
+    __le__ = __gt__ = __ge__ = __lt__
+
+
+def claims(thing):
+    """Things that claim to be this one, of tuples within tuples of whole numbers and texts, and aren't."""
+    if type(thing) is str:
+        return [ClaimedText(thing), thing.encode()]
+    if type(thing) is int:
+        return [ClaimedNumber(thing), float(thing)] + ([bool(thing)] if thing in (0, 1) else [])
+    found = [Claim(thing), Anything(*thing), list(thing)]
+    for at, part in enumerate(thing):
+        found += [thing[:at] + (other,) + thing[at + 1:] for other in claims(part)]
+    return found

@@ -11,7 +11,7 @@ from hollowrise import (
 from hollowrise.errors import BadField, BadRule
 from hollowrise.heights import highest
 from tests.plain import ONE, outcome
-from tests.samples import flat_field, rows_by
+from tests.samples import claims, flat_field, rows_by
 from tests.test_deeds import HOLLOW, NO_RULES
 from tests.test_fields import NO_FIELDS
 from tests.test_heights import FEW
@@ -239,6 +239,13 @@ class Arguments(unittest.TestCase):
                 kept = copy.deepcopy(first)
                 first.clear()
                 self.assertEqual(function(**told), kept)
+
+    def test_what_claims_to_be_a_tuple_or_a_number_is_none(self):
+        for function, name, told in functions():
+            for key in OF_ANYTHING.get(name, told):
+                if type(told[key]) in (tuple, int, str) and name not in TELLING:
+                    for wrong in claims(told[key])[::1 if key != "field" else 17]:
+                        self.assertNotEqual(outcome(function, **{**told, key: wrong})[0], "told", (name, key, wrong))
 
     def test_true_and_false_are_no_whole_numbers(self):
         field = (flat_field(5, 5)[0], rows_by(5, 5, lambda x, y: ONE))

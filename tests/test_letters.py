@@ -1,5 +1,6 @@
 """hollowrise.letters: POWERS, SUMS, the SUM OF A TARGET, WEIGHTS."""
 
+import copy
 import itertools
 import random
 import unittest
@@ -17,7 +18,7 @@ from tests.plain import ONE, RULES, outcome, places_of
 from tests.plain_webs import (
     closed_by_hand, counts_by_hand, field_on, low_heights, open_by_hand, pair, pairings_by_hand, powers_by_hand,
     small_worths, some_targets, sum_by_hand, target_heights, targets_of, web_by_hand)
-from tests.samples import ODD_THINGS, SIXTY, flat_field, near_places, rows_by, worths_for
+from tests.samples import ODD_THINGS, SIXTY, claims, flat_field, near_places, rows_by, worths_for
 from tests.test_deeds import NO_RULES
 from tests.test_fields import NO_FIELDS, no_spots
 from tests.test_targets import no_targets
@@ -216,6 +217,54 @@ class Reckoning(unittest.TestCase):
         self.assertEqual(sum_times(one, one), (((), LONG * LONG), (((X, 1),), 2 * LONG * (LONG + 1)),
                                                (((X, 2),), (LONG + 1) ** 2)))
         self.assertEqual(sum_plus(one, one), so_often(one, 2))
+
+    def test_many_rows_by_chance(self):
+        spots = [(x, y) for x in range(11) for y in range(11)]
+        for number, (places, many, most) in enumerate(itertools.product(([X, Y, Z], spots[::40], spots), (3, 4, 12, 40),
+                                                                        (1, 49, 99))):
+            chance = random.Random(f"many {number}")
+            sums = []
+            for _ in range(2):
+                told = {}
+                for _ in range(many):
+                    taken = sorted(chance.sample(places, chance.randrange(min(len(places), 6) + 1)))
+                    key = tuple((spot, chance.choice([n for n in (1, -1, most, -most, most - 1) if n])) for spot in taken)
+                    told[key] = chance.choice([1, -1, 3, LONG])
+                sums.append(tuple(sorted(told.items())))
+            one, other = sums
+            by_hand = times_by_hand(one, other)
+            if all(abs(often) <= 99 for powers, _ in by_hand for _, often in powers):
+                kept = copy.deepcopy(sums)
+                self.assertEqual(sum_times(one, other), by_hand)
+                self.assertEqual(sums, kept)
+            else:
+                self.assertRaises(TooGreat, sum_times, one, other)
+
+    def test_all_powers_are_told_apart(self):
+        # Of one SPOT, and the next one, as far to either side as both together go.
+        for first, second in itertools.product((-99, -50, -1, 1, 49, 99), repeat=2):
+            one = tuple(sorted((((Y, often), (Z, first)), often + 200) for often in range(-49, 50) if often))
+            other = (((), 1), (((Y, second), (Z, -first)), -7)) if second in (-50, -1, 1, 49) else (((), 1),)
+            self.assertEqual(sum_times(one, other), times_by_hand(one, other))
+            self.assertEqual(sum_times(other, one), times_by_hand(one, other))
+
+    def test_what_cancels_is_left_out(self):
+        # (1 - X) times (1 + X + .. + X to 98): all but two rows come to 0.
+        one = (((), 1), (((X, 1),), -1))
+        other = (((), 1),) + tuple((((X, often),), 1) for often in range(1, 99))
+        self.assertEqual(sum_times(one, other), (((), 1), (((X, 99),), -1)))
+        self.assertEqual(sum_times(other, one), (((), 1), (((X, 99),), -1)))
+        self.assertRaises(TooGreat, sum_times, one, other + ((((X, 99),), 1),))
+
+    def test_what_claims_to_be_one(self):
+        one = ((((X, 1), (Y, -1)), 3), (((Z, 1),), -1))
+        for thing in claims(one):
+            self.assertIs(is_sum(thing), False)
+            for call in (lambda: sum_times(thing, ()), lambda: sum_plus((), thing), lambda: so_often(thing, 1)):
+                self.assertRaises(BadSum, call)
+        for thing in claims(one[0][0]):
+            self.assertIs(is_powers(thing), False)
+            self.assertRaises(BadPowers, need_powers, thing)
 
     def test_too_great_of_both_numbers_of_rows(self):
         self.assertEqual(len(sum_times(grid(16, 8), grid(16, 8))), 31 * 15)

@@ -17,8 +17,8 @@ from hollowrise.webs import ends, knots, web
 from tests.plain import ONE, RULES, bounds_at, outcome, places_of
 from tests.plain_webs import (
     closed_by_hand, counts_by_hand, field_on, low_heights, open_by_hand, pair, pairings_by_hand, powers_by_hand,
-    small_worths, some_targets, sum_by_hand, targets_of, worth_of_pairing)
-from tests.samples import ODD_THINGS, flat_field, rows_by, steep_field, worths_for
+    small_worths, some_targets, sum_by_hand, targets_of, web_by_hand, worth_of_pairing)
+from tests.samples import ODD_THINGS, claims, flat_field, rows_by, steep_field, worths_for
 from tests.test_deeds import NO_RULES
 from tests.test_fields import NO_FIELDS
 from tests.test_targets import no_targets
@@ -112,6 +112,47 @@ class NeedPairing(unittest.TestCase):
             self.check(FLAT, (2, 2, 0), (thing,), 0)
         # A good TIE of the FIELD, of another WEB.
         self.check(FLAT, (2, 2, 2), (one, ((2, 3), (3, 3))), 1)
+
+    def test_what_claims_to_be_one(self):
+        field = flat_field(7, 7)
+        for target in [(2, 2, 2), (3, 3, 4), (3, 2, 3)]:
+            pairing = pairings(field, target)[0]
+            for thing in claims(pairing):
+                self.assertIs(is_pairing(field, target, thing), False)
+            for number, tie in enumerate(pairing):
+                for thing in claims(tie):
+                    self.check(field, target, pairing[:number] + (thing,) + pairing[number + 1:], number)
+            for thing in claims(target):
+                self.assertRaises(BadTarget, need_pairing, field, thing, pairing)
+                self.assertRaises(BadTarget, is_pairing, field, thing, pairing)
+
+    def number_by_hand(self, heights, target, thing):
+        """As need_pairing tells it, of a tuple of TIES and of pairs of places that are none; None of a PAIRING."""
+        web = web_by_hand(heights, target)
+        ahead, paired = None, set()
+        for number, tie in enumerate(thing):
+            if tie not in web or ahead is not None and tie <= ahead or paired & set(web[tie]):
+                return number
+            ahead = tie
+            paired |= set(web[tie])
+        return None if paired == {knot for ends in web.values() for knot in ends} else len(thing)
+
+    def test_what_is_one_but_for_a_little(self):
+        chance = random.Random("a little")
+        for (heights, target), every in HAND.items():
+            field, web = field_on(heights), list(web_by_hand(heights, target))
+            others = web + [((x, y), (x + a, y + b)) for x, y in places_of(heights) for a, b in
+                            ((0, 1), (1, 0), (1, 1), (1, -1), (0, 0), (-1, 0), (2, 0), (1, 2))]
+            for _ in range(25):
+                thing = list(chance.choice(every))
+                for _ in range(chance.choice([1, 1, 2])):
+                    at = chance.randrange(len(thing) + 1)
+                    thing[at:at + chance.choice([0, 1])] = chance.sample(others, chance.choice([0, 1, 1]))
+                number = self.number_by_hand(heights, target, tuple(thing))
+                if number is None:
+                    self.assertIsNone(need_pairing(field, target, tuple(thing)))
+                else:
+                    self.check(field, target, tuple(thing), number)
 
     def test_not_above_the_one_ahead(self):
         for pairing in (LEVEL, UPRIGHT):

@@ -13,7 +13,8 @@ from tests.plain import (
     ONE, RULES, bounds_at, chance_field, deed_done, first_by_hand, is_inner, outcome, places_of, row_done, wander)
 from tests.plain_webs import (
     closed_by_hand, field_on, low_heights, open_by_hand, some_heights, target_heights, targets_of, top_at)
-from tests.samples import ODD_THINGS, SIZES, flat_field, random_field, random_heights, rows_by, steep_field, worths_for
+from tests.samples import (
+    ODD_THINGS, SIZES, claims, flat_field, random_field, random_heights, rows_by, steep_field, worths_for)
 from tests.test_deeds import NO_RULES
 from tests.test_fields import NO_FIELDS, no_spots
 
@@ -95,6 +96,12 @@ class NeedTarget(unittest.TestCase):
             self.assertGreater(len(wrong), 60)
             for call in calls(field):
                 for thing in wrong:
+                    self.assertRaises(BadTarget, call, thing)
+
+    def test_what_claims_to_be_one(self):
+        for field, target in [(FLAT, (2, 2, 2)), (FLAT, (1, 1, 0)), (FLAT, (0, 1, 1)), (flat_field(1, 1), (0, 0, 0))]:
+            for call in calls(field):
+                for thing in claims(target):
                     self.assertRaises(BadTarget, call, thing)
 
     def test_bad_field_ahead_of_all_else(self):
