@@ -34,15 +34,16 @@ NO_COINS = [thing for thing in ODD_THINGS if thing not in ((1, 2),)] + [
 
 
 def rising_worths(heights, seed):
-    """WORTHS above 0, broken and whole."""
+    """WORTHS above 0, broken and whole, of each fourth seed long ones."""
     chance = random.Random(f"rising {seed}")
+    above, below = (10 ** 40, 10 ** 25) if seed % 4 == 3 else (9, 5)
     return rows_by(len(heights[0]), len(heights),
-                   lambda x, y: pair(Fraction(chance.randrange(1, 9), chance.randrange(1, 5))))
+                   lambda x, y: pair(Fraction(chance.randrange(1, above), chance.randrange(1, below))))
 
 
 def some_fields():
     """(FIELD, TARGET, RULE), WORTHS above 0, GOOD RULES."""
-    return [((heights, rising_worths(heights, number)), target, GOOD[number % 4])
+    return [((heights, rising_worths(heights, number)), target, GOOD[number % 3])
             for number, (heights, target) in enumerate(some_targets())]
 
 

@@ -67,6 +67,18 @@ class NeedTarget(unittest.TestCase):
                         else:
                             self.assertRaises(BadTarget, need_target, field, (x, y, n))
 
+    def test_beyond_the_board(self):
+        # A slope in each direction, so that what stands across would do.
+        slopes = [rows_by(wide, high, lambda x, y: a * x + b * y) for a in (1, -1) for b in (1, -1)
+                  for wide, high in ((2, 2), (1, 4), (4, 1), (4, 5))]
+        for heights in slopes + [random_heights(4, 6, "beyond")]:
+            field = field_on(heights)
+            wide, high = len(heights[0]), len(heights)
+            for x, y in itertools.product(range(-2, wide + 2), range(-2, high + 2)):
+                if not (0 <= x < wide and 0 <= y < high):
+                    for n in range(-12, 13):
+                        self.assertRaises(BadTarget, need_target, field, (x, y, n))
+
     def test_on_the_rim_its_own_height_alone(self):
         for field in (random_field(4, 6, "rim"), steep_field(11, 11, 34), flat_field(1, 1), flat_field(2, 9)):
             for x, y in places_of(field[0]):
