@@ -34,7 +34,7 @@ NO_COINS = [thing for thing in ODD_THINGS if thing not in ((1, 2),)] + [
 
 
 def rising_worths(heights, seed):
-    """WORTHS above 0, broken and whole, of each fourth seed long ones."""
+    """WORTHS above 0, broken and whole, of each fourth number long ones."""
     chance = random.Random(f"rising {seed}")
     above, below = (10 ** 40, 10 ** 25) if seed % 4 == 3 else (9, 5)
     return rows_by(len(heights[0]), len(heights),
@@ -180,7 +180,7 @@ class Drawn(unittest.TestCase):
 
     def test_the_order_in_which_they_are_lowered(self):
         field = (low_heights(9, 9, "order", 20), None)
-        field = (field[0], rising_worths(field[0], "order"))
+        field = (field[0], rising_worths(field[0], 1))
         target = (4, 4, top_at(field[0], 4, 4))
         heights = target_heights(field[0], target)
         for x, y in [spot for spot, _ in story(field, target, ((1, 2),) * 200)]:
