@@ -38,6 +38,21 @@ def spots_by_rows(order):
     return [[(u, v) for u in range(abs(v) + 1 - order, order - abs(v))] for v in range(1 - order, order)]
 
 
+def cells_by_rows(floor):
+    """(The first SPOT, the southern cells, the northern cells) of each row of INNER SPOTS, from the south.
+
+    Each SPOT of the row lies between two cells to the south, and the two of the same places to the north.
+    """
+    order = len(floor) // 2
+    told = []
+    for row, v in enumerate(range(1 - order, order)):
+        # Of two rows that are unlike long the longer one has a cell more at each end.
+        south = floor[row] if v <= 0 else floor[row][1:-1]
+        north = floor[row + 1] if v >= 0 else floor[row + 1][1:-1]
+        told.append(((abs(v) + 1 - order, v), south, north))
+    return told
+
+
 def is_even(spot, order):
     """True of an EVEN SPOT (U, V)."""
     return (spot[0] + spot[1] + order) % 2 == 1

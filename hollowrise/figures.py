@@ -1,7 +1,7 @@
 """How many figures numbers have: what is too long is refused without being worked out first."""
 
 from hollowrise.errors import TooGreat
-from hollowrise.fractions import by, power, times
+from hollowrise.fractions import power, times
 
 MOST_FIGURES = 1000
 # The least number of a thousand and one figures is above 2 to this, and below 2 to one more.

@@ -1,7 +1,7 @@
 """FLOORS of small stones, the PAIRINGS of FLAT FIELDS that they are, FLIPS and LIFTS."""
 
 from hollowrise.diamonds import (
-    MOST_ORDER, half_of, is_even, need_floor, need_order, spots_by_rows, ways_on, words_of)
+    MOST_ORDER, cells_by_rows, half_of, is_even, need_floor, need_order, spots_by_rows, ways_on, words_of)
 from hollowrise.errors import BadFloor, BadLifts, BadOrder, NoFlip, TooGreat
 from hollowrise.fields import around
 from hollowrise.flats import order_of
@@ -123,10 +123,11 @@ def flips(floor):
     need_floor(floor)
     order = len(floor) // 2
     told = []
-    for row in spots_by_rows(order):
-        for spot in row:
-            stands = _stands_at(floor, spot)
+    for (u, v), south, north in cells_by_rows(floor):
+        for place in range(len(south) - 1):
+            stands = _do_stand(south[place:place + 2], north[place:place + 2])
             if stands is not None:
+                spot = (u + place, v)
                 # What lies at an EVEN SPOT comes to stand, what stands at an ODD one to lie.
                 told.append((spot, "fall" if stands == is_even(spot, order) else "rise"))
     return tuple(sorted(told))
@@ -138,15 +139,16 @@ def flipped(floor, spot):
     order = len(floor) // 2
     if not _is_inner(spot, order):
         raise NoFlip(spot)
-    stands = _stands_at(floor, spot)
-    if stands is None:
-        raise NoFlip(spot)
     u, v = spot
     row = v + order - 1
+    south = u - 1 + half_of(order, row)
+    north = u - 1 + half_of(order, row + 1)
+    stands = _do_stand(floor[row][south:south + 2], floor[row + 1][north:north + 2])
+    if stands is None:
+        raise NoFlip(spot)
     stones = ("ew", "ew") if stands else ("nn", "ss")
-    south = _with_two(floor[row], u - 1 + half_of(order, row), stones[0])
-    north = _with_two(floor[row + 1], u - 1 + half_of(order, row + 1), stones[1])
-    return floor[:row] + (south, north) + floor[row + 2:]
+    rows = (_with_two(floor[row], south, stones[0]), _with_two(floor[row + 1], north, stones[1]))
+    return floor[:row] + rows + floor[row + 2:]
 
 
 def lesser_floor(one, other):
@@ -193,15 +195,14 @@ def first_flips(one, other):
 
 
 def floor_powers(floor):
-    """Rows, as those of LIFTS, of the POWERS: one less for each stone that lies between two cells at the SPOT."""
+    """Rows, as those of LIFTS, of the POWERS: 1 less how many stones lie between two cells at the SPOT."""
     need_floor(floor)
-    order = len(floor) // 2
     told = []
-    for spots in spots_by_rows(order):
+    for _, south, north in cells_by_rows(floor):
         row = []
-        for spot in spots:
-            south, north = _four_at(floor, spot)
-            row.append(1 - (south[0] in "en") - (south[1] == "n") - (north[0] == "e"))
+        for place in range(len(south) - 1):
+            # To the west, or the south, of it lies one by the letter of its south-western cell, and so on.
+            row.append(1 - (south[place] in "en") - (south[place + 1] == "n") - (north[place] == "e"))
         told.append(tuple(row))
     return tuple(told)
 
@@ -252,16 +253,16 @@ def _lifts_of(floor):
     """As lifts_of, of a good FLOOR."""
     order = len(floor) // 2
     told = []
-    for v, text in zip(range(1 - order, order), floor):
-        inner = order - abs(v)
-        # North of the middle row the first cell and the last one have none to the north.
-        ahead = 0 if v <= 0 else 1
+    for spot, south, _ in cells_by_rows(floor):
+        # EVEN and ODD SPOTS come by turns.
+        step = 1 if is_even(spot, order) else -1
         row = []
         lift = 0
-        for u, letter in zip(range(1 - inner, inner), text[ahead:]):
+        for letter in south[:-1]:
             if letter == "n":
-                lift += 1 if is_even((u, v), order) else -1
+                lift += step
             row.append(lift)
+            step = -step
         told.append(tuple(row))
     return tuple(told)
 
@@ -304,32 +305,39 @@ def _need_lifts(thing):
     if type(thing) is not tuple or len(thing) % 2 == 0 or len(thing) > 2 * MOST_ORDER - 1:
         raise BadLifts(None)
     order = (len(thing) + 1) // 2
-    spots = spots_by_rows(order)
-    for row, line in zip(thing, spots):
-        if not is_tuple_of(row, len(line)):
+    for v, row in zip(range(1 - order, order), thing):
+        if not is_tuple_of(row, 2 * (order - abs(v)) - 1):
             raise BadLifts(None)
         for lift in row:
-            if not is_whole(lift):
+            if type(lift) is not int:
                 raise BadLifts(None)
-    for number, line in enumerate(spots):
-        for place, spot in enumerate(line):
-            if _is_at_odds(thing, number, place, is_even(spot, order)):
-                raise BadLifts(spot)
+    odd = _first_at_odds(thing)
+    if odd is not None:
+        number, place = odd
+        v = number + 1 - order
+        raise BadLifts((abs(v) + 1 - order + place, v))
 
 
-def _is_at_odds(lifts, number, place, even):
-    """True of a LIFT at odds with the one to the west, the one to the south, or with the 0 of what isn't INNER."""
-    row = lifts[number]
-    lift = row[place]
-    if place in (0, len(row) - 1) and lift not in (0, 1):
-        return True
-    if place > 0 and (lift - row[place - 1]) * (1 if even else -1) not in (0, 1):
-        return True
+def _first_at_odds(lifts):
+    """(Row, place in it) of the first LIFT at odds with that to the west or the south, or with a 0 that isn't INNER."""
     middle = len(lifts) // 2
-    if number > middle:
-        return lifts[number - 1][place + 1] - lift not in (0, 1)
-    # The row to the south is shorter here, by one to either side: it has none at the row's first SPOT and at its last.
-    return 0 < place < len(row) - 1 and lift - lifts[number - 1][place - 1] not in (0, 1)
+    for number, row in enumerate(lifts):
+        last = len(row) - 1
+        west = 0
+        for place, lift in enumerate(row):
+            # The first SPOT of a row is EVEN, and so is the last one.
+            beside = lift - west if place % 2 == 0 else west - lift
+            if number > middle:
+                below = lifts[number - 1][place + 1] - lift
+            elif 0 < place < last:
+                below = lift - lifts[number - 1][place - 1]
+            else:
+                # The row to the south is shorter, so that there stands a 0.
+                below = lift
+            if beside not in (0, 1) or below not in (0, 1) or place == last and lift not in (0, 1):
+                return (number, place)
+            west = lift
+    return None
 
 
 def _fits(lifts, spot, lift, order):
@@ -351,22 +359,11 @@ def _is_inner(thing, order):
     return abs(thing[0]) + abs(thing[1]) < order
 
 
-def _four_at(floor, spot):
-    """The letters of the four cells at an INNER SPOT: the two to the south, the two to the north."""
-    u, v = spot
-    order = len(floor) // 2
-    row = v + order - 1
-    south = u - 1 + half_of(order, row)
-    north = u - 1 + half_of(order, row + 1)
-    return (floor[row][south:south + 2], floor[row + 1][north:north + 2])
-
-
-def _stands_at(floor, spot):
-    """True where both stones of a FLIP stand, False where they lie, None where there can be none."""
-    four = _four_at(floor, spot)
-    if four == ("nn", "ss"):
+def _do_stand(south, north):
+    """True where both stones of a FLIP stand, False where they lie, None where there can be none, by the four cells."""
+    if south == "nn":
         return True
-    if four == ("ew", "ew"):
+    if south == "ew" == north:
         return False
     return None
 

@@ -1,5 +1,6 @@
 """The WORTHS of a SPOT at all heights that it can be brought to, and FIELDS that hold what was found of them."""
 
+from hollowrise.cones import levels_to, worths_risen
 from hollowrise.deeds import need_movable, worth_behind
 from hollowrise.errors import BadRow, BadTarget, Gone, Nought
 from hollowrise.fields import around, at, is_spot, need_field, need_spot, sides, spots_of, way, with_at
@@ -25,7 +26,11 @@ def worth_at(field, x, y, height, *, rule=(1, 1)):
     """The WORTH of a SPOT at a height; Nought where a DEED of the FIRST ROW there would come to 0."""
     need_height(field, x, y, height)
     need_rule(rule)
-    heights, _ = field
+    heights, worths = field
+    told = worths_risen(worths, _levels_at(heights, x, y, height), rule)
+    if told is not None:
+        return told[0][y][x]
+    # By this it is refused at the first of its DEEDS for which that is due.
     row = first_row_of(heights, _nearest(heights, (x, y), height))
     return levels_behind(field, row, rule)[(x, y, height)]
 
@@ -123,6 +128,13 @@ def _need_height_of(heights, x, y, height):
     low, high = span_at(heights, (x, y))
     if not low <= height <= high or (height - low) % 2 == 1:
         raise BadTarget("this spot can't be brought to this height")
+
+
+def _levels_at(heights, x, y, height):
+    """The levels by which a SPOT comes to a height; downwards by heights UPSIDE DOWN, as the rule is one both ways."""
+    if heights[y][x] <= height:
+        return levels_to(heights, (x, y, height))
+    return levels_to(tuple([tuple([-other for other in row]) for row in heights]), (x, y, -height))
 
 
 def _nearest(heights, spot, height):

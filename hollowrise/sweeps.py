@@ -27,67 +27,57 @@ def steps_of(heights, ties):
     return steps
 
 
-def gone_on(state, step, paired):
-    """The state behind a TIE that is paired, or isn't; None where that can't be."""
-    _, both, last = step
-    if paired:
-        if state & both != 0:
-            return None
-        state = state | both
-    if state & last != last:
-        return None
-    return state ^ last
+def links_of(steps):
+    """For each TIE a dict from the states ahead of it to (that behind where it is paired, that where it isn't).
 
-
-def ways_to(steps):
-    """A dict ahead of each TIE, and one behind the last: from each state to how many ways lead there."""
-    reached = {0: 1}
-    told = [reached]
-    for step in steps:
+    None stands where that can't be: a KNOT would be paired twice, or never.
+    """
+    told = []
+    reached = {0: True}
+    for _, both, last in steps:
+        links = {}
         behind = {}
-        for state, many in reached.items():
-            for paired in (True, False):
-                other = gone_on(state, step, paired)
-                if other is not None:
-                    behind[other] = behind.get(other, 0) + many
+        for state in reached:
+            paired = None
+            left = None
+            if state & both == 0 and (state | both) & last == last:
+                paired = (state | both) ^ last
+                behind[paired] = True
+            if state & last == last:
+                left = state ^ last
+                behind[left] = True
+            links[state] = (paired, left)
+        told.append(links)
         reached = behind
-        told.append(reached)
     return told
 
 
-def ways_on(steps):
-    """As ways_to, of all states from which ways lead on to the end: to how many these are."""
-    reached = ways_to(steps)
+def ways_on(links):
+    """A dict ahead of each TIE, and one behind the last: from each state to how many ways lead on to the end."""
     ahead = {0: 1}
     told = [ahead]
-    for number in reversed(range(len(steps))):
+    for states in links[::-1]:
         behind = ahead
         ahead = {}
-        for state in reached[number]:
-            many = _many_on(state, steps[number], behind, True) + _many_on(state, steps[number], behind, False)
+        for state, (paired, left) in states.items():
+            many = behind.get(paired, 0) + behind.get(left, 0)
             if many > 0:
                 ahead[state] = many
         told.append(ahead)
     return told[::-1]
 
 
-def _many_on(state, step, behind, paired):
-    """How many ways lead on where a TIE is paired, or isn't."""
-    return behind.get(gone_on(state, step, paired), 0)
-
-
 def all_by(steps):
     """A list of all PAIRINGS, rising."""
-    reached = ways_to(steps)
     ahead = {0: [()]}
+    links = links_of(steps)
     for number in reversed(range(len(steps))):
         behind = ahead
         ahead = {}
-        step = steps[number]
-        for state in reached[number]:
+        tie = steps[number][:1]
+        for state, (paired, left) in links[number].items():
             # All are of one length, so those that have the lesser TIE come first.
-            found = [step[:1] + rest for rest in behind.get(gone_on(state, step, True), [])]
-            found = found + behind.get(gone_on(state, step, False), [])
+            found = [tie + rest for rest in behind.get(paired, [])] + behind.get(left, [])
             if len(found) > 0:
                 ahead[state] = found
     return ahead[0]
@@ -95,31 +85,36 @@ def all_by(steps):
 
 def of_number(steps, number):
     """The PAIRING of a good number."""
-    told = ways_on(steps)
+    links = links_of(steps)
+    told = ways_on(links)
     pairing = []
     state = 0
-    for step, behind in zip(steps, told[1:]):
-        many = _many_on(state, step, behind, True)
-        paired = number < many
-        if paired:
+    for place, step in enumerate(steps):
+        paired, left = links[place][state]
+        many = told[place + 1].get(paired, 0)
+        if number < many:
             pairing.append(step[0])
+            state = paired
         else:
             number -= many
-        state = gone_on(state, step, paired)
+            state = left
     return tuple(pairing)
 
 
 def number_by(steps, pairing):
     """The number of a good PAIRING."""
-    told = ways_on(steps)
+    links = links_of(steps)
+    told = ways_on(links)
     ties = {tie: True for tie in pairing}
     number = 0
     state = 0
-    for step, behind in zip(steps, told[1:]):
-        paired = step[0] in ties
-        if not paired:
-            number += _many_on(state, step, behind, True)
-        state = gone_on(state, step, paired)
+    for place, step in enumerate(steps):
+        paired, left = links[place][state]
+        if step[0] in ties:
+            state = paired
+        else:
+            number += told[place + 1].get(paired, 0)
+            state = left
     return number
 
 
@@ -129,18 +124,16 @@ def sums_by(steps, worths, counted, rule):
     Each TIE brings a FRACTION, and by the SIDES there come As and Bs; all that one PAIRING's bring is multiplied.
     """
     reached = {(0, 0, 0, 0): (1, 1)}
-    for step in steps:
-        tie = step[0]
+    for (tie, _, _), links in zip(steps, links_of(steps)):
         more = 1 if tie in counted else 0
         behind = {}
         for (state, odd_a, odd_b, many), worth in reached.items():
-            other = gone_on(state, step, False)
-            if other is not None:
-                _put(behind, (other, odd_a, odd_b, many), worth)
-            other = gone_on(state, step, True)
-            if other is not None:
+            paired, left = links[state]
+            if left is not None:
+                _put(behind, (left, odd_a, odd_b, many), worth)
+            if paired is not None:
                 odds, worth = _with_tie(tie, (odd_a, odd_b), times(worth, worths[tie]), rule)
-                _put(behind, (other,) + odds + (many + more,), worth)
+                _put(behind, (paired,) + odds + (many + more,), worth)
         reached = behind
     # At the end all KNOTS are paired, and evenly many SIDES of either sort.
     return {many: reached[(0, 0, 0, many)] for _, _, _, many in sorted(reached)}
