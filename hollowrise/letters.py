@@ -12,6 +12,8 @@ from hollowrise.webs import ties_by
 
 MOST_ROWS = 4096
 MOST_PRODUCTS = 16384
+# Up to so many products it takes less long to multiply POWERS as they are.
+FEW = 9
 LAST_PLACE = 120
 MOST_STEP = 3
 MOST_START = 9
@@ -74,9 +76,22 @@ def sum_times(one, other):
     """Both SUMS multiplied; BadSum, TooGreat."""
     need_sum(one)
     need_sum(other)
-    if len(one) * len(other) > MOST_PRODUCTS:
+    many = len(one) * len(other)
+    if many > MOST_PRODUCTS:
         raise TooGreat(MOST_PRODUCTS)
-    return multiplied(one, other, MOST_ROWS)
+    if many > FEW:
+        return multiplied(one, other, MOST_ROWS)
+    numbers = {}
+    for powers, number in one:
+        for powers_other, number_other in other:
+            both = _powers_times(powers, powers_other)
+            numbers[both] = numbers.get(both, 0) + number * number_other
+    told = tuple(sorted([(powers, number) for powers, number in numbers.items() if number != 0]))
+    for powers, _ in told:
+        for _, often in powers:
+            if abs(often) > MOST_POWER:
+                raise TooGreat(MOST_ROWS)
+    return told
 
 
 def so_often(thing, number):
@@ -219,6 +234,14 @@ def _as_sum(numbers):
     if len(told) > MOST_ROWS:
         raise TooGreat(MOST_ROWS)
     return told
+
+
+def _powers_times(one, other):
+    """POWERS multiplied, perhaps with some beyond their bounds."""
+    often = {spot: many for spot, many in one}
+    for spot, many in other:
+        often[spot] = often.get(spot, 0) + many
+    return tuple([(spot, often[spot]) for spot in sorted(often) if often[spot] != 0])
 
 
 def _first_beyond(heights, powers):

@@ -8,8 +8,6 @@ from hollowrise.errors import TooGreat
 from hollowrise.fields import MOST_SIDE
 
 MOST_POWER = 99
-# Up to so many products it takes less long to multiply POWERS as they are.
-FEW = 9
 # Of two POWERS both together are no farther from 0 than 198, so that by so many bits all can be told apart.
 BITS = 9
 MIDDLE = 256
@@ -18,23 +16,6 @@ LOW = 511
 
 def multiplied(one, other, most):
     """Both good SUMS multiplied; TooGreat(most) of more rows, or of a POWER beyond 99 in a row that is left."""
-    if len(one) * len(other) > FEW:
-        return _many_multiplied(one, other, most)
-    numbers = {}
-    for powers, number in one:
-        for powers_other, number_other in other:
-            both = _powers_times(powers, powers_other)
-            numbers[both] = numbers.get(both, 0) + number * number_other
-    told = tuple(sorted([(powers, number) for powers, number in numbers.items() if number != 0]))
-    for powers, _ in told:
-        for _, often in powers:
-            if abs(often) > MOST_POWER:
-                raise TooGreat(most)
-    return told
-
-
-def _many_multiplied(one, other, most):
-    """As multiplied, of however many rows."""
     pairs = {}
     ones = [_letters_of(powers, pairs) for powers, _ in one]
     others = [_letters_of(powers, pairs) for powers, _ in other]
@@ -61,14 +42,6 @@ def _many_multiplied(one, other, most):
             raise TooGreat(most)
         rows.append((codes, numbers[both]))
     return tuple([(tuple([pairs[code] for code in codes]), number) for codes, number in sorted(rows)])
-
-
-def _powers_times(one, other):
-    """POWERS multiplied, perhaps with some beyond their bounds."""
-    often = {spot: many for spot, many in one}
-    for spot, many in other:
-        often[spot] = often.get(spot, 0) + many
-    return tuple([(spot, often[spot]) for spot in sorted(often) if often[spot] != 0])
 
 
 def _letters_of(powers, pairs):
